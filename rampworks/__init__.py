@@ -1,0 +1,1 @@
+"""Rampworks: which depth a network of ramps needs, told by shapes."""

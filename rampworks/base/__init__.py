@@ -1,0 +1,1 @@
+"""Rows of integers: their sums, lattices and determinants."""

@@ -1,0 +1,1 @@
+"""Lots of rows and their hulls: corners, sums, faces, volumes."""

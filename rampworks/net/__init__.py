@@ -1,0 +1,1 @@
+"""Networks of ramps, and the readings that tell their values."""
