@@ -93,7 +93,8 @@ class Parts(Case):
 
     def test_bounds_are_let(self):
         for network in (
-                zeros(8, ()), zeros(1, (64, 64)), zeros(8, (64, 1, 1, 62)), zeros(8, (32, 32, 32, 32)), zeros(1, (1,) * 4),
+                zeros(8, ()), zeros(1, (64, 64)), zeros(8, (64, 1, 1, 62)), zeros(8, (32, 32, 32, 32)),
+                zeros(1, (1,) * 4),
                 Network(1, (((SIXTY,), (-SIXTY,)),), (SIXTY, -SIXTY, 0))):
             self.told(0, value_of(network, (0,) * network.inputs))
             self.told(network, Network(network.inputs, network.layers, network.last))
@@ -359,7 +360,8 @@ class Errors(Case):
 
     def test_rows(self):
         for call in (value_of, unit_values, pattern_at, form_at):
-            for row in ((), (1,), (1, 2, 3), [1, 2], None, 5, "12", (1, True), (1, None), (1, SIXTY + 1), (-SIXTY - 1, 1)):
+            for row in (
+                    (), (1,), (1, 2, 3), [1, 2], None, 5, "12", (1, True), (1, None), (1, SIXTY + 1), (-SIXTY - 1, 1)):
                 self.fails(InvalidRow, call, LAMP, row)
 
     def test_numbers(self):

@@ -461,7 +461,8 @@ class Same(Case):
     def test_nothing_changes(self):
         one, other = (random_reading(self.source, 3, 5, 3) for _ in range(2))
         kept = tuple(tuple(tuple(row) for row in lot) for lot in one)
-        for call in (ramped_reading, network_of, lambda x: added_reading(x, other), lambda x: greater_reading(x, other)):
+        for call in (
+                ramped_reading, network_of, lambda x: added_reading(x, other), lambda x: greater_reading(x, other)):
             self.told(call(one), call(kept))
         self.told(kept, one)
         self.told(reading_of(LAMP), reading_of(Network(LAMP.inputs, LAMP.layers, LAMP.last)))

@@ -221,7 +221,8 @@ class Parts(Case):
 
     def test_judge_of_parts(self):
         rows, goal = ((2, 0, 0), (0, 3, 0)), (1, 1, 0)
-        for paper in (("parts", (3, 2), 6), ("parts", (30, 20), 60), ("parts", (3 * 10 ** 80, 2 * 10 ** 80), 6 * 10 ** 80)):
+        long = 10 ** 80
+        for paper in (("parts", (3, 2), 6), ("parts", (30, 20), 60), ("parts", (3 * long, 2 * long), 6 * long)):
             self.judges(lambda value: is_parts_or_form(rows, goal, value), paper)
             self.refuses_all(lambda value: is_parts_or_form(rows, goal, value), changed(paper))
         for paper in (("parts", (-3, -2), -6), ("parts", (0, 0), 0), ("form", (0, 0, 1)), ("parts", (3, 2))):
@@ -229,7 +230,8 @@ class Parts(Case):
 
     def test_judge_takes_other_parts(self):
         rows, goal = ((1, 2), (2, 4), (0, 0)), (3, 6)
-        for paper in (("parts", (3, 0, 0), 1), ("parts", (1, 1, 0), 1), ("parts", (-1, 2, 77), 1), ("parts", (0, 3, 5), 2)):
+        for numbers, bottom in (((3, 0, 0), 1), ((1, 1, 0), 1), ((-1, 2, 77), 1), ((0, 3, 5), 2)):
+            paper = ("parts", numbers, bottom)
             self.judges(lambda value: is_parts_or_form(rows, goal, value), paper)
 
     def test_judge_of_forms(self):
@@ -369,6 +371,8 @@ class Same(Case):
     def test_equal_calls(self):
         rows = tuple(random_row(self.source, 4, 9) for _ in range(6))
         kept = tuple(tuple(row) for row in rows)
-        for call in (rank, basis, kernel, lambda x: parts_or_form(x, (1, 2, 3, 4)), lambda x: whole_or_test(x, (0, 0, 1, 5))):
+        for call in (
+                rank, basis, kernel, lambda x: parts_or_form(x, (1, 2, 3, 4)),
+                lambda x: whole_or_test(x, (0, 0, 1, 5))):
             self.told(call(rows), call(kept))
         self.told(kept, rows)

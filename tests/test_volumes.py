@@ -72,8 +72,8 @@ class Volumes(Case):
         for length in (1, 2, 3, 4):
             for spanned in range(length):
                 heads = [random_row(self.source, length, 5) for _ in range(spanned)]
-                lot = lot_of(mix(random_row(self.source, spanned, 3), heads) if heads else (3,) * length for _ in range(9))
-                self.told(0, self.check(lot))
+                points = [mix(random_row(self.source, spanned, 3), heads) for _ in range(9 * len(heads))]
+                self.told(0, self.check(lot_of(points or [(3,) * length])))
 
     def test_known(self):
         for length in (1, 2, 3, 4):
@@ -110,7 +110,8 @@ class Volumes(Case):
 
     def test_cut_by_a_plane(self):
         cube = tuple(product((0, 1, 2), repeat=3))
-        for row, at in (((1, 0, 0), 1), ((0, 0, 1), 1), ((1, 1, 0), 2), ((0, 1, -1), 0), ((1, 1, 1), 4), ((1, 1, 1), 2)):
+        for row, at in (
+                ((1, 0, 0), 1), ((0, 0, 1), 1), ((1, 1, 0), 2), ((0, 1, -1), 0), ((1, 1, 1), 4), ((1, 1, 1), 2)):
             one = tuple(point for point in cube if dot(row, point) <= at)
             other = tuple(point for point in cube if dot(row, point) >= at)
             self.told(48, volume(one) + volume(other))
@@ -167,7 +168,7 @@ class Judge(Case):
     def test_points_within_may_be_used(self):
         lot = ((0, 0), (0, 2), (1, 1), (2, 0), (2, 2))
         for simplices in (
-                ((0, 1, 2), (0, 2, 3), (1, 2, 4), (2, 3, 4)), ((0, 1, 3), (1, 3, 4)), ((0, 1, 2), (0, 2, 3), (1, 2, 4), (2, 3, 4))):
+                ((0, 1, 2), (0, 2, 3), (1, 2, 4), (2, 3, 4)), ((0, 1, 3), (1, 3, 4)), ((0, 1, 4), (0, 3, 4))):
             self.judges(lambda value: is_parting(lot, value), ("parted", simplices))
         # A facet on the rim that is parted, and a way over a point.
         line = ((0,), (1,), (2,), (5,))

@@ -54,7 +54,7 @@ class Balance:
         return None if greatest < 0 else totals.index(greatest)
 
     def wanted(self):
-        """The index of a column that makes less of the made-up ones, None if the form of the price is below 0 at all."""
+        """The index of a column that makes less of the made-up ones, None if the price is below 0 at all columns."""
         form = self.price[:-1]
         short = shortened(form)
         if short != form:

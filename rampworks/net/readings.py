@@ -1,6 +1,6 @@
 """Readings: pairs of lots whose values, one less the other, are those of a network."""
 
-from rampworks.base.checks import BEYOND, is_short_row, need_number
+from rampworks.base.checks import is_short_row, need_number
 from rampworks.errors import InvalidOperation, InvalidReading, InvalidRow, TooMany
 from rampworks.hull.corners import MOST_MEMBERS, corners_of, is_lot
 from rampworks.hull.cuts import are_sums_alike, greatest_value

@@ -1,0 +1,60 @@
+"""The names of the interface stand where the document lists them, with its arguments."""
+
+import importlib
+import inspect
+import unittest
+
+LISTED = {
+    "rampworks.errors": (),
+    "rampworks.base.rows": (
+        "is_row(value)", "are_rows(value)", "plus(one, other)", "less(one, other)", "dot(one, other)",
+        "multiple(row, number)", "content(row)", "primitive(row)", "determinant(rows)", "rank(rows)", "basis(rows)",
+        "kernel(rows)", "parts_or_form(rows, goal)", "is_parts_or_form(rows, goal, value)", "whole_or_test(rows, goal)",
+        "is_whole_or_test(rows, goal, value)"),
+    "rampworks.hull.corners": (
+        "is_lot(value)", "value_at(lot, row)", "greatest_at(lot, row)", "corners(lot)", "corner_or_weights(lot, index)",
+        "is_corner_or_weights(lot, index, value)", "inside_or_beyond(lot, row)", "is_inside_or_beyond(lot, row, value)",
+        "alike_or_row(one, other)", "is_alike_or_row(one, other, value)"),
+    "rampworks.hull.sums": (
+        "summed(one, other)", "joined(one, other)", "scaled(lot, number)", "moved(lot, row)", "turned(lot)",
+        "face(lot, row)", "shadow(lot, rows)", "edge_or_crossed(lot, one, other)",
+        "is_edge_or_crossed(lot, one, other, value)", "edges(lot)"),
+    "rampworks.hull.volumes": ("volume(lot)", "parting(lot)", "is_parting(lot, value)", "own_volume(lot)"),
+    "rampworks.net.networks": (
+        "value_of(network, row)", "unit_values(network, row)", "pattern_at(network, row)", "form_at(network, row)",
+        "form_network(row)", "added(one, other)", "multiplied(network, number)", "ramped(network)",
+        "greater(one, other)", "trimmed(network)", "Network(inputs, layers, last)"),
+    "rampworks.net.readings": (
+        "is_reading(value)", "value_at_reading(reading, row)", "reading_of(network)", "reading_of_form(row)",
+        "added_reading(one, other)", "multiplied_reading(reading, number)", "ramped_reading(reading)",
+        "greater_reading(one, other)", "do_agree(one, other)", "is_reading_of(network, value)", "network_of(reading)",
+        "is_network_of(reading, value)")}
+CONSTANTS = {
+    "rampworks.base.rows": {"MOST_LENGTH": 16, "MOST_ROWS": 400},
+    "rampworks.hull.corners": {"MOST_POINTS": 400},
+    "rampworks.hull.sums": {"MOST_PAIRS": 2000, "MOST_ENDS": 60},
+    "rampworks.hull.volumes": {"MOST_CORNERS": 60},
+    "rampworks.net.networks": {"MOST_INPUTS": 8, "MOST_LAYERS": 4, "MOST_IN_LAYER": 64, "MOST_UNITS": 128},
+    "rampworks.net.readings": {"MOST_READ": 60}}
+
+
+class Interface(unittest.TestCase):
+
+    def test_names(self):
+        for module, listed in LISTED.items():
+            kept = importlib.import_module(module)
+            for line in listed:
+                name, arguments = line[:-1].split("(")
+                found = getattr(kept, name)
+                self.assertEqual(found.__module__, module)
+                self.assertEqual(list(inspect.signature(found).parameters), arguments.split(", "))
+
+    def test_constants(self):
+        for module, listed in CONSTANTS.items():
+            for name, value in listed.items():
+                self.assertEqual(getattr(importlib.import_module(module), name), value)
+
+    def test_methods_stand_in_their_class(self):
+        kept = importlib.import_module("rampworks.net.networks").Network
+        for name in ("__init__", "__eq__", "__str__"):
+            self.assertIn(name, vars(kept))
