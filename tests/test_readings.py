@@ -309,6 +309,10 @@ class Judge(Case):
         ramp = Network(1, (((1,),),), (0, 60))
         self.told(False, is_reading_of(ramp, (tuple((k,) for k in range(61)), ((0,),))))
         self.told(True, is_reading_of(ramp, (((0,), (60,)), ((0,),))))
+        above = ((0,), (60,))
+        self.told(True, is_reading_of(form_network((2,)), (((2,), (61,)), tuple((k,) for k in range(60)))))
+        self.told(False, is_reading_of(form_network((2,)), (((2,), (62,)), tuple((k,) for k in range(61)))))
+        self.told(True, is_reading_of(form_network((0,)), (above, above)))
 
     def test_many_corners(self):
         network = square_network(5, 5)

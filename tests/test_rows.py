@@ -107,6 +107,16 @@ class Lattices(Case):
             for row in found:
                 self.told("whole", whole_or_test(rows, row)[0])
 
+    def test_basis_row_by_row(self):
+        # Rows come one by one, so that heads become less and rows ahead have to be made less again.
+        for _ in range(300):
+            length = self.source.randint(1, 4)
+            rows = tuple(scale(random_row(self.source, length, 4), self.source.randint(1, 6)) for _ in range(6))
+            for many in range(1, 7):
+                found = basis(rows[:many])
+                self.assertTrue(reduces(found), found)
+                self.assertTrue(all(in_lattice(found, row) for row in rows[:many]))
+
     def test_one_basis_for_one_lattice(self):
         for _ in range(40):
             rows = [random_row(self.source, 4, 9) for _ in range(4)]
@@ -263,6 +273,23 @@ class Parts(Case):
         for rows in (((0, 0),), ((1, 2), (3, 4))):
             self.told("parts", parts_or_form(rows, (0, 0))[0])
             self.told("whole", whole_or_test(rows, (0, 0))[0])
+
+    def test_all_small_goals(self):
+        for rows in (
+                ((2, 1, 0), (0, 3, 1), (0, 0, 5)), ((4, 2, 1), (0, 6, 3), (0, 0, 2)), ((6, 4, 2), (0, 4, 2), (0, 0, 4)),
+                ((2, 0, 1), (0, 0, 3)), ((4, 6, 2), (6, 4, 2), (2, 2, 2)),
+                ((6, 3, 3), (4, 4, 0), (3, 1, 5), (2, 8, 6))):
+            lattice = basis(rows)
+            self.assertTrue(reduces(lattice))
+            for goal in product(range(-4, 5), repeat=3):
+                paper = whole_or_test(rows, goal)
+                self.told(in_lattice(lattice, goal), paper[0] == "whole")
+                if paper[0] == "whole":
+                    self.told(goal, mix(paper[1], rows))
+                else:
+                    _, form, m = paper
+                    self.told([0] * len(rows), [dot(form, row) % m if m else dot(form, row) for row in rows])
+                    self.assertNotEqual(0, dot(form, goal) % m if m else dot(form, goal))
 
     def test_long_chains_of_lattices(self):
         # Each row brings a lattice of half the size, so that all of them are needed.

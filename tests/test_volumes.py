@@ -165,6 +165,41 @@ class Judge(Case):
         self.told(False, is_parting(lot, ("parted", tuple(twice))))
         self.told(False, is_parting(lot, ("parted", tuple(sorted(once + twice)))))
 
+    def test_covered_twice_by_unlike_facets(self):
+        # The sides of the great triangle are facets of it alone, their halves are facets of small ones.
+        lot = ((0, 0), (0, 3), (0, 6), (3, 0), (3, 3), (6, 0))
+        small, great = ((0, 1, 3), (1, 2, 4), (1, 3, 4), (3, 4, 5)), ((0, 2, 5),)
+        self.told(True, is_parting(lot, ("parted", small)))
+        self.told(True, is_parting(lot, ("parted", great)))
+        self.told(False, is_parting(lot, ("parted", tuple(sorted(small + great)))))
+
+    def test_middle_on_a_rim(self):
+        # The middle of the first simplex is a point, at which three others meet.
+        lot = ((0, 0), (0, 9), (0, 18), (3, 3), (9, 0), (9, 9), (18, 0))
+        small, great = ((0, 1, 4), (1, 2, 5), (1, 4, 5), (4, 5, 6)), ((0, 2, 3), (0, 3, 6), (2, 3, 6))
+        self.told(True, is_parting(lot, ("parted", small)))
+        self.told(True, is_parting(lot, ("parted", great)))
+        self.told(False, is_parting(lot, ("parted", tuple(sorted(small + great)))))
+        # The middle lies on a side of two others.
+        lot = ((0, 0), (0, 9), (0, 18), (6, 6), (9, 0), (9, 9), (18, 0))
+        great = ((0, 2, 3), (0, 3, 6), (2, 3, 6))
+        self.told(True, is_parting(lot, ("parted", great)))
+        self.told(False, is_parting(lot, ("parted", tuple(sorted(small + great)))))
+
+    def test_facets_with_two_on_one_side(self):
+        # Both partings of a small square within the second triangle of a great one.
+        lot = ((0, 0), (0, 10), (7, 7), (7, 8), (8, 7), (8, 8), (10, 0), (10, 10))
+        great, small = ((0, 1, 6), (1, 6, 7)), ((2, 3, 4), (2, 3, 5), (2, 4, 5), (3, 4, 5))
+        self.told(True, is_parting(lot, ("parted", great)))
+        self.told(False, is_parting(lot, ("parted", great + small)))
+
+    def test_facets_with_three(self):
+        line = tuple((k,) for k in range(6))
+        self.told(True, is_parting(line, ("parted", ((0, 1), (1, 2), (2, 5)))))
+        self.told(False, is_parting(line, ("parted", ((0, 1), (1, 2), (2, 3), (2, 4), (2, 5), (3, 4)))))
+        self.told(False, is_parting(line, ("parted", ((0, 1), (1, 2), (2, 3), (2, 5), (3, 5)))))
+        self.told(False, is_parting(line, ("parted", ((0, 1), (1, 2), (1, 3), (2, 4), (3, 4), (4, 5)))))
+
     def test_points_within_may_be_used(self):
         lot = ((0, 0), (0, 2), (1, 1), (2, 0), (2, 2))
         for simplices in (
