@@ -13,7 +13,8 @@ BUILTINS = {
     "tuple", "dict", "set", "isinstance", "repr", "any", "all", "divmod", "ValueError", "KeyError", "IndexError",
     "LookupError", "ArithmeticError", "OverflowError"}
 METHODS = {
-    "append", "extend", "insert", "pop", "get", "items", "keys", "values", "index", "join", "count", "bit_length"}
+    "append", "extend", "insert", "pop", "get", "items", "keys", "values", "index", "join", "count", "bit_length",
+    "add", "reverse"}
 DOUBLE = {"__init__", "__eq__", "__str__"}
 BARRED = {
     "register", "mro", "elements", "open", "input", "law", "version_info", "with_traceback", "add_note", "attrgetter",
@@ -25,6 +26,8 @@ WORDS = (
     "type", "typing", "typing_extensions", "enum", "Enum", "IntEnum", "StrEnum", "Flag", "IntFlag", "Generic",
     "Protocol", "ABC", "ABCMeta", "namedtuple", "NamedTuple", "TypedDict", "TYPE_CHECKING", "abstractmethod")
 AT_ONCE = {"zip", "enumerate", "reversed", "range"}
+KEYWORDS = {("sorted", "key"), ("sorted", "reverse"), ("min", "key"), ("max", "key"), ("min", "default"),
+            ("max", "default"), ("sum", "start"), ("enumerate", "start")}
 FIRST_OF = {"list", "tuple", "dict", "sorted", "sum", "any", "all", "enumerate", "zip", "min", "max"}
 STATEMENTS = (
     ast.Assign, ast.AugAssign, ast.If, ast.While, ast.For, ast.Return, ast.Break, ast.Continue, ast.Pass, ast.Raise,
@@ -183,43 +186,190 @@ class Language(unittest.TestCase):
                     continue
                 if isinstance(node.func, ast.Attribute):
                     self.assertIn(node.func.attr, METHODS | methods)
+                    self.assertEqual(node.keywords, [])
                     continue
                 self.assertIsInstance(node.func, ast.Name)
                 name, place = node.func.id, above[node]
-                if any(isinstance(passed, ast.Starred) for passed in node.args):
-                    self.assertEqual(name, "zip")
+                where = f"{name} in line {node.lineno} of {file.name}"
+                for at, passed in enumerate(node.args):
+                    if isinstance(passed, ast.Starred):
+                        self.assertEqual(name, "zip", where)
+                        self.assertIsInstance(passed.value, (ast.Name, ast.Attribute), where)
+                for keyword in node.keywords:
+                    if name in BUILTINS:
+                        self.assertIn((name, keyword.arg), KEYWORDS, where)
+                        if keyword.arg == "reverse":
+                            self.assertIsInstance(keyword.value, ast.Constant)
+                    self.assertFalse(name in ("min", "max") and keyword.arg == "default" and len(node.args) > 1)
                 if name in AT_ONCE:
-                    looped = isinstance(place, (ast.For, ast.comprehension)) and place.iter is node
-                    first = isinstance(place, ast.Call) and place.func.id in FIRST_OF and place.args[0] is node
-                    nested = name == "range" and isinstance(place, ast.Call) and place.func.id == "reversed"
-                    self.assertTrue(looped or first or nested, f"{name} in line {node.lineno}")
+                    self.assertTrue(self.is_at_once(node, place), where)
                 if name == "set":
-                    self.assertIsInstance(place, ast.Call)
-                    self.assertIn(place.func.id, ("sorted", "len"))
+                    self.assertTrue(self.is_set_in_place(node, place), where)
+                if name == "isinstance":
+                    self.assertIsInstance(node.args[1], ast.Name)
+
+    def is_at_once(self, node, place):
+        """Whether a range and the like is iterated where it stands, or kept in a variable of its own."""
+        if isinstance(place, (ast.For, ast.comprehension)):
+            return place.iter is node
+        if isinstance(place, ast.Call) and isinstance(place.func, ast.Name) and place.args and place.args[0] is node:
+            name = place.func.id
+            return (name in FIRST_OF and not (name in ("min", "max") and len(place.args) > 1)
+                    or name == "reversed" and node.func.id == "range")
+        is_range = node.func.id == "range"
+        if isinstance(place, ast.Compare):
+            return is_range and isinstance(place.ops[0], (ast.In, ast.NotIn)) and place.comparators[0] is node
+        return is_range and isinstance(place, ast.Assign) and isinstance(place.targets[0], ast.Name)
+
+    def is_set_in_place(self, node, place):
+        if isinstance(place, ast.Call) and isinstance(place.func, ast.Name) and place.func.id in ("sorted", "len"):
+            return not place.keywords
+        return isinstance(place, ast.Assign) and isinstance(place.targets[0], ast.Name)
+
+    def test_kept_ranges_and_sets_are_assigned_once(self):
+        for file, text, tree in self.each():
+            for function in functions(tree):
+                bound = [node.id for node in ast.walk(function)
+                         if isinstance(node, ast.Name) and isinstance(node.ctx, ast.Store)]
+                bound += [node.arg for node in ast.walk(function) if isinstance(node, ast.arg)]
+                above = parents(function)
+                for node in ast.walk(function):
+                    if not isinstance(node, ast.Assign) or not isinstance(node.value, ast.Call):
+                        continue
+                    if not isinstance(node.value.func, ast.Name) or node.value.func.id not in ("range", "set"):
+                        continue
+                    name = node.targets[0].id
+                    self.assertEqual(bound.count(name), 1, f"{name} in {file.name}")
+                    for use in ast.walk(function):
+                        if isinstance(use, ast.Name) and use.id == name and isinstance(use.ctx, ast.Load):
+                            judge = self.is_range_used if node.value.func.id == "range" else self.is_set_used
+                            self.assertTrue(judge(use, above[use]), f"{name} in line {use.lineno} of {file.name}")
+
+    def is_range_used(self, use, place):
+        if isinstance(place, (ast.For, ast.comprehension)):
+            return place.iter is use
+        if isinstance(place, ast.Call):
+            return isinstance(place.func, ast.Name) and place.func.id in FIRST_OF | {"len", "reversed"}
+        return isinstance(place, ast.Compare) or isinstance(place, ast.Subscript)
+
+    def is_set_used(self, use, place):
+        if isinstance(place, ast.Attribute):
+            return place.attr in ("add", "discard")
+        if isinstance(place, ast.Call):
+            return isinstance(place.func, ast.Name) and place.func.id in ("len", "sorted")
+        return isinstance(place, ast.Compare) and place.left is not use
+
+    def test_views_are_iterated_at_once(self):
+        for file, text, tree in self.each():
+            above = parents(tree)
+            for node in ast.walk(tree):
+                if isinstance(node, ast.Call) and isinstance(node.func, ast.Attribute):
+                    if node.func.attr in ("items", "keys", "values"):
+                        place = above[node]
+                        looped = isinstance(place, (ast.For, ast.comprehension)) and place.iter is node
+                        first = isinstance(place, ast.Call) and place.func.id in FIRST_OF and place.args[0] is node
+                        self.assertTrue(looped or first, f"line {node.lineno} of {file.name}")
 
     def test_strings(self):
         for file, text, tree in self.each():
             for node in without_docstrings(tree):
                 self.assertNotIn("%", node.value)
+                self.assertNotIn("\\", node.value)
+                self.assertFalse(node.value.endswith("._"))
             for node in ast.walk(tree):
-                if isinstance(node, (ast.Set, ast.SetComp)):
+                if isinstance(node, ast.SetComp):
                     self.fail("a set that is stored")
 
     def test_loops_change_nothing_that_they_go_over(self):
-        changing = {"append", "extend", "insert", "pop"}
+        changing = {"append", "extend", "insert", "pop", "update", "clear", "remove", "reverse", "setdefault"}
         for file, text, tree in self.each():
             for loop in ast.walk(tree):
                 if not isinstance(loop, ast.For):
                     continue
-                over = {node.id for node in ast.walk(loop.iter) if isinstance(node, ast.Name)}
-                if isinstance(loop.iter, ast.Call) and loop.iter.func.id in ("range", "sorted", "reversed"):
-                    continue
+                head = loop.iter
+                if isinstance(head, ast.Call) and isinstance(head.func, ast.Name):
+                    if head.func.id in ("range", "sorted", "list", "tuple"):
+                        continue
+                    if head.func.id == "reversed" and isinstance(head.args[0], ast.Call):
+                        continue
+                over = {node.id for node in ast.walk(head) if isinstance(node, ast.Name)}
+                over |= {"." + node.attr for node in ast.walk(head) if isinstance(node, ast.Attribute)}
                 for node in (inner for row in loop.body for inner in ast.walk(row)):
                     if isinstance(node, ast.Call) and isinstance(node.func, ast.Attribute):
-                        if node.func.attr in changing and isinstance(node.func.value, ast.Name):
-                            self.assertNotIn(node.func.value.id, over)
+                        if node.func.attr in changing:
+                            self.assertNotIn(self.head_name(node.func.value), over, f"{file.name} {node.lineno}")
                     if isinstance(node, ast.Subscript) and not isinstance(node.ctx, ast.Load):
-                        self.assertNotIn(node.value.id, over, f"line {node.lineno}")
+                        self.assertNotIn(self.head_name(node.value), over, f"{file.name} {node.lineno}")
+
+    def head_name(self, node):
+        """The name, or the attribute, of what is changed."""
+        while isinstance(node, ast.Subscript):
+            node = node.value
+        return node.id if isinstance(node, ast.Name) else "." + node.attr if isinstance(node, ast.Attribute) else None
+
+    def test_own_calls_pass_what_is_taken(self):
+        """Each call of a function or class of the package passes as many arguments as it takes."""
+        taken = {}
+        for file, text, tree in self.each():
+            for node in tree.body:
+                if isinstance(node, ast.FunctionDef):
+                    taken[file, node.name] = (node.args, 0)
+                if isinstance(node, ast.ClassDef):
+                    for item in node.body:
+                        if isinstance(item, ast.FunctionDef) and item.name == "__init__":
+                            taken[file, node.name] = (item.args, 1)
+        for file, text, tree in self.each():
+            known = {name: kept for (source, name), kept in taken.items() if source == file}
+            for node in tree.body:
+                if isinstance(node, ast.ImportFrom) and node.module.startswith("rampworks"):
+                    source = PACKAGE.parent / (node.module.replace(".", "/") + ".py")
+                    for alias in node.names:
+                        if (source, alias.name) in taken:
+                            known[alias.name] = taken[source, alias.name]
+            for node in ast.walk(tree):
+                if isinstance(node, ast.Call) and isinstance(node.func, ast.Name) and node.func.id in known:
+                    args, own = known[node.func.id]
+                    self.assertEqual(args.kwonlyargs, [])
+                    self.assertEqual(node.keywords, [])
+                    many = len(args.args) - own
+                    self.assertTrue(many - len(args.defaults) <= len(node.args) <= many, (file, node.lineno))
+
+    def test_locals_are_assigned(self):
+        """Each name that a function reads is its own, of its file, or a builtin."""
+        for file, text, tree in self.each():
+            known = set(vars(builtins))
+            for node in tree.body:
+                if isinstance(node, ast.ImportFrom):
+                    known |= {alias.name for alias in node.names}
+                elif isinstance(node, ast.Assign):
+                    known.add(node.targets[0].id)
+                elif isinstance(node, (ast.FunctionDef, ast.ClassDef)):
+                    known.add(node.name)
+            for function in functions(tree):
+                own = {node.id for node in ast.walk(function)
+                       if isinstance(node, ast.Name) and not isinstance(node.ctx, ast.Load)}
+                own |= {node.arg for node in ast.walk(function) if isinstance(node, ast.arg)}
+                for node in ast.walk(function):
+                    if isinstance(node, ast.Name) and isinstance(node.ctx, ast.Load):
+                        self.assertIn(node.id, known | own, f"line {node.lineno} of {file.name}")
+                        self.assertNotEqual(node.id, "_")
+
+    def test_nothing_is_left_over(self):
+        """Each function of the package is used in it, or listed in the interface."""
+        from tests.test_interface import LISTED
+        listed = {line.split("(")[0] for lines in LISTED.values() for line in lines}
+        used = set()
+        for file, text, tree in self.each():
+            for node in ast.walk(tree):
+                if isinstance(node, ast.Name) and isinstance(node.ctx, ast.Load):
+                    used.add(node.id)
+                if isinstance(node, ast.Attribute) and isinstance(node.ctx, ast.Load):
+                    used.add(node.attr)
+        for file, text, tree in self.each():
+            if file.name != "errors.py":
+                for node in ast.walk(tree):
+                    if isinstance(node, (ast.FunctionDef, ast.ClassDef)) and node.name not in DOUBLE:
+                        self.assertIn(node.name, used | listed, file.name)
 
     def test_each_part_says_what_it_does(self):
         for file, text, tree in self.each():

@@ -1,121 +1,144 @@
-"""EITHER a form that is above 0 at all columns, OR weights that balance them: by whole pivots, without fractions."""
+"""EITHER a form that is greater at points than at others, OR weights that balance them: by whole pivots."""
 
-from rampworks.base.linear import content_of, head_place, product_of
+from rampworks.base.linear import content_of, difference_of, head_place, product_of, tells
 
 # The first form that is tried has members of at most this size, so that all others keep short.
 GUESS = 63
-# Forms are looked at with so many bits first.
-MOST_BITS = 60
+# Forms are looked at with so many bits first: products of such ones are fast.
+MOST_BITS = 20
 
 
 class Balance:
-    """A table of pivots for weights of the columns, from 0 on and 1 in all, whose weighted sum is 0.
+    """A table of pivots for weights of columns, from 0 on and 1 in all, whose weighted sum is 0.
 
-    `lines` has for each place the members of all columns there, turned by `turns` so that the sum of all columns is
-    from 0 down. `used` tells for each row which column is in it, None for a made-up one. `rows`, divided by `bottom`,
-    times a column with a 1 behind it tell how much of those in use it takes the place of. `price`, times a column
-    with a 1 behind it, tells how much less of the made-up ones there is with it. What is in the row `held` is free:
-    it takes numbers below 0, too.
+    A column is a point less another one: `groups` are pairs of a point and the others. The first rows are units, each
+    with the sign of `signs`. `used` tells for each row which column is in it, None for a made-up one. `rows`, divided
+    by `bottom`, times a column with a 1 behind it tell how much of those in use it takes the place of. `price`, times
+    a column with a 1 behind it, tells how much less of the made-up ones there is with it. What is in the row `held`
+    is free: it takes numbers below 0, too. `tops` keeps which points were met as the only greatest ones of all, with
+    the forms for which they are so.
     """
 
-    def __init__(self, columns, length):
-        lines = [list(line) for line in zip(*columns)]
-        totals = [sum(line) for line in lines]
-        self.turns = [-1 if total > 0 else 1 for total in totals]
-        self.lines = [[turn * x for x in line] for turn, line in zip(self.turns, lines)]
-        self.rows = [[1 if k == at else 0 for k in range(length + 1)] for at in range(length + 1)]
+    def __init__(self, groups, guess):
+        length = len(guess)
+        self.groups = groups
+        self.signs = [-1 if x > 0 else 1 for x in guess] + [1]
+        self.rows = [[self.signs[at] if k == at else 0 for k in range(length + 1)] for at in range(length + 1)]
         self.used = [None] * (length + 1)
-        self.price = sizes_like(totals) + [1]
+        self.price = [sign * size for sign, size in zip(self.signs, sizes_like(guess))] + [1]
         self.bottom = 1
         self.held = None
-
-    def turned(self, row):
-        """The row in the directions of the lines; twice turned it is the row again."""
-        return [turn * x for turn, x in zip(self.turns, row)]
+        self.tops = []
 
     def hold(self, free):
         """Takes the free column in, for good."""
-        column = self.turned(free) + [0]
-        at = head_place(column)
-        if column[at] < 0:
-            self.turns[at] = -self.turns[at]
-            self.lines[at] = [-x for x in self.lines[at]]
-            column[at] = -column[at]
+        at = head_place(free)
+        if free[at] * self.signs[at] < 0:
+            self.signs[at] = -self.signs[at]
+            self.rows[at] = [-x for x in self.rows[at]]
+            self.price[at] = -self.price[at]
+        column = [*free, 0]
         self.held = at
-        self.pivot(at, column, product_of(self.price, column))
+        self.pivot(at, [product_of(row, column) for row in self.rows], product_of(self.price, column))
 
     def dearest(self, form):
-        """The index of the column at which the form of the lines is greatest, None if it is below 0 at all."""
-        totals = [0] * len(self.lines[0])
-        for worth, line in zip(form, self.lines):
-            if worth != 0:
-                totals = [total + worth * x for total, x in zip(totals, line)]
-        greatest = max(totals)
-        return None if greatest < 0 else totals.index(greatest)
+        """The column at which the form is greatest, as a pair of a group and an index, None if it is below 0 at all."""
+        found, greatest = None, -1
+        for at, (point, others) in enumerate(self.groups):
+            if others:
+                told = tells(form, others)
+                least = min(told)
+                worth = product_of(form, point) - least
+                if worth > greatest:
+                    found, greatest = (at, told.index(least)), worth
+                if worth > 0 and told.count(least) == 1:
+                    self.tops.append((others[told.index(least)], form))
+        return found
+
+    def column_of(self, place):
+        """The column of a group at an index, with a 1 behind it."""
+        point, others = self.groups[place[0]]
+        return [*difference_of(point, others[place[1]]), 1]
 
     def wanted(self):
-        """The index of a column that makes less of the made-up ones, None if the price is below 0 at all columns."""
+        """The column that makes less of the made-up ones, None if the price is below 0 at all columns."""
         form = self.price[:-1]
         short = shortened(form)
         if short != form:
             # Most often a short form like this one finds a column, too, or is already a good one, in less time.
-            index = self.dearest(short)
-            if index is None and self.held is None:
+            place = self.dearest(short)
+            if place is None and self.held is None:
                 self.price = short + self.price[-1:]
                 return None
-            if index is not None and product_of(form, [line[index] for line in self.lines]) >= 0:
-                return index
+            if place is not None and product_of(form, self.column_of(place)) >= 0:
+                return place
         return self.dearest(form)
 
-    def take(self, index):
+    def take(self, place):
         """Takes the column in, for the one of a row that limits it first."""
-        column = [line[index] for line in self.lines] + [1]
-        shares = [product_of(row, column) for row in self.rows]
+        column = self.column_of(place)
+        shares = tells(column, self.rows)
         found = None
         for at, share in enumerate(shares):
             if share > 0 and at != self.held and (found is None or self.is_sooner(at, found, shares)):
                 found = at
         self.pivot(found, shares, product_of(self.price, column))
-        self.used[found] = index
+        self.used[found] = place
 
     def is_sooner(self, at, other, shares):
         """Whether the row limits a column ahead of the other one: told so that no table comes twice."""
-        places = [len(self.rows) - 1] + [k for k in range(len(self.rows) - 1) if k != self.held]
-        for place in places:
-            left, right = self.rows[at][place] * shares[other], self.rows[other][place] * shares[at]
-            if left != right:
-                return left < right
+        own, beside, share, rival = self.rows[at], self.rows[other], shares[at], shares[other]
+        left, right = own[-1] * rival, beside[-1] * share
+        if left != right:
+            return left < right
+        for place, sign in enumerate(self.signs):
+            if place != self.held:
+                left, right = own[place] * rival, beside[place] * share
+                if left != right:
+                    return left < right if sign > 0 else left > right
         return False
 
     def pivot(self, at, shares, worth):
         """Puts a column, told by its shares of the rows and its worth by the price, into a row."""
         head, lead, last = self.rows[at], shares[at], self.bottom
-        self.rows = [
-            row if k == at else [(lead * x - share * y) // last for x, y in zip(row, head)]
-            for k, (row, share) in enumerate(zip(self.rows, shares))]
+        found = []
+        for k, row in enumerate(self.rows):
+            share = shares[k]
+            found.append(row if k == at else [(lead * x - share * y) // last for x, y in zip(row, head)])
+        self.rows = found
         self.price = [(lead * x - worth * y) // last for x, y in zip(self.price, head)]
         self.bottom = lead
 
-    def is_balanced(self):
-        """Whether the columns in use balance without made-up ones."""
-        return self.price[-1] == 0
-
     def form(self):
         """The form of the price, in lowest terms."""
-        found = self.turned([-x for x in self.price[:-1]])
+        found = [-x for x in self.price[:-1]]
         size = max(1, content_of(found))
         return tuple([x // size for x in found])
 
-    def weights(self, many):
-        """The weights of so many columns, and the number of the free one, in lowest terms."""
+    def weights(self):
+        """The weights of all columns, group behind group, and the number of the free one, in lowest terms."""
+        begins, many = [], 0
+        for _, others in self.groups:
+            begins.append(many)
+            many += len(others)
         found, share = [0] * many, 0
-        for at, index in enumerate(self.used):
+        for at, place in enumerate(self.used):
             if at == self.held:
                 share = self.rows[at][-1]
-            elif index is not None:
-                found[index] = self.rows[at][-1]
+            elif place is not None:
+                found[begins[place[0]] + place[1]] = self.rows[at][-1]
         size = content_of(found + [share])
         return [x // size for x in found], share // size
+
+
+def totals_of(groups):
+    """The sum of all columns."""
+    found = [0] * len(groups[0][0])
+    for point, others in groups:
+        many = len(others)
+        for at, line in enumerate(zip(*others)):
+            found[at] += many * point[at] - sum(line)
+    return found
 
 
 def shortened(form):
@@ -124,24 +147,36 @@ def shortened(form):
     return form if many <= 0 else [x >> many for x in form]
 
 
-def sizes_like(totals):
-    """Sizes from 1 on, short ones, that are to one another about as those of the totals."""
-    greatest = max(GUESS, max([abs(total) for total in totals]))
-    return [max(1, abs(total) * GUESS // greatest) for total in totals]
+def sizes_like(guess):
+    """Sizes from 1 on, short ones, that are to one another about as those of the members."""
+    greatest = max(GUESS, max([abs(x) for x in guess]))
+    return [max(1, abs(x) * GUESS // greatest) for x in guess]
 
 
-def form_or_weights(columns, free, length):
-    """EITHER ("form", form), above 0 at all columns and 0 at the free one, if there is one (else None);
-    OR ("weights", weights, share): from 0 on, not all 0, with share times the free one their sum is 0."""
-    if not columns:
-        return "form", (0,) * length
-    table = Balance(columns, length)
+def settled(groups, free, guess):
+    """The table of the groups, with a free row, if there is one (else None), when it is at its end.
+
+    The guess, if there is one (else None), is a form that is tried first.
+    """
+    table = Balance(groups, totals_of(groups) if guess is None else guess)
     if free is not None:
         table.hold(free)
-    while not table.is_balanced():
-        index = table.wanted()
-        if index is None:
-            return "form", table.form()
-        table.take(index)
-    weights, share = table.weights(len(columns))
+    while table.price[-1] != 0:
+        place = table.wanted()
+        if place is None:
+            break
+        table.take(place)
+    return table
+
+
+def form_or_weights(groups, free):
+    """EITHER ("form", form), greater at the point of each group than at its others and 0 at the free row, if there is
+    one (else None); OR ("weights", weights, share): from 0 on, not all 0, for all others, group behind group: the sum
+    of the points less the others by weights, and of share times the free row, is 0."""
+    if not any([others for _, others in groups]):
+        return "form", (0,) * len(groups[0][0])
+    table = settled(groups, free, None)
+    if table.price[-1] != 0:
+        return "form", table.form()
+    weights, share = table.weights()
     return "weights", weights, share

@@ -4,50 +4,80 @@ from rampworks.errors import InvalidNumber
 
 # Integers that are passed have at most sixty digits.
 BEYOND = 10 ** 60
+BENEATH = -10 ** 60
 
 
 def is_whole(value):
     """Whether the value is an integer, of any length."""
-    return isinstance(value, int) and not isinstance(value, bool)
+    return isinstance(value, int) and value is not True and value is not False
 
 
 def is_short(value):
     """Whether the value is an integer that can be passed."""
-    return is_whole(value) and -BEYOND < value < BEYOND
+    return is_whole(value) and BENEATH < value < BEYOND
+
+
+def are_short(values):
+    """Whether all of the values are integers that can be passed."""
+    # What is_short tells, without a call for each of them.
+    for x in values:
+        if not isinstance(x, int) or x is True or x is False or x <= BENEATH or x >= BEYOND:
+            return False
+    return True
+
+
+def are_whole(values):
+    """Whether all of the values are integers, of any length."""
+    for x in values:
+        if not isinstance(x, int) or x is True or x is False:
+            return False
+    return True
 
 
 def is_short_row(value, least, most):
     """Whether the value is a tuple of so many integers that can be passed."""
-    return isinstance(value, tuple) and least <= len(value) <= most and all([is_short(x) for x in value])
+    return isinstance(value, tuple) and least <= len(value) <= most and are_short(value)
 
 
 def is_whole_row(value, many):
     """Whether the value is a tuple of just so many integers, of any length."""
-    return isinstance(value, tuple) and len(value) == many and all([is_whole(x) for x in value])
+    return isinstance(value, tuple) and len(value) == many and are_whole(value)
 
 
 def are_weights(value, many):
     """Whether the value is a tuple of just so many integers from 0 on, of any length."""
-    return is_whole_row(value, many) and all([x >= 0 for x in value])
+    return is_whole_row(value, many) and (many == 0 or min(value) >= 0)
 
 
 def are_short_rows(value, most_rows, most_length):
     """Whether the value is a tuple of rows of one length, at least one, within the bounds."""
     if not isinstance(value, tuple) or not 1 <= len(value) <= most_rows:
         return False
-    if not all([is_short_row(row, 1, most_length) for row in value]):
+    if not isinstance(value[0], tuple) or not 1 <= len(value[0]) <= most_length:
         return False
-    return all([len(row) == len(value[0]) for row in value])
+    length = len(value[0])
+    for row in value:
+        if not isinstance(row, tuple) or len(row) != length:
+            return False
+        for x in row:
+            if not isinstance(x, int) or x is True or x is False or x <= BENEATH or x >= BEYOND:
+                return False
+    return True
 
 
 def are_ascending(values):
     """Whether each of the values is below the next one."""
-    return all([one < other for one, other in zip(values, values[1:])])
+    last = values[0]
+    for value in values[1:]:
+        if value <= last:
+            return False
+        last = value
+    return True
 
 
 def is_told(value, word, many):
     """Whether the value is a tuple of so many members that begins with the word."""
-    return isinstance(value, tuple) and len(value) == many and isinstance(value[0], str) and value[0] == word
+    return isinstance(value, tuple) and len(value) == many and value[0] == word
 
 
 def need_number(number):

@@ -144,5 +144,5 @@ def test_of(table, goal):
 
 def is_multiple(form, row, m):
     """Whether the form tells a multiple of m for the row; of 0 just 0."""
-    told = product_of(form, row)
+    told = sum([x * y for x, y in zip(form, row)])
     return told == 0 if m == 0 else told % m == 0

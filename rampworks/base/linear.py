@@ -8,6 +8,27 @@ def product_of(one, other):
     return sum([x * y for x, y in zip(one, other)])
 
 
+def tells(form, points):
+    """What the form tells for each of the points: member by member where there are few, as this is faster."""
+    many = len(form)
+    if many == 2:
+        a, b = form
+        return [a * x + b * y for x, y in points]
+    if many == 3:
+        a, b, c = form
+        return [a * x + b * y + c * z for x, y, z in points]
+    if many == 4:
+        a, b, c, d = form
+        return [a * x + b * y + c * z + d * w for x, y, z, w in points]
+    if many == 5:
+        a, b, c, d, e = form
+        return [a * x + b * y + c * z + d * w + e * v for x, y, z, w, v in points]
+    if many == 6:
+        a, b, c, d, e, f = form
+        return [a * x + b * y + c * z + d * w + e * v + f * u for x, y, z, w, v, u in points]
+    return [sum([x * y for x, y in zip(form, point)]) for point in points]
+
+
 def sum_of(one, other):
     """The sum of two rows."""
     return tuple([x + y for x, y in zip(one, other)])

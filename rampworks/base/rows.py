@@ -25,13 +25,13 @@ def are_rows(value):
 
 def need_row(row):
     """Refuses what is no row."""
-    if not is_row(row):
+    if not is_short_row(row, 1, MOST_LENGTH):
         raise InvalidRow("a row is a tuple of 1 to 16 integers")
 
 
 def need_rows(rows):
     """Refuses what are no rows."""
-    if not are_rows(rows):
+    if not are_short_rows(rows, MOST_ROWS, MOST_LENGTH):
         raise InvalidRow("rows are a tuple of 1 to 400 rows of one length")
 
 
@@ -46,7 +46,8 @@ def need_goal(rows, goal):
     """Refuses what are no rows and a goal of their length."""
     need_rows(rows)
     need_row(goal)
-    need_same(rows[0], goal)
+    if len(rows[0]) != len(goal):
+        raise InvalidOperation("rows of unlike lengths")
 
 
 def need_same(one, other):
@@ -167,14 +168,22 @@ def parts_or_form(rows, goal):
     return "parts", tuple(spread(chosen, numbers, len(rows))), bottom
 
 
+def is_sum(rows, goal, numbers, bottom):
+    """Whether the goal times the bottom is the sum of the rows, each times its number."""
+    for column, x in zip(zip(*rows), goal):
+        if sum([number * y for number, y in zip(numbers, column)]) != bottom * x:
+            return False
+    return True
+
+
 def is_parts_or_form(rows, goal, value):
     """Whether the value shows that the goal has parts, or that it has none."""
     need_goal(rows, goal)
     if is_told(value, "parts", 3):
         _, numbers, bottom = value
-        if not is_whole_row(numbers, len(rows)) or not is_whole(bottom) or bottom < 1:
+        if not is_whole(bottom) or bottom < 1 or not is_whole_row(numbers, len(rows)):
             return False
-        return mixture(numbers, rows, len(goal)) == times(goal, bottom)
+        return is_sum(rows, goal, numbers, bottom)
     if is_told(value, "form", 2):
         return is_test(rows, goal, value[1], 0)
     return False
@@ -184,7 +193,10 @@ def is_test(rows, goal, form, m):
     """Whether the form tells multiples of m for all rows, and for the goal none."""
     if not is_whole_row(form, len(goal)):
         return False
-    return all([is_multiple(form, row, m) for row in rows]) and not is_multiple(form, goal, m)
+    for row in rows:
+        if not is_multiple(form, row, m):
+            return False
+    return not is_multiple(form, goal, m)
 
 
 def whole_or_test(rows, goal):
@@ -210,7 +222,7 @@ def is_whole_or_test(rows, goal, value):
     """Whether the value shows that the goal has whole parts, or that it has none."""
     need_goal(rows, goal)
     if is_told(value, "whole", 2):
-        return is_whole_row(value[1], len(rows)) and mixture(value[1], rows, len(goal)) == goal
+        return is_whole_row(value[1], len(rows)) and is_sum(rows, goal, value[1], 1)
     if is_told(value, "test", 3):
         _, form, m = value
         return is_whole(m) and (m == 0 or m >= 2) and is_test(rows, goal, form, m)

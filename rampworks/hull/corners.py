@@ -3,7 +3,7 @@
 from rampworks.base.balance import form_or_weights
 from rampworks.base.checks import (
     are_ascending, are_short_rows, are_weights, is_short_row, is_told, is_whole, is_whole_row, need_index)
-from rampworks.base.linear import difference_of, mixture, product_of, times
+from rampworks.base.linear import mixture, product_of, tells, times
 from rampworks.errors import InvalidLot, InvalidOperation, InvalidRow
 from rampworks.hull.cuts import cut, greatest_points, greatest_value
 
@@ -76,7 +76,7 @@ def corner_or_weights(lot, index):
     need_lot(lot)
     need_index(index, len(lot))
     point, others = lot[index], lot[:index] + lot[index + 1:]
-    told = form_or_weights([difference_of(point, other) for other in others], None, len(point))
+    told = form_or_weights(((point, others),), None)
     if told[0] == "form":
         return "corner", told[1]
     weights = told[1]
@@ -87,8 +87,7 @@ def is_above_all(form, point, others):
     """Whether the value is a form that is greater at the point than at all others."""
     if not is_whole_row(form, len(point)):
         return False
-    told = product_of(form, point)
-    return all([product_of(form, other) < told for other in others])
+    return not others or max(tells(form, others)) < product_of(form, point)
 
 
 def is_mean(lot, row, number, weights):
@@ -114,7 +113,7 @@ def inside_told(lot, row):
     """EITHER weights that make the row of the points, OR a form that is greater at it than at all of them."""
     if row in lot:
         return "inside", 1, tuple([1 if point == row else 0 for point in lot])
-    told = form_or_weights([difference_of(row, point) for point in lot], None, len(row))
+    told = form_or_weights(((row, lot),), None)
     if told[0] == "form":
         return "beyond", told[1]
     return "inside", sum(told[1]), tuple(told[1])

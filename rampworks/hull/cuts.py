@@ -1,17 +1,29 @@
-"""Corners of points, of sums and of joins, reckoned without bounds on integers."""
+"""Corners of points and of joins, reckoned without bounds on integers.
 
-from rampworks.base.balance import form_or_weights
-from rampworks.base.linear import difference_of, product_of, sum_of
+Lots go about here with guides: dicts with ascending keys, from each corner to a form that is greater at it than at
+all other points, or None where none is known. A form that is known certifies corners of joins and sums in no time.
+"""
+
+from rampworks.base.balance import settled
+from rampworks.base.linear import difference_of, tells, times
+from rampworks.hull.borders import plane_cut
+from rampworks.hull.sheets import Sheet
+from rampworks.hull.supports import plain_ends, shell_sum
+
+# So many points are looked at in one table; more of them one by one.
+MOST_IN_SHEET = 14
+# Sums and differences of two members are tried as forms for so many members at most; for more they are too many.
+MOST_PAIRED = 5
 
 
 def greatest_value(points, row):
     """The greatest number that the points tell for the row."""
-    return max([product_of(point, row) for point in points])
+    return max(tells(row, points))
 
 
 def greatest_points(points, row):
     """The tuple of the points that tell it, in their sequence."""
-    told = [product_of(point, row) for point in points]
+    told = tells(row, points)
     greatest = max(told)
     return tuple([point for point, x in zip(points, told) if x == greatest])
 
@@ -19,85 +31,110 @@ def greatest_points(points, row):
 def cut(points, most):
     """The ascending tuple of the corners of ascending points; if there are more than `most`, more than these."""
     length = len(points[0])
-    if length == 1:
-        return points if len(points) <= 2 else (points[0], points[-1])
-    if length == 2:
-        return plane_cut(points)
-    left, found = list(points), []
-    for point in points:
-        columns = [difference_of(point, other) for other in left if other != point]
-        if form_or_weights(columns, None, length)[0] == "form":
-            found.append(point)
-            if len(found) > most:
-                break
-        else:
-            left = [other for other in left if other != point]
-    return tuple(found)
-
-
-def plane_cut(points):
-    """The corners of ascending points of two members: both borders from the first point to the last one."""
     if len(points) <= 2:
         return points
-    lower, upper = border_of(points, 1), border_of(points, -1)
-    return tuple(sorted(lower + upper[1:-1]))
+    if length == 1:
+        return points[0], points[-1]
+    if length == 2:
+        return plane_cut(points)
+    return tuple(guided_cut(points, {}, most, False, {}))
 
 
-def border_of(points, side):
-    """The corners on the one side (1: below, -1: above), both ends among them."""
-    found = []
-    for point in points:
-        while len(found) > 1 and side * bend_of(found[-2], found[-1], point) <= 0:
-            found.pop()
-        found.append(point)
+def guided_cut(points, known, most, wants_forms, guesses):
+    """The corners, of which some are known, with guides; more than `most` if there are more."""
+    if len(points) <= 2 or len(points[0]) <= 2:
+        return {point: known.get(point) for point in cut(points, most)}
+    if len(points) <= MOST_IN_SHEET:
+        return sheet_cut(points, known, wants_forms)
+    places = independent_places(points)
+    if len(places) == 3 and len(points[0]) == 3:
+        return shell_sum((points,), [form for form in known.values() if form is not None], most)
+    if len(places) == len(points[0]):
+        return single_cut(points, known, most, guesses)
+    shadows = {tuple([point[at] for at in places]): point for point in points}
+    tips = guided_cut(tuple(sorted(shadows)), {}, most, False, {})
+    return {point: known.get(point) for point in sorted([shadows[tip] for tip in tips])}
+
+
+def sheet_cut(points, known, wants_forms):
+    """The corners, told by one table for all points."""
+    sheet, found = None, {}
+    ends = plain_ends(points) if not wants_forms else []
+    for label, point in enumerate(points):
+        if point in known:
+            found[point] = known[point]
+        elif label in ends:
+            found[point] = None
+        else:
+            sheet = Sheet((points,), None, wants_forms) if sheet is None else sheet
+            if sheet.is_corner(label):
+                found[point] = tuple(sheet.form) if wants_forms else None
+            else:
+                sheet.leave(label)
     return found
 
 
-def bend_of(one, middle, other):
-    """Above 0 if the way over three points turns to the left, 0 if it goes straight on."""
-    (a, b), (c, d) = difference_of(middle, one), difference_of(other, middle)
-    return a * d - b * c
-
-
-def ways_of(one, other):
-    """The sums of a point of each lot, ascending, each with the one way to it, None if there are several."""
-    found = {}
-    for left in one:
-        for right in other:
-            total = sum_of(left, right)
-            found[total] = None if total in found else (left, right)
-    return {total: found[total] for total in sorted(found)}
-
-
-def leads_of(lot):
-    """For each point the differences of it to all other ones."""
-    return {point: [difference_of(point, other) for other in lot if other != point] for point in lot}
-
-
-def sum_cut(one, other, most):
-    """The corners of the sum of two cut lots; if there are more than `most`, more than these."""
-    if len(one[0]) <= 2:
-        return cut(tuple(ways_of(one, other)), most)
-    if len(one) == 1:
-        return moved_by(other, one[0])
-    if len(other) == 1:
-        return moved_by(one, other[0])
-    ways, leads, further = ways_of(one, other), leads_of(one), leads_of(other)
-    found = []
-    for total in ways:
-        if is_sum_corner(ways[total], leads, further):
-            found.append(total)
-            if len(found) > most:
+def independent_places(points):
+    """Places of members that are enough to tell all points apart, and none too many."""
+    first, heads = points[0], []
+    for point in points[1:]:
+        lead = difference_of(point, first)
+        for at, head in heads:
+            if lead[at] != 0:
+                own, top = lead[at], head[at]
+                lead = [top * x - own * y for x, y in zip(lead, head)]
+        for at, x in enumerate(lead):
+            if x != 0:
+                heads.append((at, lead))
                 break
-    return tuple(found)
+        if len(heads) == len(first):
+            break
+    return sorted([at for at, _ in heads])
 
 
-def is_sum_corner(way, leads, further):
-    """Whether the sum with this one way is a corner: one form is greatest at both points."""
-    if way is None:
-        return False
-    left, right = way
-    return form_or_weights(leads[left] + further[right], None, len(left))[0] == "form"
+def short_forms(length):
+    """The forms that tell one member, or the sum or the difference of two."""
+    units = [tuple([1 if k == at else 0 for k in range(length)]) for at in range(length)]
+    found = list(units)
+    for at in range(length if length <= MOST_PAIRED else 0):
+        for beside in range(at):
+            for sign in (1, -1):
+                found.append(tuple([x + sign * y for x, y in zip(units[at], units[beside])]))
+    return found
+
+
+def put_ends(form, points, found):
+    """Puts the last one of the points that are greatest, and the first one of those that are least, to the corners."""
+    told = tells(form, points)
+    indices = range(len(told))
+    high, last = max(zip(told, indices))
+    low, first = min(zip(told, indices))
+    if points[last] not in found:
+        found[points[last]] = form if told.count(high) == 1 else None
+    if points[first] not in found:
+        found[points[first]] = times(form, -1) if told.count(low) == 1 else None
+
+
+def single_cut(points, known, most, guesses):
+    """The corners, one by one; each form on the way tells one, too."""
+    found = {point: known[point] for point in known}
+    for form in short_forms(len(points[0])):
+        put_ends(form, points, found)
+    left = list(points)
+    for point in points:
+        if len(found) > most:
+            break
+        if point not in found:
+            others = [other for other in left if other != point]
+            table = settled(((point, others),), None, guesses.get(point))
+            if table.price[-1] != 0:
+                found[point] = table.form()
+            else:
+                left = others
+            for top, price in table.tops:
+                if found.get(top) is None:
+                    found[top] = tuple([-x for x in price])
+    return {point: found[point] for point in sorted(found)}
 
 
 def join_cut(one, other, most):
@@ -105,27 +142,15 @@ def join_cut(one, other, most):
     return cut(tuple(sorted(set(one + other))), most)
 
 
-def moved_by(lot, row):
-    """Each point and the row."""
-    return tuple([sum_of(point, row) for point in lot])
-
-
-def are_sums_alike(one, other, third, fourth):
-    """Whether the sum of the first two cut lots and that of the last two have the same corners."""
-    # What is on both sides can be taken off.
-    for left, beside in ((one, other), (other, one)):
-        if left == third:
-            return beside == fourth
-        if left == fourth:
-            return beside == third
-    ways, across = ways_of(one, other), ways_of(third, fourth)
-    return has_corners_in(one, other, ways, across) and has_corners_in(third, fourth, across, ways)
-
-
-def has_corners_in(one, other, ways, across):
-    """Whether all corners of the sum of two lots, told by its ways, are among the points across."""
-    leads, further = leads_of(one), leads_of(other)
-    for total in ways:
-        if total not in across and is_sum_corner(ways[total], leads, further):
-            return False
-    return True
+def guided_join(one, other, most):
+    """The join of two lots with guides."""
+    points, known = tuple(sorted(set(list(one) + list(other)))), {}
+    guesses = {**one, **other}
+    for point in guesses:
+        form = guesses[point]
+        if form is not None:
+            told = tells(form, points)
+            greatest = max(told)
+            if told.count(greatest) == 1:
+                known[points[told.index(greatest)]] = form
+    return guided_cut(points, known, most, True, guesses)

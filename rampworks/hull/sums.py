@@ -2,13 +2,18 @@
 
 from rampworks.base.balance import form_or_weights
 from rampworks.base.checks import are_weights, is_short_row, is_told, is_whole, is_whole_row, need_index, need_number
-from rampworks.base.linear import difference_of, mixture, product_of, sum_of, times
+from rampworks.base.linear import difference_of, mixture, product_of, sum_of, tells, times
 from rampworks.errors import InvalidNumber, InvalidOperation, TooMany
+from rampworks.hull.borders import way_round
 from rampworks.hull.corners import MOST_MEMBERS, MOST_POINTS, corners_of, need_lot, need_lot_and_row, need_lots
-from rampworks.hull.cuts import cut, greatest_points, join_cut, moved_by, sum_cut
+from rampworks.hull.cuts import cut, greatest_points, independent_places, join_cut
+from rampworks.hull.shells import shell_edges
+from rampworks.hull.totals import moved_by, sum_cut
 
 MOST_PAIRS = 2000
 MOST_ENDS = 60
+# The hull of points of more members has too many facets.
+MOST_IN_SHELL = 4
 
 
 def need_pairs(one, other):
@@ -89,7 +94,8 @@ def shadow(lot, rows):
         raise InvalidOperation("a shadow is for one to eight rows")
     if not all([is_short_row(row, length, length) for row in rows]):
         raise InvalidOperation("a shadow is for rows as long as the points")
-    points = [tuple([product_of(row, point) for row in rows]) for point in lot]
+    told = [tells(row, lot) for row in rows]
+    points = list(zip(*told))
     return cut(tuple(sorted(set(points))), MOST_POINTS)
 
 
@@ -107,8 +113,8 @@ def corners_with_ends(lot, one, other):
 def edge_told(tips, one, other):
     """EITHER ("form", form) for an edge, OR ("weights", weights, share) of the other corners, and along the edge."""
     begin, end = tips[one], tips[other]
-    columns = [difference_of(begin, tip) for tip in tips if tip != begin and tip != end]
-    return form_or_weights(columns, difference_of(end, begin), len(begin))
+    others = [tip for at, tip in enumerate(tips) if at != one and at != other]
+    return form_or_weights(((begin, others),), difference_of(end, begin))
 
 
 def edge_or_crossed(lot, one, other):
@@ -137,7 +143,7 @@ def is_edge_or_crossed(lot, one, other, value):
         if not is_whole_row(form, len(tips[0])):
             return False
         told = product_of(form, tips[one])
-        return product_of(form, tips[other]) == told and all([product_of(form, tip) < told for tip in others])
+        return product_of(form, tips[other]) == told and (not others or max(tells(form, others)) < told)
     if is_told(value, "crossed", 3):
         _, number, weights = value
         if not is_whole(number) or number < 1 or not are_weights(weights, len(tips)):
@@ -148,12 +154,8 @@ def is_edge_or_crossed(lot, one, other, value):
     return False
 
 
-def edges(lot):
-    """The ascending tuple of the pairs of indices of corners that are edges."""
-    need_lot(lot)
-    tips = corners_of(lot)
-    if len(tips) > MOST_ENDS:
-        raise TooMany(MOST_ENDS)
+def edges_alone(tips):
+    """The ascending pairs of indices of corners that are edges, told pair by pair."""
     pairs = [(one, other) for other in range(len(tips)) for one in range(other)]
     middles = {}
     for one, other in pairs:
@@ -161,4 +163,31 @@ def edges(lot):
         middles[middle] = middles.get(middle, 0) + 1
     # Two pairs with one middle cross each other.
     alone = [(one, other) for one, other in sorted(pairs) if middles[sum_of(tips[one], tips[other])] == 1]
-    return tuple([(one, other) for one, other in alone if edge_told(tips, one, other)[0] == "form"])
+    return [(one, other) for one, other in alone if edge_told(tips, one, other)[0] == "form"]
+
+
+def border_edges(tips):
+    """The same for corners of two members: those that are next to each other on the border."""
+    places = {tip: at for at, tip in enumerate(tips)}
+    way = [places[tip] for tip in way_round(sorted(tips))]
+    return sorted([(min(pair), max(pair)) for pair in zip(way, way[1:] + way[:1])])
+
+
+def edges_of(tips):
+    """The ascending pairs of indices of corners that are edges."""
+    if len(tips) <= 2:
+        return [(0, 1)][:len(tips) - 1]
+    places = independent_places(tips)
+    if len(places) > MOST_IN_SHELL:
+        return edges_alone(tips)
+    narrow = [tuple([tip[at] for at in places]) for tip in tips]
+    return border_edges(narrow) if len(places) == 2 else shell_edges(narrow)
+
+
+def edges(lot):
+    """The ascending tuple of the pairs of indices of corners that are edges."""
+    need_lot(lot)
+    tips = corners_of(lot)
+    if len(tips) > MOST_ENDS:
+        raise TooMany(MOST_ENDS)
+    return tuple(edges_of(tips))

@@ -2,10 +2,10 @@
 
 from rampworks.base.checks import is_told, is_whole_row
 from rampworks.base.lattices import kernel_of
-from rampworks.base.linear import head_place, product_of
+from rampworks.base.linear import difference_of, head_place, product_of
 from rampworks.errors import InvalidOperation, TooMany
 from rampworks.hull.corners import corners_of, need_lot
-from rampworks.hull.simplices import forms_at, independent, is_parted, leads_from, parted, volume_of
+from rampworks.hull.simplices import forms_at, is_parted, parted, volume_of
 
 MOST_CORNERS = 60
 MOST_WIDE = 4
@@ -29,17 +29,20 @@ def few_corners(lot):
 
 def volume(lot):
     """vol of the lot."""
-    return volume_of(few_corners(lot))
+    need_narrow(lot)
+    # Points that are no corners change no volume, and few points have few corners.
+    return volume_of(lot if len(lot) <= MOST_CORNERS else few_corners(lot))
 
 
 def parting(lot):
     """EITHER a parting of the lot, OR a row other than 0 that tells one number for all points."""
     tips = few_corners(lot)
-    if len(independent(tips)) <= len(lot[0]):
+    found = parted(tips)
+    if not found:
         return "flat", forms_at(tips, len(lot[0]))[0]
     places = {point: at for at, point in enumerate(lot)}
-    simplices = [tuple([places[tips[index]] for index in simplex]) for simplex in parted(tips)]
-    return "parted", tuple(simplices)
+    labels = [places[tip] for tip in tips]
+    return "parted", tuple([tuple([labels[index] for index in simplex]) for simplex in found])
 
 
 def is_parting(lot, value):
@@ -72,7 +75,9 @@ def own_volume(lot):
     tips = few_corners(lot)
     if len(tips) == 1:
         return 0, 1
-    length = len(lot[0])
-    basis = kernel_of(forms_at(tips, length), length)
-    points = [numbers_in(basis, lead) for lead in leads_from(tips)]
-    return len(basis), volume_of([(0,) * len(basis), *points])
+    forms = forms_at(tips, len(lot[0]))
+    if not forms:
+        return len(lot[0]), volume_of(tips)
+    basis = kernel_of(forms, len(lot[0]))
+    points = [numbers_in(basis, difference_of(tip, tips[0])) for tip in tips]
+    return len(basis), volume_of(sorted(points))

@@ -1,31 +1,32 @@
 """The reading of a network by rules, unit by unit."""
 
 from rampworks.base.linear import content_of, difference_of, sum_of, times
-from rampworks.hull.cuts import join_cut, sum_cut
+from rampworks.hull.cuts import guided_join
+from rampworks.hull.totals import guided_total
 from rampworks.net.networks import unit_row
 
 
 def shape_of(lot):
     """The pair (shape, number): the lot is the shape, from the point 0 on, times the number, but for a move."""
-    leads = [difference_of(point, lot[0]) for point in lot]
+    points = tuple(lot)
+    leads = [difference_of(point, points[0]) for point in points]
     number = content_of([content_of(lead) for lead in leads])
     return tuple([tuple([x // number for x in lead]) for lead in leads]), number
 
 
 def mixed_lot(parts, length, most):
-    """The corners of the sum of lots, each times a number above 0; None if they are more than `most`."""
-    place, shapes = (0,) * length, {}
+    """The sum of lots with guides, each times a number above 0; None if it has more corners than `most`."""
+    place, shapes, guides = (0,) * length, {}, {}
     for number, lot in parts:
-        place = sum_of(place, times(lot[0], number))
-        if len(lot) > 1:
+        points = tuple(lot)
+        place = sum_of(place, times(points[0], number))
+        if len(points) > 1:
             shape, size = shape_of(lot)
             shapes[shape] = shapes.get(shape, 0) + number * size
-    total = (place,)
-    for shape in shapes:
-        total = sum_cut(total, tuple([times(point, shapes[shape]) for point in shape]), most)
-        if len(total) > most:
-            return None
-    return total
+            guides[shape] = [lot[point] for point in points]
+    grown = [{times(point, shapes[shape]): form for point, form in zip(shape, guides[shape])} for shape in shapes]
+    total = guided_total([{place: None}] + sorted(grown, key=len), most, True)
+    return None if len(total) > most else total
 
 
 def row_told(row, told, length, most):
@@ -46,13 +47,14 @@ def row_told(row, told, length, most):
 def lots_of(network, most):
     """The reading of a network, None if one of the lots on the way has more corners than `most`."""
     length = network.inputs
-    told = [((unit_row(at, length),), ((0,) * length,)) for at in range(length)]
+    told = [({unit_row(at, length): None}, {(0,) * length: None}) for at in range(length)]
     for unit in network.units:
         lots = row_told(unit, told, length, most)
         if lots is None:
             return None
-        above = join_cut(lots[0], lots[1], most)
+        above = guided_join(lots[0], lots[1], most)
         if len(above) > most:
             return None
-        told = told + [(above, lots[1])]
-    return row_told(network.last, told, length, most)
+        told.append((above, lots[1]))
+    lots = row_told(network.last, told, length, most)
+    return None if lots is None else (tuple(lots[0]), tuple(lots[1]))

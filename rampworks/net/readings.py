@@ -3,7 +3,8 @@
 from rampworks.base.checks import is_short_row, need_number
 from rampworks.errors import InvalidOperation, InvalidReading, InvalidRow, TooMany
 from rampworks.hull.corners import MOST_MEMBERS, corners_of, is_lot
-from rampworks.hull.cuts import are_sums_alike, greatest_value
+from rampworks.hull.cuts import greatest_value
+from rampworks.hull.totals import are_sums_alike
 from rampworks.hull.sums import bounded_join, bounded_sum, need_pairs, scaled_by
 from rampworks.net.mixes import lots_of
 from rampworks.net.networks import Network, added, form_network, greater, multiplied, need_network
