@@ -56,4 +56,41 @@ raises InvalidNetwork
 [(((0, 1), (1, 0)), ((0, 0),)), (((0, 0),), ((0, 0), (0, 2), (2, 0))), (((0, 0), (0, 1), (1, 0)), ((0, 0), (1, 1)))]
 >>> [network_of((TRIANGLE, POINT)).depth, is_network_of((STICK, POINT), GREATER), do_agree((SQUARE, STICK), (SQUARE, STICK))]
 [2, False, True]
+>>> ABS, TWICE = Network(1, (((1,), (-1,)),), (0, 1, 1)), Network(1, (((2,),),), (-1, 1))
+>>> [alike_or_point(ABS, TWICE), alike_or_point(ABS, Network(1, (((1,),),), (0, 1)))[0], is_alike_or_point(ABS, Network(1, (((1,),),), (0, 1)), ("point", (-3,)))]
+[('alike',), 'point', True]
+>>> STEP = Network(2, (((1, -1),),), (0, 1, 1))
+>>> [greatest_or_rows(STEP), greatest_or_rows(Network(2, (((1, -1),),), (0, 1, -1)))[0], straight_or_rows(Network(1, (((1,), (-1,)),), (0, 1, -1)))]
+[('greatest', ((0, 1), (1, 0))), 'rows', ('straight', (1,))]
+>>> [is_greatest_or_rows(Network(2, (((1, -1),),), (0, 1, -1)), ("rows", (1, 0), (-1, 0))), alike_along(STEP, Network(2, (), (1, 0)), ((1, 1),)), is_alike_along(STEP, Network(2, (), (1, 0)), ((1, 2),), ("numbers", (1,)))]
+[True, ('alike',), True]
+>>> needless(Network(1, (((1,), (-1,), (1,)),), (0, 1, 0, 2)))
+((0, 1),)
+>>> GROWN = ("join", ("sum", (("join", ("point", (0, 0)), ("point", (1, 0))), ("point", (0, 0)))), ("point", (0, 1)))
+>>> [level_of(GROWN), grown(GROWN), is_growth(("sum", ())), is_growth(("join", ("point", (0,)), ("point", (1, 0)))), grown(("times", 3, GROWN))]
+[2, ((0, 0), (0, 1), (1, 0)), False, False, ((0, 0), (0, 3), (3, 0))]
+>>> growths_of(Network(2, (((1, -2),),), (0, 1, 3)))
+(('sum', (('point', (0, 1)), ('times', 3, ('join', ('sum', (('point', (1, 0)), ('times', 2, ('point', (0, 0))))), ('sum', (('point', (0, 0)), ('times', 2, ('point', (0, 1))))))))), ('sum', (('point', (0, 0)), ('times', 3, ('sum', (('point', (0, 0)), ('times', 2, ('point', (0, 1)))))))))
+>>> [parity((TRIANGLE, POINT)), parity((((0, 0), (0, 1), (1, 0), (1, 1)), POINT)), barred((TRIANGLE, POINT)), barred((((0, 0), (2, 1)), POINT)), barred((((0,), (3,)), ((0,),)))]
+[1, 0, 1, None, 0]
+>>> parity((((0, 0, 0), (1, 0, 0)), ((0, 0, 0),)))
+raises InvalidOperation
+>>> [least_layers(many) for many in (1, 2, 3, 4, 5, 6)]
+[0, 1, 2, 2, 3, 3]
+>>> [does_tell_greatest(greatest_network(5)), greatest_network(5).depth, does_tell_greatest(Network(2, (((-1, 1),),), (1, 0, 1)))]
+[True, 3, True]
+>>> [greatest_or_bar(3, 1)[0], greatest_or_bar(4, 2)[0], is_greatest_or_bar(3, 1, ("barred", ((0, 0), (1, 0), (0, 1)))), is_greatest_or_bar(3, 1, ("barred", ((0, 0), (1, 0), (0, 2))))]
+['barred', 'network', True, False]
+>>> THREE = round_of((TRIANGLE, POINT))
+>>> [THREE, round_of((STICK, POINT)), value_of_round(THREE, (-2, 5)), form_behind(THREE, (1, 1)), form_behind(THREE, (0, -1))]
+[((1, 0), (((1, 1), 1), ((-1, 0), 1), ((0, -1), 1))), ((1, 1), (((-1, 1), 1), ((1, -1), 1))), 5, (0, 1), (1, 0)]
+>>> [put_between((1, 0), (2, 5)), smooth_fan(((-1, -1),)), is_smooth(((1, 0), (0, 1), (-1, -1))), is_smooth(((1, 0), (0, 1), (-1, 0)))]
+[((1, 1), (1, 2)), ((1, 0), (0, 1), (-1, 0), (-1, -1), (0, -1)), True, False]
+>>> AXES = ((1, 0), (0, 1), (-1, 0), (0, -1))
+>>> [values_on(THREE, AXES), round_by_values(AXES, (1, 1, 0, 0)), is_round(((0, 0), (((1, 0), 2), ((-1, 0), 1))))]
+[(1, 1, 0, 0), ((1, 1), (((1, 0), 1), ((0, 1), 1), ((-1, 0), 1), ((0, -1), 1))), False]
+>>> put_between((1, 0), (1000, 1))
+()
+>>> put_between((1, 0), (1, 1000))
+raises TooMany(64)
 """

@@ -7,8 +7,10 @@ from tests.helpers import same
 
 from rampworks import errors
 from rampworks.base import rows
+from rampworks.depth import bars, greatest
 from rampworks.hull import corners, sums, volumes
-from rampworks.net import networks, readings
+from rampworks.net import alike, networks, readings
+from rampworks.plane import fans
 
 
 def steps():
@@ -24,7 +26,7 @@ class Examples(unittest.TestCase):
 
     def test_all(self):
         names, told = {}, 0
-        for module in (errors, rows, corners, sums, volumes, networks, readings):
+        for module in (errors, rows, corners, sums, volumes, networks, readings, alike, bars, greatest, fans):
             names.update({name: kept for name, kept in vars(module).items() if not name.startswith("_")})
         for statement, shown in steps():
             with self.subTest(statement):
@@ -36,7 +38,7 @@ class Examples(unittest.TestCase):
                 else:
                     got, expected = eval(statement, names), eval(shown, {})
                     self.assertTrue(same(expected, got), f"{got!r} is not {expected!r}")
-        self.assertEqual(told, 30)
+        self.assertEqual(told, 51)
 
     def raises(self, statement, shown, names):
         name, _, kept = shown.partition("(")

@@ -28,14 +28,31 @@ LISTED = {
         "is_reading(value)", "value_at_reading(reading, row)", "reading_of(network)", "reading_of_form(row)",
         "added_reading(one, other)", "multiplied_reading(reading, number)", "ramped_reading(reading)",
         "greater_reading(one, other)", "do_agree(one, other)", "is_reading_of(network, value)", "network_of(reading)",
-        "is_network_of(reading, value)")}
+        "is_network_of(reading, value)"),
+    "rampworks.net.alike": (
+        "alike_or_point(one, other)", "is_alike_or_point(one, other, value)", "alike_along(one, other, rows)",
+        "is_alike_along(one, other, rows, value)", "greatest_or_rows(network)", "is_greatest_or_rows(network, value)",
+        "straight_or_rows(network)", "is_straight_or_rows(network, value)", "needless(network)"),
+    "rampworks.depth.bars": (
+        "is_growth(value)", "level_of(growth)", "grown(growth)", "growths_of(network)", "are_growths(network, value)",
+        "parity(reading)", "barred(reading)"),
+    "rampworks.depth.greatest": (
+        "least_layers(many)", "greatest_network(many)", "does_tell_greatest(network)", "greatest_or_bar(many, layers)",
+        "is_greatest_or_bar(many, layers, value)"),
+    "rampworks.plane.fans": (
+        "is_ray(value)", "is_round(value)", "is_smooth(value)", "round_of(reading)", "value_of_round(told, row)",
+        "form_behind(told, row)", "put_between(ray, other)", "smooth_fan(rays)", "values_on(told, fan)",
+        "round_by_values(fan, values)")}
 CONSTANTS = {
     "rampworks.base.rows": {"MOST_LENGTH": 16, "MOST_ROWS": 400},
     "rampworks.hull.corners": {"MOST_POINTS": 400},
     "rampworks.hull.sums": {"MOST_PAIRS": 2000, "MOST_ENDS": 60},
     "rampworks.hull.volumes": {"MOST_CORNERS": 60},
     "rampworks.net.networks": {"MOST_INPUTS": 8, "MOST_LAYERS": 4, "MOST_IN_LAYER": 64, "MOST_UNITS": 128},
-    "rampworks.net.readings": {"MOST_READ": 60}}
+    "rampworks.net.readings": {"MOST_READ": 60},
+    "rampworks.depth.bars": {"MOST_WORDS": 400, "MOST_DEEP": 16},
+    "rampworks.depth.greatest": {"MOST_NUMBERS": 6},
+    "rampworks.plane.fans": {"MOST_RAYS": 64, "MOST_BENDS": 800}}
 
 
 class Interface(unittest.TestCase):

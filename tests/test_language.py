@@ -81,7 +81,7 @@ class Language(unittest.TestCase):
                     self.assertEqual(at, 0)
                 elif isinstance(node, ast.Assign):
                     self.assertEqual(len(node.targets), 1)
-                    self.assertIsInstance(eval(ast.unparse(node.value), {}), int)
+                    self.assertIsInstance(eval(ast.unparse(node.value), {}), (int, tuple, dict))
                     bound.append(node.targets[0].id)
                 elif isinstance(node, ast.ImportFrom):
                     bound.extend(alias.name for alias in node.names)
@@ -369,7 +369,7 @@ class Language(unittest.TestCase):
             if file.name != "errors.py":
                 for node in ast.walk(tree):
                     if isinstance(node, (ast.FunctionDef, ast.ClassDef)) and node.name not in DOUBLE:
-                        self.assertIn(node.name, used | listed, file.name)
+                        self.assertTrue(node.name in used | listed, f"{node.name} in {file.name}")
 
     def test_each_part_says_what_it_does(self):
         for file, text, tree in self.each():

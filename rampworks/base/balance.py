@@ -109,7 +109,7 @@ class Balance:
         self.price = [(lead * x - worth * y) // last for x, y in zip(self.price, head)]
         self.bottom = lead
 
-    def form(self):
+    def told_form(self):
         """The form of the price, in lowest terms."""
         found = [-x for x in self.price[:-1]]
         size = max(1, content_of(found))
@@ -177,6 +177,6 @@ def form_or_weights(groups, free):
         return "form", (0,) * len(groups[0][0])
     table = settled(groups, free, None)
     if table.price[-1] != 0:
-        return "form", table.form()
+        return "form", table.told_form()
     weights, share = table.weights()
     return "weights", weights, share

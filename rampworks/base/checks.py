@@ -80,6 +80,20 @@ def is_told(value, word, many):
     return isinstance(value, tuple) and len(value) == many and value[0] == word
 
 
+def is_just(value, told):
+    """Whether the value is the told one, of integers, strings and tuples, with members of the same kinds."""
+    if isinstance(told, tuple):
+        if not isinstance(value, tuple) or len(value) != len(told):
+            return False
+        for x, y in zip(value, told):
+            if not is_just(x, y):
+                return False
+        return True
+    if isinstance(told, str):
+        return isinstance(value, str) and value == told
+    return is_whole(value) and value == told
+
+
 def need_number(number):
     """Refuses what is no integer that can be passed."""
     if not is_short(number):

@@ -128,13 +128,20 @@ def single_cut(points, known, most, guesses):
             others = [other for other in left if other != point]
             table = settled(((point, others),), None, guesses.get(point))
             if table.price[-1] != 0:
-                found[point] = table.form()
+                found[point] = table.told_form()
             else:
                 left = others
             for top, price in table.tops:
                 if found.get(top) is None:
                     found[top] = tuple([-x for x in price])
     return {point: found[point] for point in sorted(found)}
+
+
+def shadow_of(lot, rows):
+    """The corners of the rows of the products of some rows with each point of a lot."""
+    lines = [tells(row, lot) for row in rows]
+    points = list(zip(*lines))
+    return cut(tuple(sorted(set(points))), len(points))
 
 
 def join_cut(one, other, most):

@@ -6,7 +6,7 @@ from rampworks.base.linear import difference_of, mixture, product_of, sum_of, te
 from rampworks.errors import InvalidNumber, InvalidOperation, TooMany
 from rampworks.hull.borders import way_round
 from rampworks.hull.corners import MOST_MEMBERS, MOST_POINTS, corners_of, need_lot, need_lot_and_row, need_lots
-from rampworks.hull.cuts import cut, greatest_points, independent_places, join_cut
+from rampworks.hull.cuts import greatest_points, independent_places, join_cut, shadow_of
 from rampworks.hull.shells import shell_edges
 from rampworks.hull.totals import moved_by, sum_cut
 
@@ -94,9 +94,7 @@ def shadow(lot, rows):
         raise InvalidOperation("a shadow is for one to eight rows")
     if not all([is_short_row(row, length, length) for row in rows]):
         raise InvalidOperation("a shadow is for rows as long as the points")
-    told = [tells(row, lot) for row in rows]
-    points = list(zip(*told))
-    return cut(tuple(sorted(set(points))), MOST_POINTS)
+    return shadow_of(lot, rows)
 
 
 def corners_with_ends(lot, one, other):

@@ -180,23 +180,3 @@ def form_alone(left, right, pair):
     told = form_or_weights((
         (left[at], left[:at] + left[at + 1:]), (right[beside], right[:beside] + right[beside + 1:])), None)
     return told[1] if told[0] == "form" else None
-
-
-def are_sums_alike(one, other, third, fourth):
-    """Whether the sum of the first two cut lots and that of the last two have the same corners."""
-    # What is on both sides can be taken off.
-    for left, beside in ((one, other), (other, one)):
-        if left == third:
-            return beside == fourth
-        if left == fourth:
-            return beside == third
-    ways, across = ways_of(one, other), ways_of(third, fourth)
-    return has_corners_in(one, other, ways, across) and has_corners_in(third, fourth, across, ways)
-
-
-def has_corners_in(one, other, ways, across):
-    """Whether all corners of the sum of two lots, told by its ways, are among the points across."""
-    for total in ways:
-        if total not in across and ways[total] is not None and form_alone(one, other, ways[total]) is not None:
-            return False
-    return True

@@ -44,17 +44,66 @@ def row_told(row, told, length, most):
     return None if right is None else (left, right)
 
 
-def lots_of(network, most):
-    """The reading of a network, None if one of the lots on the way has more corners than `most`."""
+def unit_told(unit, told, length, most):
+    """The same for a unit: the join of both lots, and the second one of them."""
+    lots = row_told(unit, told, length, most)
+    if lots is None:
+        return None
+    above = guided_join(lots[0], lots[1], most)
+    return None if len(above) > most else (above, lots[1])
+
+
+def inputs_told(length):
+    """The pairs of lots of the inputs."""
+    return [({unit_row(at, length): None}, {(0,) * length: None}) for at in range(length)]
+
+
+def parts_told(network, most):
+    """The pairs of lots of the inputs and of all units, and behind them that of the last row.
+
+    None if one of the lots on the way has more corners than `most`.
+    """
     length = network.inputs
-    told = [({unit_row(at, length): None}, {(0,) * length: None}) for at in range(length)]
+    told = inputs_told(length)
     for unit in network.units:
-        lots = row_told(unit, told, length, most)
+        lots = unit_told(unit, told, length, most)
         if lots is None:
             return None
-        above = guided_join(lots[0], lots[1], most)
-        if len(above) > most:
-            return None
-        told.append((above, lots[1]))
+        told.append(lots)
     lots = row_told(network.last, told, length, most)
-    return None if lots is None else (tuple(lots[0]), tuple(lots[1]))
+    return None if lots is None else [*told, lots]
+
+
+def plain_lots(lots):
+    """A pair of lots with guides, without these."""
+    return tuple(lots[0]), tuple(lots[1])
+
+
+def lots_of(network, most):
+    """The reading of a network, None if one of the lots on the way has more corners than `most`."""
+    told = parts_told(network, most)
+    return None if told is None else plain_lots(told[-1])
+
+
+def lots_without(network, told, place, most):
+    """The reading of the network with 0 in place of all members for the part at the place, of which all are told.
+
+    None if one of its lots on the way has more corners than `most`.
+    """
+    length, found = network.inputs, list(told[:place + 1])
+    changed = {place: True}
+    for at, row in enumerate([*network.units, network.last]):
+        index = length + at
+        if index <= place:
+            continue
+        if not any([row[k] != 0 for k in changed if k < len(row)]):
+            found.append(told[index])
+            continue
+        left = [0 if k == place else x for k, x in enumerate(row)]
+        is_last = index == len(told) - 1
+        lots = row_told(left, found, length, most) if is_last else unit_told(left, found, length, most)
+        if lots is None:
+            return None
+        changed[index] = True
+        found.append(lots)
+    return plain_lots(found[-1])

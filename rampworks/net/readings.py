@@ -4,7 +4,7 @@ from rampworks.base.checks import is_short_row, need_number
 from rampworks.errors import InvalidOperation, InvalidReading, InvalidRow, TooMany
 from rampworks.hull.corners import MOST_MEMBERS, corners_of, is_lot
 from rampworks.hull.cuts import greatest_value
-from rampworks.hull.totals import are_sums_alike
+from rampworks.hull.matches import are_alike
 from rampworks.hull.sums import bounded_join, bounded_sum, need_pairs, scaled_by
 from rampworks.net.mixes import lots_of
 from rampworks.net.networks import Network, added, form_network, greater, multiplied, need_network
@@ -106,7 +106,7 @@ def greater_reading(one, other):
 
 def tell_the_same(one, other):
     """Whether two readings of corners alone tell the same for all rows."""
-    return are_sums_alike(one[0], other[1], other[0], one[1])
+    return are_alike((one[0], other[1]), (other[0], one[1]))
 
 
 def do_agree(one, other):

@@ -1,0 +1,1 @@
+"""How lots grow, which layers are bars to what, and the greatest of some numbers."""

@@ -1,0 +1,1 @@
+"""Functions of two inputs: their rounds, their depth, their least readings."""
