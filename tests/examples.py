@@ -93,4 +93,44 @@ raises InvalidOperation
 ()
 >>> put_between((1, 0), (1, 1000))
 raises TooMany(64)
+>>> PEAK, FLAT = (TRIANGLE, POINT), (((0, 0), (1, 0)), ((0, 0), (0, 1)))
+>>> [least_depth(PEAK), least_depth(FLAT), least_depth((SQUARE, POINT)), least_depth((((2, 3),), POINT)), unit_counts(PEAK), unit_counts((SQUARE, POINT))]
+[2, 1, 1, 0, (1, 1), (3, 2)]
+>>> [cut_up(SQUARE), cut_up(((0, 0), (1, 1), (2, 2))), depth_paper(FLAT), depth_paper((((2, 3),), POINT))]
+[((((0, 0), (1, 0), (1, 1)), ((0, 0), (0, 1), (1, 1))), (((0, 0), (1, 1)),)), ((((0, 0), (2, 2)),), ()), ('planes', (0, 0), (((0, 1), -1), ((1, 0), 1))), ('form', (2, 3))]
+>>> [is_depth_paper(PEAK, ("unlike", (1, 1), 1, 0)), is_depth_paper(PEAK, ("unlike", (1, 0), 0, 1)), is_depth_paper(PEAK, ("unlike", (0, 1), 1, 0)), network_for(PEAK).depth]
+[True, True, False, 2]
+>>> cut_up(((0,), (1,)))
+raises InvalidOperation
+>>> SLANT, ALSO = (((0, 0), (1, 0), (1, 1)), ((0, 0), (1, 1), (2, 1))), (SQUARE, ((0, 0), (0, 1), (2, 1)))
+>>> [border(SLANT[0]), border(STICK), border(POINT), rest(ALSO) == rest(SLANT)]
+[{(-1, -1): 1, (0, 1): 1, (1, 0): 1}, {(-1, -1): 1, (1, 1): 1}, {}, True]
+>>> [least_reading(ALSO) == SLANT, is_least(SLANT), is_least(ALSO), least_reading((SQUARE, SQUARE)), least_reading((STICK, ((0, 0), (2, 2))))]
+[True, True, False, (((0, 0),), ((0, 0),)), (((0, 0),), ((0, 0), (1, 1)))]
+>>> [taken_off(ALSO), taken_off(SLANT), is_least_within(ALSO, (0, 0)), is_least_within(ALSO, (0, 1))]
+[(((0, 0), (0, 1), (1, 1)), ((0, 0), (1, 1)), (0, 0)), (((0, 0), (1, 1)), ((0, 0), (1, 1)), (0, 0)), True, False]
+>>> [row_between(ALSO, SLANT), row_between(ALSO, (SQUARE, POINT)), lot_of({(0, -1): 2, (0, 1): 2}), lot_of(border(TRIANGLE)) == TRIANGLE]
+[(0, 0), None, ((0, 0), (0, 2)), True]
+>>> border(((1, 2, 3),))
+raises InvalidOperation
+>>> HEXAGON, SOLID = ((0, 0), (0, 1), (1, 0), (1, 2), (2, 1), (2, 2)), ((0, 0, 0), (0, 0, 1), (0, 1, 0), (1, 0, 0))
+>>> [made_by((0, 0), (((0, 1), 1), ((1, 0), 1), ((1, 1), 1))) == HEXAGON, sticks_or_plate(HEXAGON)]
+[True, ('sticks', (0, 0), (((0, 1), 1), ((1, 0), 1), ((1, 1), 1)))]
+>>> [sticks_or_plate(TRIANGLE), is_sticks_or_plate(SOLID, ("plate", (0, 0, -1))), is_sticks_or_plate(SOLID, ("plate", (1, 1, 1))), is_sticks_or_plate(SOLID, ("plate", (1, 0, 0)))]
+[('plate', (0, 0)), True, True, False]
+>>> [plate_at(SOLID, (0, 0, -1)), plate_at(SOLID, (1, 1, 0)), plate_at(STICK, (0, 0)), is_symmetric(HEXAGON), is_symmetric(TRIANGLE)]
+[((0, 0, 0), (0, 1, 0), (1, 0, 0)), None, None, True, False]
+>>> PRISM = ((0, 0, 0), (0, 0, 2), (0, 1, 0), (0, 1, 2), (1, 0, 0), (1, 0, 2))
+>>> [bared(PRISM), most_stick(PRISM, (0, 0, 1)), most_stick(PRISM, (0, 1, 0)), bared(((2, 2), (5, 8)))]
+[((((0, 0, 1), 2),), ((0, 0, 0), (0, 1, 0), (1, 0, 0))), 2, 0, ((((1, 2), 3),), ((2, 2),))]
+>>> most_stick(PRISM, (0, 0, 2))
+raises InvalidOperation
+>>> [bends((SQUARE, POINT)), bends((TRIANGLE, POINT)), bends((TRIANGLE, TRIANGLE))]
+[(((0, 1), 1, 1), ((1, 0), 1, 1)), (((0, 1), 0, 1), ((1, -1), 0, 1), ((1, 0), 0, 1)), ()]
+>>> [is_place((TRIANGLE, POINT), ((1, 0), (0, -1))), bend_at((TRIANGLE, POINT), ((1, 0), (0, -1))), bend_at((TRIANGLE, POINT), ((1, 0), (0, 1))), is_place((TRIANGLE, POINT), ((1, 0), (0, 0)))]
+[True, 1, 0, False]
+>>> [layer_or_places((SQUARE, POINT))[0], least_units((SQUARE, POINT)), is_layer_or_places((TRIANGLE, POINT), ("places", ((1, 0), (0, -1)), ((1, 0), (0, 1)))), layer_or_places((STICK, STICK))[1].depth]
+['layer', 2, True, 0]
+>>> bend_at((TRIANGLE, POINT), ((1, 0), (0, 0)))
+raises InvalidOperation
 """

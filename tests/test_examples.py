@@ -10,7 +10,8 @@ from rampworks.base import rows
 from rampworks.depth import bars, greatest
 from rampworks.hull import corners, sums, volumes
 from rampworks.net import alike, networks, readings
-from rampworks.plane import fans
+from rampworks.plane import depth, fans, least
+from rampworks.stick import layer, sticks
 
 
 def steps():
@@ -26,7 +27,8 @@ class Examples(unittest.TestCase):
 
     def test_all(self):
         names, told = {}, 0
-        for module in (errors, rows, corners, sums, volumes, networks, readings, alike, bars, greatest, fans):
+        for module in (errors, rows, corners, sums, volumes, networks, readings, alike, bars, greatest, fans, depth,
+                       least, sticks, layer):
             names.update({name: kept for name, kept in vars(module).items() if not name.startswith("_")})
         for statement, shown in steps():
             with self.subTest(statement):
@@ -38,7 +40,7 @@ class Examples(unittest.TestCase):
                 else:
                     got, expected = eval(statement, names), eval(shown, {})
                     self.assertTrue(same(expected, got), f"{got!r} is not {expected!r}")
-        self.assertEqual(told, 51)
+        self.assertEqual(told, 73)
 
     def raises(self, statement, shown, names):
         name, _, kept = shown.partition("(")

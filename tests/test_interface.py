@@ -42,7 +42,19 @@ LISTED = {
     "rampworks.plane.fans": (
         "is_ray(value)", "is_round(value)", "is_smooth(value)", "round_of(reading)", "value_of_round(told, row)",
         "form_behind(told, row)", "put_between(ray, other)", "smooth_fan(rays)", "values_on(told, fan)",
-        "round_by_values(fan, values)")}
+        "round_by_values(fan, values)"),
+    "rampworks.plane.depth": (
+        "cut_up(lot)", "unit_counts(reading)", "least_depth(reading)", "depth_paper(reading)",
+        "is_depth_paper(reading, value)", "network_for(reading)"),
+    "rampworks.plane.least": (
+        "border(lot)", "lot_of(border)", "rest(reading)", "row_between(one, other)", "least_reading(reading)",
+        "is_least(reading)", "taken_off(reading)", "least_within(reading)", "is_least_within(reading, value)"),
+    "rampworks.stick.sticks": (
+        "is_bundle(value)", "made_by(row, bundle)", "is_symmetric(lot)", "plate_at(lot, row)", "most_stick(lot, row)",
+        "bared(lot)", "sticks_or_plate(lot)", "is_sticks_or_plate(lot, value)"),
+    "rampworks.stick.layer": (
+        "is_place(reading, value)", "bend_at(reading, place)", "bends(reading)", "layer_or_places(reading)",
+        "is_layer_or_places(reading, value)", "least_units(reading)")}
 CONSTANTS = {
     "rampworks.base.rows": {"MOST_LENGTH": 16, "MOST_ROWS": 400},
     "rampworks.hull.corners": {"MOST_POINTS": 400},
@@ -52,7 +64,9 @@ CONSTANTS = {
     "rampworks.net.readings": {"MOST_READ": 60},
     "rampworks.depth.bars": {"MOST_WORDS": 400, "MOST_DEEP": 16},
     "rampworks.depth.greatest": {"MOST_NUMBERS": 6},
-    "rampworks.plane.fans": {"MOST_RAYS": 64, "MOST_BENDS": 800}}
+    "rampworks.plane.fans": {"MOST_RAYS": 64, "MOST_BENDS": 800},
+    "rampworks.plane.least": {"MOST_EDGES": 400},
+    "rampworks.stick.sticks": {"MOST_STICKS": 30}}
 
 
 class Interface(unittest.TestCase):

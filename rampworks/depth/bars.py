@@ -3,8 +3,8 @@
 from rampworks.base.checks import BENEATH, BEYOND, is_told, is_whole, is_whole_row
 from rampworks.base.linear import times
 from rampworks.errors import InvalidGrowth, InvalidOperation, TooMany
-from rampworks.hull.corners import MOST_MEMBERS, corners_of
-from rampworks.hull.cuts import join_cut
+from rampworks.hull.corners import MOST_MEMBERS
+from rampworks.hull.cuts import cut, join_cut
 from rampworks.hull.simplices import volume_of
 from rampworks.net.mixes import mixed_lot
 from rampworks.net.networks import need_network, unit_row
@@ -180,7 +180,7 @@ def parity(reading):
         raise InvalidOperation("a parity is told for one, two or four members")
     lots = []
     for lot in reading:
-        tips = corners_of(lot)
+        tips = cut(lot, MOST_READ)
         if len(tips) > MOST_READ:
             raise TooMany(MOST_READ)
         lots.append(tips)

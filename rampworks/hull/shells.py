@@ -121,9 +121,8 @@ def shell_of(points):
     return shell
 
 
-def faces_at(tips):
-    """For each of the corners of a lot, not all on one plane, its facets: sums of 2 ** index of their corners."""
-    shell = shell_of(tips)
+def faces_of(shell, tips):
+    """For each of the corners that a shell is made of its facets: sums of 2 ** index of their corners."""
     places = {tip: at for at, tip in enumerate(tips)}
     labels = [places[point] for point in shell.points]
     masks = {}
@@ -143,11 +142,11 @@ def faces_at(tips):
     return found
 
 
-def shell_edges(tips):
+def edges_between(faces):
     """The ascending pairs of indices of corners that are all of the corners that some facets have in common."""
-    faces, found = faces_at(tips), []
-    for one in range(len(tips)):
-        for other in range(one + 1, len(tips)):
+    found = []
+    for one in range(len(faces)):
+        for other in range(one + 1, len(faces)):
             both = 1 << one | 1 << other
             common = 0
             for mask in faces[one]:

@@ -4,10 +4,9 @@ from rampworks.base.balance import form_or_weights
 from rampworks.base.checks import are_weights, is_short_row, is_told, is_whole, is_whole_row, need_index, need_number
 from rampworks.base.linear import difference_of, mixture, product_of, sum_of, tells, times
 from rampworks.errors import InvalidNumber, InvalidOperation, TooMany
-from rampworks.hull.borders import way_round
 from rampworks.hull.corners import MOST_MEMBERS, MOST_POINTS, corners_of, need_lot, need_lot_and_row, need_lots
 from rampworks.hull.cuts import greatest_points, independent_places, join_cut, shadow_of
-from rampworks.hull.shells import shell_edges
+from rampworks.hull.frames import frame_at
 from rampworks.hull.totals import moved_by, sum_cut
 
 MOST_PAIRS = 2000
@@ -164,22 +163,13 @@ def edges_alone(tips):
     return [(one, other) for one, other in alone if edge_told(tips, one, other)[0] == "form"]
 
 
-def border_edges(tips):
-    """The same for corners of two members: those that are next to each other on the border."""
-    places = {tip: at for at, tip in enumerate(tips)}
-    way = [places[tip] for tip in way_round(sorted(tips))]
-    return sorted([(min(pair), max(pair)) for pair in zip(way, way[1:] + way[:1])])
-
-
 def edges_of(tips):
     """The ascending pairs of indices of corners that are edges."""
-    if len(tips) <= 2:
-        return [(0, 1)][:len(tips) - 1]
     places = independent_places(tips)
     if len(places) > MOST_IN_SHELL:
         return edges_alone(tips)
-    narrow = [tuple([tip[at] for at in places]) for tip in tips]
-    return border_edges(narrow) if len(places) == 2 else shell_edges(narrow)
+    found, _ = frame_at(tips, places)
+    return found
 
 
 def edges(lot):

@@ -4,7 +4,8 @@ from rampworks.base.checks import is_told, is_whole_row
 from rampworks.base.lattices import kernel_of
 from rampworks.base.linear import difference_of, head_place, product_of
 from rampworks.errors import InvalidOperation, TooMany
-from rampworks.hull.corners import corners_of, need_lot
+from rampworks.hull.corners import need_lot
+from rampworks.hull.cuts import cut
 from rampworks.hull.simplices import forms_at, is_parted, parted, volume_of
 
 MOST_CORNERS = 60
@@ -21,7 +22,7 @@ def need_narrow(lot):
 def few_corners(lot):
     """The corners of a lot, refused if they are too many."""
     need_narrow(lot)
-    tips = corners_of(lot)
+    tips = cut(lot, MOST_CORNERS)
     if len(tips) > MOST_CORNERS:
         raise TooMany(MOST_CORNERS)
     return tips

@@ -3,11 +3,11 @@
 from math import gcd
 
 from rampworks.base.checks import are_short, is_short_row, is_whole, is_whole_row
-from rampworks.base.linear import difference_of, product_of
+from rampworks.base.linear import product_of
 from rampworks.errors import InvalidOperation, InvalidRow, TooMany
-from rampworks.hull.borders import way_round
 from rampworks.net.readings import need_reading
 from rampworks.plane.turns import are_in_turn, det, in_turn, is_ahead, rays_between, smoothed
+from rampworks.plane.walks import first_form, rest_of
 
 MOST_RAYS = 64
 MOST_BENDS = 800
@@ -82,36 +82,18 @@ def need_plane_reading(reading):
         raise InvalidOperation("points have two members here")
 
 
-def edge_rays(points):
-    """For each edge of the hull of ascending points the ray that leads out of it: what divides the edge."""
-    way, found = way_round(points), {}
-    if len(way) > 1:
-        for one, other in zip(way, way[1:] + way[:1]):
-            x, y = difference_of(other, one)
-            size = gcd(x, y)
-            found[(y // size, -x // size)] = size
-    return found
-
-
-def bends_of(reading):
-    """For each ray at which the function of the reading bends by how much."""
-    found = edge_rays(reading[0])
-    others = edge_rays(reading[1])
-    for ray in others:
-        found[ray] = found.get(ray, 0) - others[ray]
-    return {ray: found[ray] for ray in found if found[ray] != 0}
-
-
-def first_form(reading):
-    """The form of the function of a reading just behind (1, 0)."""
-    return difference_of(reading[0][-1], reading[1][-1])
+def round_told(reading):
+    """The round of the function of a reading of points with two members."""
+    found = rest_of(reading)
+    # The ray that leads straight out of an edge is the row of this, turned back by a quarter.
+    bends = {(y, -x): found[(x, y)] for x, y in found}
+    return first_form(reading), tuple([(ray, bends[ray]) for ray in in_turn(list(bends))])
 
 
 def round_of(reading):
     """The round of the function of the reading."""
     need_plane_reading(reading)
-    found = bends_of(reading)
-    return first_form(reading), tuple([(ray, found[ray]) for ray in in_turn(list(found))])
+    return round_told(reading)
 
 
 def forms_behind(told, rows):

@@ -1,0 +1,1 @@
+"""Sums of sticks, and networks of one layer."""
