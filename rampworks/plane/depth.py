@@ -4,7 +4,7 @@ from rampworks.base.checks import is_just, is_told, is_whole
 from rampworks.base.linear import difference_of, sum_of, times
 from rampworks.errors import InvalidOperation, TooMany
 from rampworks.hull.borders import way_round
-from rampworks.net.networks import MOST_IN_LAYER, Network, form_network
+from rampworks.net.networks import MOST_IN_LAYER, Network, form_network, unit_row
 from rampworks.plane.fans import is_ray, need_plane_reading
 from rampworks.plane.least import least_steps, least_told, need_plane_lot
 from rampworks.plane.walks import corners_walked, first_form, rest_of
@@ -139,9 +139,9 @@ def deep_network(least):
     units = tuple([row for row, _ in first])
     further = []
     for place, row, _ in second:
-        further.append((*row, *[1 if at == place else 0 for at in range(len(first))]))
-    last = (*form, *[weight for _, weight in first], *[weight for _, _, weight in second])
-    return Network(2, (units, tuple(further)), last)
+        further.append(row + unit_row(place, len(first)))
+    weights = [weight for _, weight in first] + [weight for _, _, weight in second]
+    return Network(2, (units, tuple(further)), form + tuple(weights))
 
 
 def network_for(reading):
@@ -156,7 +156,7 @@ def network_for(reading):
     if depth == 1:
         form, planes = planes_of(reading, found)
         need_few_units(len(planes))
-        return Network(2, (tuple([row for row, _ in planes]),), (*form, *[c for _, c in planes]))
+        return Network(2, (tuple([row for row, _ in planes]),), form + tuple([c for _, c in planes]))
     above, below, _ = least_steps(reading)
     for many in sum_of(counts_of(corners_walked(above)), counts_of(corners_walked(below))):
         need_few_units(many)

@@ -154,7 +154,7 @@ def layer_network(form, planes):
     """The network of one layer with a unit for each plane, or without layers if there is none."""
     if not planes:
         return form_network(form)
-    return Network(len(form), (tuple(planes),), (*form, *[planes[row] for row in planes]))
+    return Network(len(form), (tuple(planes),), form + tuple([planes[row] for row in planes]))
 
 
 def layer_or_places(reading):
