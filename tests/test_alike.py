@@ -95,9 +95,14 @@ class Alike(Case):
         for _ in range(10):
             length = self.source.randint(1, 3)
             one, other, third = (random_lot(self.source, 3, length, 3) for _ in range(3))
-            network, beside = network_of((one, other)), network_of((summed(one, third), summed(other, third)))
+            try:
+                network, beside = network_of((one, other)), network_of((summed(one, third), summed(other, third)))
+            except TooMany as error:
+                self.told(60, error.limit)
+                continue
             self.told(("alike",), alike_or_point(network, beside))
             self.told(("alike",), alike_or_point(beside, network))
+            self.told(True, is_alike_or_point(network, beside, ("alike",)))
 
     def test_judge(self):
         unlike = Network(1, (((1,),),), (0, 1))
@@ -287,7 +292,11 @@ class Straight(Case):
             self.told(True, is_straight_or_rows(network, told))
             self.assertLessEqual(longest(told), 50)
             # Straight are those that are greatest ones with their opposite.
-            both = [greatest_or_rows(multiplied(network, number))[0] for number in (1, -1)]
+            try:
+                both = [greatest_or_rows(multiplied(network, number))[0] for number in (1, -1)]
+            except TooMany as error:
+                self.told(2000, error.limit)
+                continue
             self.told(told[0] == "straight", both == ["greatest", "greatest"])
         self.assertGreater(min(kinds.values()), 40)
 

@@ -38,6 +38,27 @@ def bend_by_values(reading, row, y):
     return (up + down - 2 * tells(reading, far)) // side, (up + down - 2 * tells(reading, far)) % side
 
 
+def shade_of(point, row):
+    """The point seen along the row, in one member less."""
+    at = next(k for k, x in enumerate(row) if x)
+    return tuple(row[at] * point[k] - row[k] * point[at] for k in range(len(row)) if k != at)
+
+
+def range_by_shadows(reading, row):
+    """The least and the greatest bend along the row, by the corners of the sum of both shadows."""
+    at, lengths = next(k for k, x in enumerate(row) if x), [{}, {}]
+    for lot, found in zip(reading, lengths, strict=True):
+        for point in lot:
+            found.setdefault(shade_of(point, row), []).append(point[at])
+    sums = {plus(one, other): (one, other) for one in lengths[0] for other in lengths[1]}
+    tips = corners(lot_of(sums)) if len(row) > 1 else lot_of(sums)
+    told = []
+    for tip in tips:
+        above, below = (found[shade] for found, shade in zip(lengths, sums[tip], strict=True))
+        told.append((max(above) - min(above) - max(below) + min(below)) // row[at])
+    return min(told), max(told)
+
+
 def layer_reading(source, length, many, size=2):
     """A reading whose function has one layer, and the bundle of its planes, with numbers below 0, too."""
     planes = {}
@@ -128,11 +149,10 @@ class Bends(Case):
                         lead = minus(other, one)
                         rows.add(tuple(x // gcd(*lead) for x in lead))
             for row in rows:
-                met = [bend_by_hand(reading, row, y) for y in across(self.source, row, 150)]
-                met = [many for many in met if many is not None]
-                least, most = told.get(row, (0, 0))
-                self.told((least, most), (min(met), max(met)))
-                self.told(row in told, (least, most) != (0, 0))
+                self.told(told.get(row, (0, 0)), range_by_shadows(reading, row))
+                for y in across(self.source, row, 10):
+                    bend = bend_by_hand(reading, row, y)
+                    self.assertTrue(bend is None or told.get(row, (0, 0))[0] <= bend <= told.get(row, (0, 0))[1])
 
     def test_one_for_all_readings(self):
         for _ in range(30):
