@@ -6,7 +6,7 @@ from rampworks.errors import InvalidGrowth, InvalidOperation, TooMany
 from rampworks.hull.corners import MOST_MEMBERS
 from rampworks.hull.cuts import cut, join_cut
 from rampworks.hull.simplices import volume_of
-from rampworks.net.mixes import mixed_lot
+from rampworks.net.mixes import mixed_lot, split_row
 from rampworks.net.networks import need_network, unit_row
 from rampworks.net.readings import MOST_READ, need_lots_of, need_reading
 
@@ -133,14 +133,7 @@ def growth_of_parts(parts):
 
 def row_grown(row, told, length):
     """The growths of both lots of a row, each with the number of its words."""
-    above, below = [], []
-    for number, (high, low) in zip(row, told):
-        if number > 0:
-            above.append((number, high))
-            below.append((number, low))
-        elif number < 0:
-            above.append((-number, low))
-            below.append((-number, high))
+    above, below = split_row(row, told)
     if not above:
         zeros = (("point", (0,) * length), 1)
         return zeros, zeros

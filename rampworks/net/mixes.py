@@ -29,8 +29,8 @@ def mixed_lot(parts, length, most):
     return None if len(total) > most else total
 
 
-def row_told(row, told, length, most):
-    """The pair of lots that a row over parts with readings tells, or None if one of them has too many corners."""
+def split_row(row, told):
+    """What is summed up for both sides of a row over parts with two sides: pairs of a number above 0 and a side."""
     above, below = [], []
     for number, (high, low) in zip(row, told):
         if number > 0:
@@ -39,6 +39,12 @@ def row_told(row, told, length, most):
         elif number < 0:
             above.append((-number, low))
             below.append((-number, high))
+    return above, below
+
+
+def row_told(row, told, length, most):
+    """The pair of lots that a row over parts with readings tells, or None if one of them has too many corners."""
+    above, below = split_row(row, told)
     left = mixed_lot(above, length, most)
     right = None if left is None else mixed_lot(below, length, most)
     return None if right is None else (left, right)

@@ -4,16 +4,15 @@ from rampworks.base.checks import are_short, is_short_row, is_told, is_whole, is
 from rampworks.base.linear import difference_of, product_of, sum_of, times
 from rampworks.errors import InvalidOperation, InvalidRow, TooMany
 from rampworks.hull.corners import need_lot, need_point_row, need_same_length
-from rampworks.hull.cuts import cut, greatest_points, independent_places
+from rampworks.hull.cuts import greatest_points, independent_places
 from rampworks.hull.frames import frame_of
 from rampworks.hull.sums import edge_told, edges_of
+from rampworks.hull.volumes import MOST_CORNERS, MOST_WIDE, few_corners
 from rampworks.net.mixes import mixed_lot
 from rampworks.stick.spans import (
     edges_along, fibers_along, form_along, has_single, is_heading, length_between, shade_corners)
 
 MOST_STICKS = 30
-MOST_WIDE = 4
-MOST_TIPS = 60
 
 
 def is_bundle(value):
@@ -35,27 +34,6 @@ def is_bundle_for(value, row):
     return is_bundle(value) and (not value or len(value[0][0]) == len(row))
 
 
-def need_narrow(lot):
-    """Refuses a lot of points of more than four members."""
-    if len(lot[0]) > MOST_WIDE:
-        raise InvalidOperation("points have at most four members here")
-
-
-def few_tips(lot):
-    """The corners of a lot, refused if there are too many."""
-    tips = cut(lot, MOST_TIPS)
-    if len(tips) > MOST_TIPS:
-        raise TooMany(MOST_TIPS)
-    return tips
-
-
-def need_tips(lot):
-    """The corners of what has to be a lot of a few of them, of at most four members."""
-    need_lot(lot)
-    need_narrow(lot)
-    return few_tips(lot)
-
-
 def bundle_lot(row, bundle, most):
     """The lot that the bundle makes from the row, None if it has more corners than `most`."""
     zeros = (0,) * len(row)
@@ -72,9 +50,9 @@ def made_by(row, bundle):
         raise InvalidOperation("this is no bundle of rows of this length")
     if not all([are_short((*lead, c)) for lead, c in bundle]):
         raise InvalidOperation("integers have at most sixty digits")
-    lot = bundle_lot(row, bundle, MOST_TIPS)
+    lot = bundle_lot(row, bundle, MOST_CORNERS)
     if lot is None:
-        raise TooMany(MOST_TIPS)
+        raise TooMany(MOST_CORNERS)
     return lot
 
 
@@ -86,7 +64,7 @@ def are_symmetric(tips):
 
 def is_symmetric(lot):
     """Whether the lot of the corners is symmetric."""
-    return are_symmetric(need_tips(lot))
+    return are_symmetric(few_corners(lot))
 
 
 def plate_told(tips, row):
@@ -100,8 +78,7 @@ def plate_at(lot, row):
     need_lot(lot)
     need_point_row(row)
     need_same_length(lot, row)
-    need_narrow(lot)
-    return plate_told(few_tips(lot), row)
+    return plate_told(few_corners(lot), row)
 
 
 def lengths_along(tips, row):
@@ -119,8 +96,7 @@ def most_stick(lot, row):
     need_lot(lot)
     if not is_short_row(row, len(lot[0]), len(lot[0])) or not is_heading(row, len(lot[0])):
         raise InvalidOperation("this is no row of a stick as long as the points")
-    need_narrow(lot)
-    return min(list(lengths_along(few_tips(lot), row).values()))
+    return min(list(lengths_along(few_corners(lot), row).values()))
 
 
 def parts_in(tips, along):
@@ -146,7 +122,7 @@ def left_without(tips, forms, bundle):
 
 def bared(lot):
     """The bundle of all parts of the lot, and what is left without them."""
-    tips = need_tips(lot)
+    tips = few_corners(lot)
     edges, forms = frame_of(tips)
     bundle = parts_in(tips, edges_along(tips, edges))
     return bundle, left_without(tips, forms, bundle)
@@ -174,7 +150,7 @@ def unlike_edge(lengths):
 
 def sticks_or_plate(lot):
     """EITHER the bundle that makes the corners of the lot, from a row, OR a row with a plate that is not symmetric."""
-    tips = need_tips(lot)
+    tips = few_corners(lot)
     edges, forms = frame_of(tips)
     along = edges_along(tips, edges)
     row = unlike_plate(tips, along)
@@ -186,7 +162,7 @@ def sticks_or_plate(lot):
 
 def is_sticks_or_plate(lot, value):
     """Whether the value is right."""
-    tips = need_tips(lot)
+    tips = few_corners(lot)
     if is_told(value, "plate", 2):
         if not is_whole_row(value[1], len(tips[0])):
             return False
@@ -196,5 +172,5 @@ def is_sticks_or_plate(lot, value):
         _, row, bundle = value
         if not is_whole_row(row, len(tips[0])) or not is_bundle_for(bundle, row):
             return False
-        return bundle_lot(row, bundle, MOST_TIPS) == tips
+        return bundle_lot(row, bundle, MOST_CORNERS) == tips
     return False
