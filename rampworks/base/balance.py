@@ -3,7 +3,7 @@
 from rampworks.base.linear import content_of, difference_of, head_place, product_of, tells
 
 # The first form that is tried has members of at most this size, so that all others keep short.
-GUESS = 63
+GUESS = 65535
 # Forms are looked at with so many bits first: products of such ones are fast.
 MOST_BITS = 20
 
@@ -60,7 +60,7 @@ class Balance:
         point, others = self.groups[place[0]]
         return [*difference_of(point, others[place[1]]), 1]
 
-    def wanted(self):
+    def sought(self):
         """The column that makes less of the made-up ones, None if the price is below 0 at all columns."""
         form = self.price[:-1]
         short = shortened(form)
@@ -162,7 +162,7 @@ def settled(groups, free, guess):
     if free is not None:
         table.hold(free)
     while table.price[-1] != 0:
-        place = table.wanted()
+        place = table.sought()
         if place is None:
             break
         table.take(place)
