@@ -353,6 +353,18 @@ class Needless(Case):
             self.told(tuple(sorted(set(found))), found)
         self.assertGreater(full, 30)
 
+    def test_most_units(self):
+        # Of 128 units of one input; what each of them adds is told by two rows.
+        for widths in ((64, 64), (32, 32, 32, 32)):
+            network = random_network(self.source, 1, widths, 2, 0.9)
+            found = needless(network)
+            for layer, units in enumerate(network.layers):
+                for unit in range(len(units)):
+                    other = without_unit(network, layer, unit)
+                    alike = all(told_by(network, row) == told_by(other, row) for row in ((1,), (-1,)))
+                    self.told(alike, (layer, unit) in found)
+            self.assertTrue(0 < len(found) < 128)
+
     def test_units_that_do_not_matter(self):
         for _ in range(20):
             network = small_network(self.source)

@@ -210,20 +210,48 @@ def is_straight_or_rows(network, value):
     return False
 
 
-def needless(network):
-    """The ascending tuple of the pairs (layer, unit) of the units without which the network tells the same."""
-    need_network(network)
+def told_without(network, place, row):
+    """The value at a row of the network with 0 in place of all members for the part at the place."""
+    values = list(row)
+    for layer in network.layers:
+        values = values + [max(0, product_of(unit, values)) for unit in layer]
+        if place < len(values):
+            values[place] = 0
+    return product_of(network.last, values)
+
+
+def needless_of_one(network):
+    """The places of the needless units of a network with one input: two rows tell all, and no lot is too great."""
+    up, down, found = told_at(network, (1,)), told_at(network, (-1,)), []
+    for place in range(1, 1 + len(network.units)):
+        if told_without(network, place, (1,)) == up and told_without(network, place, (-1,)) == down:
+            found.append(place)
+    return found
+
+
+def needless_places(network):
+    """The places of the needless units of a network."""
     told = parts_told(network, MOST_READ)
     if told is None:
         raise TooMany(MOST_READ)
-    reading, place, found = plain_lots(told[-1]), network.inputs, []
+    reading, found = plain_lots(told[-1]), []
+    for place in range(network.inputs, network.inputs + len(network.units)):
+        lots = lots_without(network, told, place, MOST_READ)
+        if lots is None:
+            raise TooMany(MOST_READ)
+        left, right = crossed_lots(reading, lots)
+        if are_alike(left, right):
+            found.append(place)
+    return found
+
+
+def needless(network):
+    """The ascending tuple of the pairs (layer, unit) of the units without which the network tells the same."""
+    need_network(network)
+    places = needless_of_one(network) if network.inputs == 1 else needless_places(network)
+    found, begin = [], network.inputs
     for at, layer in enumerate(network.layers):
-        for unit in range(len(layer)):
-            lots = lots_without(network, told, place, MOST_READ)
-            if lots is None:
-                raise TooMany(MOST_READ)
-            left, right = crossed_lots(reading, lots)
-            if are_alike(left, right):
-                found.append((at, unit))
-            place += 1
+        end = begin + len(layer)
+        found.extend([(at, place - begin) for place in places if begin <= place < end])
+        begin = end
     return tuple(found)
