@@ -110,7 +110,7 @@ def without_unit(network, layer, unit):
 
 
 def polygon_network(many, sign=1):
-    """A network of one layer whose reading has 2 * many corners above (below, for the sign -1), one on the other side."""
+    """A network of one layer whose reading has 2 * many corners above, or, for the sign -1, below."""
     rows = tuple((1, k) for k in range(many))
     return Network(2, (rows,), (0, 0) + (sign,) * many)
 

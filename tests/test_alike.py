@@ -1,6 +1,6 @@
 """Stage 7: alike networks."""
 
-from tests.helpers import ODD_VALUES, SIXTY, Case, changed, dot, longest, random_lot, random_row, same, scale, spoilt
+from tests.helpers import ODD_VALUES, SIXTY, Case, changed, dot, longest, random_lot, random_row, same
 from tests.makings import (
     excess_of, is_greatest_by, linked, made_alike, polygon_network, told_by, with_layer, with_one_changed,
     with_unit_apart, without_unit)
@@ -12,7 +12,7 @@ from rampworks.hull.sums import summed
 from rampworks.net.alike import (
     alike_along, alike_or_point, greatest_or_rows, is_alike_along, is_alike_or_point, is_greatest_or_rows,
     is_straight_or_rows, needless, straight_or_rows)
-from rampworks.net.networks import Network, added, form_network, greater, multiplied, ramped, trimmed
+from rampworks.net.networks import Network, added, form_network, greater, multiplied, trimmed
 from rampworks.net.readings import network_of, reading_of
 
 ABS, TWICE = Network(1, (((1,), (-1,)),), (0, 1, 1)), Network(1, (((2,),),), (-1, 1))

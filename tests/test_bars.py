@@ -20,10 +20,14 @@ BAD_GROWTHS = ODD_VALUES + (
     ("point", ()), ("point", (0,) * 9), ("point", [0]), ("point", (True,)), ("point", 0), ("point", (0,), (0,)),
     ["point", (0,)], ("dot", (0,)), ("point",), ("times", 0, ("point", (1,))), ("times", -1, ("point", (1,))),
     ("times", True, ("point", (1,))), ("times", "2", ("point", (1,))), ("times", 2), ("times", 2, ("point", ())),
-    ("times", ("point", (1,)), 2), ("times", 2, ("point", (1,)), ("point", (1,))), ("sum", ()), ("sum", ("point", (0,))),
-    ("sum", [("point", (0,))]), ("sum", (("point", (0,)), ("point", (0, 0)))), ("sum", ("point", (1,)), ("point", (1,))),
-    ("join", ("point", (0,))), ("join", ("point", (0,)), ("point", (1, 0))), ("join", (("point", (0,)), ("point", (1,)))),
-    ("join", ("point", (0,)), ("point", (1,)), ("point", (2,))), ("join", ("point", (0,)), None), b"point", ("point", None),
+    ("times", ("point", (1,)), 2), ("times", 2, ("point", (1,)), ("point", (1,))), ("sum", ()),
+    ("sum", ("point", (0,))),
+    ("sum", [("point", (0,))]), ("sum", (("point", (0,)), ("point", (0, 0)))),
+    ("sum", ("point", (1,)), ("point", (1,))),
+    ("join", ("point", (0,))), ("join", ("point", (0,)), ("point", (1, 0))),
+    ("join", (("point", (0,)), ("point", (1,)))),
+    ("join", ("point", (0,)), ("point", (1,)), ("point", (2,))), ("join", ("point", (0,)), None), b"point",
+    ("point", None),
     ("sum", (("point", (0,)),) * 201), (b"point", (0,)))
 
 
@@ -191,7 +195,8 @@ class Growths(Case):
         self.told(60, len(grown(("join", sticks(30), sticks(30)))))
         joins = [point(*tip) for tip in moments(61, 2)]
         while len(joins) > 1:
-            joins = [("join", *joins[at:at + 2]) if at + 1 < len(joins) else joins[at] for at in range(0, len(joins), 2)]
+            pairs = [("join", *joins[at:at + 2]) for at in range(0, len(joins) - 1, 2)]
+            joins = pairs + joins[2 * len(pairs):]
         self.fails(TooMany, grown, joins[0], limit=60)
 
 
@@ -273,8 +278,10 @@ class OfNetworks(Case):
                      (("join", point(1, 1), point(0, 2)), ("join", point(0, 1), point(0, 1))),
                      (("sum", (("join", point(1, 0), point(0, 1)), point(0, 1))), point(0, 1))):
             self.told(True, are_growths(network, pair))
-        for pair in ((above,), (above, below, below), [above, below], (below, above), (above, point(0, 2)), (above, None),
-                     (("join", above, above), below), (above, ("join", ("join", point(0, 1), point(0, 1)), point(0, 1))),
+        for pair in ((above,), (above, below, below), [above, below], (below, above), (above, point(0, 2)),
+                     (above, None),
+                     (("join", above, above), below),
+                     (above, ("join", ("join", point(0, 1), point(0, 1)), point(0, 1))),
                      (above, point(0,)), (("times", 2, above), below), (point(1, 1), below), ()):
             self.told(False, are_growths(network, pair))
         for bad in BAD_GROWTHS:

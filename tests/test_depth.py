@@ -297,7 +297,8 @@ class Errors(Case):
 
     def test_judge_lets_each_value(self):
         for reading in (PEAK, FLAT, (POINT, POINT)):
-            for value in ODD_VALUES + (("form", [0, 0]), ("planes", (0, 0), None), ("unlike", None, 1, 0), ("unlike", (1, 1), None, 0),
+            for value in ODD_VALUES + (("form", [0, 0]), ("planes", (0, 0), None), ("unlike", None, 1, 0),
+                                       ("unlike", (1, 1), None, 0),
                                        ("unlike", (1, 1), 1, False), ("unlike", [1, 1], 1, 0), ("planes", None, ())):
                 self.told(False, is_depth_paper(reading, value))
 

@@ -24,12 +24,15 @@ BAD_ROUNDS = ODD_VALUES + (
     (0, 0), ((0, 0),), ((0, 0), (), ()), [(0, 0), ()], ((0, 0), []), ((0,), ()), ((0, 0, 0), ()), ((True, 0), ()),
     ((0, 0), (((1, 0), 2), ((-1, 0), 1))), ((0, 0), (((1, 0), 1),)), ((0, 0), (((1, 0), 0), ((-1, 0), 0))),
     ((0, 0), (((-1, 0), 1), ((1, 0), 1))), ((0, 0), (((1, 0), 1), ((1, 0), -1))), ((0, 0), (((2, 0), 1), ((-2, 0), 1))),
-    ((0, 0), (((1, 0), True), ((-1, 0), 1))), ((0, 0), ([(1, 0), 1], ((-1, 0), 1))), ((0, 0), (((1, 0),), ((-1, 0), 1))),
+    ((0, 0), (((1, 0), True), ((-1, 0), 1))), ((0, 0), ([(1, 0), 1], ((-1, 0), 1))),
+    ((0, 0), (((1, 0),), ((-1, 0), 1))),
     ((0, 0), (((1, 0), 1, 1), ((-1, 0), 1, 1))), ((0, 0), (((1, 0), 1), ((0, 1), 1), ((-1, 0), 1))), ((0, 0), ((), ())),
     ((0, 0), (((1, 1), 1), ((1, 0), -1), ((0, 1), -1))))
 BAD_FANS = ODD_VALUES + (
-    AXES[:2], AXES[:3], AXES[1:] + AXES[:1], AXES[::-1], list(AXES), AXES + AXES[:1], ((1, 0), (0, 1), (-1, 0), (0, -2)),
-    ((1, 0), (1, 2), (0, 1), (-1, 0), (0, -1)), ((1, 0), (0, 1), (-1, -2)), ((1, 0), (0, 1)), ((1, 0), (-1, 0), (0, -1)),
+    AXES[:2], AXES[:3], AXES[1:] + AXES[:1], AXES[::-1], list(AXES), AXES + AXES[:1],
+    ((1, 0), (0, 1), (-1, 0), (0, -2)),
+    ((1, 0), (1, 2), (0, 1), (-1, 0), (0, -1)), ((1, 0), (0, 1), (-1, -2)), ((1, 0), (0, 1)),
+    ((1, 0), (-1, 0), (0, -1)),
     ((1, 0), (0, 1), [-1, -1]), ((True, 0), (0, 1), (-1, -1)), ((1, 0), (0, 1), (-1, -1), (0, 0)),
     ((1, 0), (0, 1), (-1, 0), (0, -1), (1, 0), (0, 1), (-1, 0), (0, -1)))
 
@@ -60,6 +63,10 @@ def random_ray(source, size):
         ray = random_row(source, 2, size)
         if gcd(*ray) == 1:
             return ray
+
+
+def random_rays(source, sizes, most):
+    return tuple({random_ray(source, source.choice(sizes)) for _ in range(source.randint(0, most))})
 
 
 def random_plane(source):
@@ -181,7 +188,8 @@ class Rounds(Case):
         more = (wide[0], tuple(sorted_pairs(wide[1] + (((1, 10 ** 9), 1), ((-1, -10 ** 9), 1)))))
         self.told(802, len(more[1]))
         self.told(True, is_round(more))
-        for call in (lambda: value_of_round(more, (1, 2)), lambda: form_behind(more, (1, 2)), lambda: values_on(more, AXES)):
+        for call in (lambda: value_of_round(more, (1, 2)), lambda: form_behind(more, (1, 2)),
+                     lambda: values_on(more, AXES)):
             self.fails(InvalidOperation, call)
 
     def test_long(self):
@@ -291,7 +299,7 @@ class Fans(Case):
 
     def test_smooth_fans(self):
         for _ in range(80):
-            rays = tuple({random_ray(self.source, self.source.choice((1, 3, 8))) for _ in range(self.source.randint(0, 6))})
+            rays = random_rays(self.source, (1, 3, 8), 6)
             try:
                 fan = smooth_fan(rays)
             except TooMany as error:
@@ -347,7 +355,7 @@ class Values(Case):
 
     def some_fan(self):
         while True:
-            rays = tuple({random_ray(self.source, self.source.choice((1, 4, 7))) for _ in range(self.source.randint(0, 4))})
+            rays = random_rays(self.source, (1, 4, 7), 4)
             try:
                 return smooth_fan(rays)
             except TooMany:
@@ -445,7 +453,8 @@ class Errors(Case):
         for bad in BAD_FANS:
             self.fails(InvalidOperation, values_on, THREE, bad)
             self.fails(InvalidOperation, round_by_values, bad, (0, 0, 0, 0))
-        for bad in ODD_VALUES + ((0, 0, 0), (0,) * 5, [0, 0, 0, 0], (0, 0, 0, True), (0, 0, 0, SIXTY + 1), (0, 0, 0, "0")):
+        for bad in ODD_VALUES + ((0, 0, 0), (0,) * 5, [0, 0, 0, 0], (0, 0, 0, True), (0, 0, 0, SIXTY + 1),
+                                 (0, 0, 0, "0")):
             self.fails(InvalidOperation, round_by_values, AXES, bad)
         far = SIXTY + 1
         self.fails(InvalidOperation, values_on, THREE, ((1, 0), (far, 1), (far - 1, 1), (-1, 0), (0, -1)))
@@ -458,5 +467,6 @@ class Errors(Case):
             self.told(False, is_smooth(value))
 
     def test_equal_calls(self):
-        for call in (lambda: round_of((SQUARE, TRIANGLE)), lambda: smooth_fan(((2, 5),)), lambda: values_on(THREE, AXES)):
+        for call in (lambda: round_of((SQUARE, TRIANGLE)), lambda: smooth_fan(((2, 5),)),
+                     lambda: values_on(THREE, AXES)):
             self.assertTrue(same(call(), call()))

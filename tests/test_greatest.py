@@ -124,11 +124,13 @@ class Either(Case):
     def test_judge_of_rows(self):
         rows = ((0, 0), (1, 0), (0, 1))
         self.judges(lambda value: is_greatest_or_bar(3, 1, value), ("barred", rows))
-        for right in (((0, 1), (0, 0), (1, 0)), ((5, 5), (6, 5), (5, 6)), ((0, 0), (1, 0), (-7, 1)), ((0, 0), (3, 0), (1, 5)),
+        for right in (((0, 1), (0, 0), (1, 0)), ((5, 5), (6, 5), (5, 6)), ((0, 0), (1, 0), (-7, 1)),
+                      ((0, 0), (3, 0), (1, 5)),
                       ((10 ** 99, 0), (10 ** 99 + 1, 0), (0, 1))):
             self.told(abs(det((minus(right[1], right[0]), minus(right[2], right[0])))) % 2 == 1,
                       is_greatest_or_bar(3, 1, ("barred", right)))
-        for wrong in (((0, 0), (1, 0), (0, 2)), ((0, 0), (1, 0), (1, 0)), ((0, 0), (1, 1), (2, 2)), rows[:2], rows + rows[:1],
+        for wrong in (((0, 0), (1, 0), (0, 2)), ((0, 0), (1, 0), (1, 0)), ((0, 0), (1, 1), (2, 2)), rows[:2],
+                      rows + rows[:1],
                       ((0,), (1,), (1,)), ((0, 0, 0), (1, 0, 0), (0, 1, 0)), (), ((), (), ())):
             self.told(False, is_greatest_or_bar(3, 1, ("barred", wrong)))
         # Rows may come twice.

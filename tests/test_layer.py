@@ -125,7 +125,8 @@ class Places(Case):
         self.judges(lambda value: is_place(PEAK, value), ((1, 0), (0, -1)))
         for y in ((0, -7), (0, 10 ** 99), (0, 3)):
             self.told(True, is_place(PEAK, ((1, 0), y)))
-        for place in (((1, 0), (1, -1)), ((2, 0), (0, -1)), ((-1, 0), (0, -1)), ((0, 0), (0, -1)), ((1, 0, 0), (0, 1, 0)),
+        for place in (((1, 0), (1, -1)), ((2, 0), (0, -1)), ((-1, 0), (0, -1)), ((0, 0), (0, -1)),
+                      ((1, 0, 0), (0, 1, 0)),
                       ((1, 0), (0, -1), ()), [(1, 0), (0, -1)], ((1, 0), [0, -1])):
             self.told(False, is_place(PEAK, place))
             self.fails(InvalidOperation, bend_at, PEAK, place)
@@ -253,9 +254,12 @@ class Either(Case):
             self.told(True, is_layer_or_places(BOX, ("layer", network)))
         for network in (
                 Network(2, (((1, 0), (0, 1), (0, 0)),), (0, 0, 1, 1, 0)), Network(2, (((1, 0), (0, 1)),), (0, 0, 1, 2)),
-                Network(2, (((1, 0), (0, 1)), ((0, 0, 1, 1),)), (0, 0, 0, 0, 1)), Network(2, (((2, 0), (0, 1)),), (0, 0, 1, 1)),
-                Network(2, (((1, 0), (0, 1)),), (1, 0, 1, 1)), Network(2, (((1, 0),),), (0, 1, 1)), form_network((1, 1)),
-                Network(2, (((1, 0), (1, 0), (0, 1)),), (0, 0, 2, -1, 1)), Network(2, (((1, 0), (0, 1)),), (0, 0, 1, 0)),
+                Network(2, (((1, 0), (0, 1)), ((0, 0, 1, 1),)), (0, 0, 0, 0, 1)),
+                Network(2, (((2, 0), (0, 1)),), (0, 0, 1, 1)),
+                Network(2, (((1, 0), (0, 1)),), (1, 0, 1, 1)), Network(2, (((1, 0),),), (0, 1, 1)),
+                form_network((1, 1)),
+                Network(2, (((1, 0), (1, 0), (0, 1)),), (0, 0, 2, -1, 1)),
+                Network(2, (((1, 0), (0, 1)),), (0, 0, 1, 0)),
                 Network(1, (((1,), (-1,)),), (0, 1, 1)), Network(3, (((1, 0, 0), (0, 1, 0)),), (0, 0, 0, 1, 1))):
             self.told(False, is_layer_or_places(BOX, ("layer", network)))
         # A row other than primitive, and as few units.
@@ -343,7 +347,8 @@ class Bounds(Case):
         long = (((0, 0), (thirty, 0)), ((0, -thirty), (0, thirty)))
         found = layer_or_places(long)
         self.told(2, len(found[1].units))
-        for reading in ((((10 ** 30, 0),), POINT), (POINT, ((0, -10 ** 30),)), (((0, 0), (10 ** 30, 1), (2 * 10 ** 30, 2)), POINT)):
+        for reading in ((((10 ** 30, 0),), POINT), (POINT, ((0, -10 ** 30),)),
+                        (((0, 0), (10 ** 30, 1), (2 * 10 ** 30, 2)), POINT)):
             self.fails(TooMany, layer_or_places, reading, limit=10 ** 30)
             self.told(len(bends(reading)), least_units(reading))
             self.told(False, is_layer_or_places(reading, None))

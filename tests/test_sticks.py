@@ -21,7 +21,8 @@ HEXAGON, SOLID = ((0, 0), (0, 1), (1, 0), (1, 2), (2, 1), (2, 2)), ((0, 0, 0), (
 PRISM = ((0, 0, 0), (0, 0, 2), (0, 1, 0), (0, 1, 2), (1, 0, 0), (1, 0, 2))
 BUNDLE = (((0, 1), 1), ((1, 0), 1), ((1, 1), 1))
 BAD_BUNDLES = ODD_VALUES + (
-    (((0, 1), 0),), (((0, 1), -1),), (((0, 1), True),), (((0, 1), "1"),), (((0, 1),),), (((0, 1), 1, 1),), ([(0, 1), 1],),
+    (((0, 1), 0),), (((0, 1), -1),), (((0, 1), True),), (((0, 1), "1"),), (((0, 1),),), (((0, 1), 1, 1),),
+    ([(0, 1), 1],),
     [((0, 1), 1)], (((0, -1), 1),), (((-1, 0), 1),), (((0, 0), 1),), (((2, 0), 1),), (((0, 2), 1),), (((True, 0), 1),),
     (([0, 1], 1),), (((), 1),), (((1,) * 5, 1),), (((1, 0), 1), ((0, 1), 1)), (((0, 1), 1), ((0, 1), 1)),
     (((0, 1), 1), ((0, 1), 2)), (((0, 1), 1), ((0, 1, 1), 1)), (((0, 1), 1), None), ((0, 1), 1), {((0, 1), 1): 1},
@@ -400,7 +401,8 @@ class Errors(Case):
 
     def test_of_made_by(self):
         for bad in ODD_VALUES + ((0,) * 5, (), [0, 0], (True,), (SIXTY + 1,)):
-            if not (isinstance(bad, tuple) and 1 <= len(bad) <= 4 and all(type(x) is int and abs(x) <= SIXTY for x in bad)):
+            if not (isinstance(bad, tuple) and 1 <= len(bad) <= 4
+                    and all(type(x) is int and abs(x) <= SIXTY for x in bad)):
                 self.fails(InvalidRow, made_by, bad, ())
                 self.fails(InvalidRow, made_by, bad, None)
         for bad in BAD_BUNDLES:
