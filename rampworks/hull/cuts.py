@@ -14,6 +14,8 @@ from rampworks.hull.supports import plain_ends, shell_sum
 MOST_IN_SHEET = 14
 # Sums and differences of two members are tried as forms for so many members at most; for more they are too many.
 MOST_PAIRED = 5
+# From so many members on most corners are greatest for the form that leads to them from the middle.
+MANY_MEMBERS = 4
 
 
 def greatest_value(points, row):
@@ -56,22 +58,35 @@ def guided_cut(points, known, most, wants_forms, guesses):
     return {point: known.get(point) for point in sorted([shadows[tip] for tip in tips])}
 
 
+def put_outward(points, found):
+    """Puts corners to those found: what the forms from the middle of all points to each other one tell."""
+    many = len(points)
+    total = [sum(line) for line in zip(*points)]
+    for point in points:
+        if point not in found:
+            form = tuple([many * x - y for x, y in zip(point, total)])
+            told = tells(form, points)
+            greatest = max(told)
+            if told.count(greatest) == 1:
+                found[points[told.index(greatest)]] = form
+
+
 def sheet_cut(points, known, wants_forms):
-    """The corners, told by one table for all points."""
-    sheet, found = None, {}
-    ends = plain_ends(points) if not wants_forms else []
+    """The corners, told by one table for all points that are not known, or told by plain forms."""
+    sheet, found = None, {point: known[point] for point in known}
+    if not wants_forms:
+        for at in plain_ends(points):
+            found.setdefault(points[at], None)
+    if len(points[0]) >= MANY_MEMBERS:
+        put_outward(points, found)
     for label, point in enumerate(points):
-        if point in known:
-            found[point] = known[point]
-        elif label in ends:
-            found[point] = None
-        else:
+        if point not in found:
             sheet = Sheet((points,), None, wants_forms) if sheet is None else sheet
             if sheet.is_corner(label):
                 found[point] = tuple(sheet.form) if wants_forms else None
             else:
                 sheet.leave(label)
-    return found
+    return {point: found[point] for point in points if point in found}
 
 
 def independent_places(points):
