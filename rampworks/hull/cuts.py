@@ -5,7 +5,7 @@ all other points, or None where none is known. A form that is known certifies co
 """
 
 from rampworks.base.balance import settled
-from rampworks.base.linear import difference_of, tells, times
+from rampworks.base.linear import content_of, difference_of, head_place, tells, times
 from rampworks.hull.borders import plane_cut
 from rampworks.hull.sheets import Sheet
 from rampworks.hull.supports import plain_ends, shell_sum
@@ -98,10 +98,10 @@ def independent_places(points):
             if lead[at] != 0:
                 own, top = lead[at], head[at]
                 lead = [top * x - own * y for x, y in zip(lead, head)]
-        for at, x in enumerate(lead):
-            if x != 0:
-                heads.append((at, lead))
-                break
+        size = content_of(lead)
+        if size != 0:
+            head = [x // size for x in lead]
+            heads.append((head_place(head), head))
         if len(heads) == len(first):
             break
     return sorted([at for at, _ in heads])
