@@ -100,7 +100,7 @@ class Language(unittest.TestCase):
                     self.assertIn(node, tree.body)
                     self.assertTrue(all(alias.asname is None and alias.name != "*" for alias in node.names))
                     if node.module == "math":
-                        self.assertEqual([alias.name for alias in node.names], ["gcd"])
+                        self.assertLessEqual({alias.name for alias in node.names}, {"gcd", "comb", "factorial"})
                         continue
                     self.assertEqual(node.level, 0)
                     source = PACKAGE.parent / (node.module.replace(".", "/") + ".py")

@@ -79,7 +79,7 @@ def sum_grown(parts, most):
         if lot is None:
             return None
         lots.append((1, {point: None for point in lot}))
-    total = mixed_lot(lots, len(lot[0]), most)
+    total = mixed_lot(lots, (0,) * len(lot[0]), most)
     return None if total is None else tuple(total)
 
 

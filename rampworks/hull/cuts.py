@@ -167,6 +167,8 @@ def join_cut(one, other, most):
 def guided_join(one, other, most):
     """The join of two lots with guides."""
     points, known = tuple(sorted(set(list(one) + list(other)))), {}
+    if len(points[0]) <= 2:
+        return {point: None for point in cut(points, most)}
     guesses = {**one, **other}
     for point in guesses:
         form = guesses[point]

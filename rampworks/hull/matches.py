@@ -5,8 +5,13 @@ from rampworks.base.linear import content_of, difference_of, product_of, sum_of,
 from rampworks.hull.cuts import cut
 from rampworks.hull.totals import moved_by, sum_cut, ways_of
 
-# So many rows are tried ahead of anything greater.
+# So many rows are tried ahead of anything greater: these numbers have no plan.
 MOST_TRIED = 12
+TRIED = (
+    17, 12, 19, 18, 2, 9, -9, 0, 18, 5, -11, -14, 0, 4, 20, -6, 7, -13, 10, -4, 13, 11, 17, -15, 4, 13, -19, -3,
+    -15, -17, -1, 1, 0, 11, -8, 4, 9, 14, 7, 8, -17, 17, -6, -15, 8, -20, -4, -1, -15, -19, 6, -9, 19, -2, 16, -11,
+    13, 15, 9, 0, -19, 13, 4, -12, 0, 2, -14, -16, -15, 15, -7, -19, 17, 12, 19, 18, 2, 9, -9, 0, 18, 5, -11, -14,
+    0, 4, 20, -6, 7, -13, 10, -4, 13, 11, 17, -15)
 # From more pairs on it is worth it to look for a part that both sums have, of at most so many points.
 FEW_PAIRS = 100
 MOST_IN_PART = 8
@@ -16,18 +21,11 @@ FEW_BITS = 6
 
 def trial_rows(length):
     """Short rows, some along the axes, others in all directions, the same ones each time."""
-    found = []
+    zeros, found = (0,) * length, []
     for at in range(length):
-        found.append(tuple([1 if k == at else 0 for k in range(length)]))
-        found.append(tuple([-1 if k == at else 0 for k in range(length)]))
-    last = 1
-    for _ in range(MOST_TRIED):
-        row = []
-        for _ in range(length):
-            last = last * 37 % 1009
-            row.append(last % 41 - 20)
-        found.append(tuple(row))
-    return found
+        found.append((*zeros[:at], 1, *zeros[at + 1:]))
+        found.append((*zeros[:at], -1, *zeros[at + 1:]))
+    return found + [TRIED[begin:begin + length] for begin in range(0, MOST_TRIED * length, length)]
 
 
 def value_of_sum(pair, row):

@@ -8,8 +8,9 @@ from rampworks.hull.matches import (
     are_alike, corner_pairs, form_at_corner, leads_at, leaning, trial_rows, unlike_row)
 from rampworks.hull.sums import MOST_PAIRS, need_pairs
 from rampworks.hull.totals import moved_by
+from rampworks.net.bounds import are_surely_crossed, corners_bound, is_surely_read
 from rampworks.net.mixes import lots_without, parts_told, plain_lots
-from rampworks.net.networks import all_values, need_network, need_networks
+from rampworks.net.networks import all_values, need_network, need_networks, unit_row
 from rampworks.net.readings import MOST_READ, need_lots_of
 
 MOST_ALONG = 4
@@ -35,25 +36,55 @@ def crossed_networks(one, other):
     return crossed_lots(reading, need_lots_of(other))
 
 
+def need_crossed(one, other):
+    """The same if there is doubt whether it is refused, None if it surely is not."""
+    need_networks(one, other)
+    if are_surely_crossed(one, other, MOST_READ, MOST_PAIRS):
+        return None
+    return crossed_networks(one, other)
+
+
+def are_unlike_at(one, other, row):
+    """Whether two networks have unlike values at a row of integers of any length."""
+    return told_at(one, row) != told_at(other, row)
+
+
+def sign_apart(one, other, row):
+    """1 if two networks are unlike at the row, -1 if only at the opposite one, 0 if at none of both."""
+    if are_unlike_at(one, other, row):
+        return 1
+    return -1 if are_unlike_at(one, other, times(row, -1)) else 0
+
+
 def alike_or_point(one, other):
     """EITHER both networks have equal values at all rows, OR a row at which they have not."""
-    left, right = crossed_networks(one, other)
-    row = unlike_row(left, right)
+    sums = need_crossed(one, other)
+    if sums is None:
+        first = unit_row(0, one.inputs)
+        sign = sign_apart(one, other, first)
+        if sign != 0:
+            return "point", times(first, sign)
+        sums = crossed_networks(one, other)
+    row = unlike_row(sums[0], sums[1])
     return ("alike",) if row is None else ("point", row)
 
 
 def is_alike_or_point(one, other, value):
     """Whether the value is right."""
-    left, right = crossed_networks(one, other)
+    sums = need_crossed(one, other)
     if is_told(value, "alike", 1):
-        return are_alike(left, right)
+        if sums is None:
+            if sign_apart(one, other, unit_row(0, one.inputs)) != 0:
+                return False
+            sums = crossed_networks(one, other)
+        return are_alike(sums[0], sums[1])
     if is_told(value, "point", 2) and is_whole_row(value[1], one.inputs):
-        return told_at(one, value[1]) != told_at(other, value[1])
+        return are_unlike_at(one, other, value[1])
     return False
 
 
 def need_along(one, other, rows):
-    """The two sums of two networks, with the errors of what is told along rows."""
+    """The two sums of two networks, or None as of `need_crossed`, with the errors of what is told along rows."""
     need_network(one)
     need_network(other)
     if not isinstance(rows, tuple) or not 1 <= len(rows) <= MOST_ALONG:
@@ -61,7 +92,7 @@ def need_along(one, other, rows):
     for row in rows:
         if not is_short_row(row, one.inputs, one.inputs):
             raise InvalidOperation("a row has an integer for each input")
-    return crossed_networks(one, other)
+    return need_crossed(one, other)
 
 
 def shadows_of(sums, rows):
@@ -73,7 +104,13 @@ def shadows_of(sums, rows):
 
 def alike_along(one, other, rows):
     """EITHER both networks have equal values at all sums of the rows, OR numbers for a sum at which they have not."""
-    left, right = shadows_of(need_along(one, other, rows), rows)
+    sums = need_along(one, other, rows)
+    if sums is None:
+        sign = sign_apart(one, other, rows[0])
+        if sign != 0:
+            return "numbers", times(unit_row(0, len(rows)), sign)
+        sums = crossed_networks(one, other)
+    left, right = shadows_of(sums, rows)
     numbers = unlike_row(left, right)
     return ("alike",) if numbers is None else ("numbers", numbers)
 
@@ -82,11 +119,14 @@ def is_alike_along(one, other, rows, value):
     """Whether the value is right."""
     sums = need_along(one, other, rows)
     if is_told(value, "alike", 1):
+        if sums is None:
+            if sign_apart(one, other, rows[0]) != 0:
+                return False
+            sums = crossed_networks(one, other)
         left, right = shadows_of(sums, rows)
         return are_alike(left, right)
     if is_told(value, "numbers", 2) and is_whole_row(value[1], len(rows)):
-        row = mixture(value[1], rows, one.inputs)
-        return told_at(one, row) != told_at(other, row)
+        return are_unlike_at(one, other, mixture(value[1], rows, one.inputs))
     return False
 
 
@@ -94,13 +134,16 @@ def pairs_met(above, below):
     """The pairs of a corner of each lot of a reading that make a corner of the sum of both."""
     if len(below) == 1:
         return [(point, below[0]) for point in above]
+    if len(above) == 1:
+        return [(above[0], point) for point in below]
     return list(corner_pairs((above, below)).values())
 
 
-def forms_of(pairs):
+def forms_of(above, below, pairs):
     """The corners of the lot of the forms that a reading meets, told by such pairs."""
-    forms = sorted(set([difference_of(point, other) for point, other in pairs]))
-    return cut(tuple(forms), len(forms))
+    forms = tuple(sorted(set([difference_of(point, other) for point, other in pairs])))
+    # With one point in a lot these are the corners of the other one, moved, or turned.
+    return forms if len(above) == 1 or len(below) == 1 else cut(forms, len(forms))
 
 
 def are_few_forms(above, below):
@@ -108,12 +151,18 @@ def are_few_forms(above, below):
     return len(below) == 1 or len(above) * len(below) * len(below) <= MOST_PAIRS
 
 
+def has_surely_few_forms(network):
+    """Whether a network is surely not refused by `need_few_forms`."""
+    bounds = corners_bound(network, MOST_READ)
+    return bounds is not None and bounds[0] * bounds[1] * bounds[1] <= MOST_PAIRS
+
+
 def need_few_forms(network):
     """The reading of a network, refused if what tells whether this is a greatest of forms is too much."""
     above, below = need_lots_of(network)
     need_pairs(above, below)
     if not are_few_forms(above, below):
-        need_pairs(below, forms_of(pairs_met(above, below)))
+        need_pairs(below, forms_of(above, below, pairs_met(above, below)))
     return above, below
 
 
@@ -122,10 +171,19 @@ def excess(network, x, y):
     return told_at(network, sum_of(x, y)) - told_at(network, x) - told_at(network, y)
 
 
+def both_told(network, row):
+    """What the network tells for a row and for the opposite one together: 0 less their excess."""
+    return told_at(network, row) + told_at(network, times(row, -1))
+
+
 def tried_rows(network, is_above):
     """Two short rows with an excess other than 0, or, on demand, above 0; None if none were met."""
     rows = trial_rows(network.inputs)
-    for x, y in [(row, times(row, -1)) for row in rows] + list(zip(rows, rows[1:])):
+    for row in rows:
+        told = both_told(network, row)
+        if told < 0 or told > 0 and not is_above:
+            return row, times(row, -1)
+    for x, y in zip(rows, rows[1:]):
         told = excess(network, x, y)
         if told > 0 or told < 0 and not is_above:
             return x, y
@@ -155,20 +213,27 @@ def rows_above(above, below, pairs, forms):
 
 def greatest_or_rows(network):
     """EITHER the lot of which the network is the greatest, OR two rows with an excess above 0."""
+    need_network(network)
+    if has_surely_few_forms(network):
+        first = unit_row(0, network.inputs)
+        if both_told(network, first) < 0:
+            return "rows", first, times(first, -1)
     above, below = need_few_forms(network)
     rows = tried_rows(network, True) if len(below) > 1 else None
     if rows is None:
         pairs = pairs_met(above, below)
-        forms = forms_of(pairs)
+        forms = forms_of(above, below, pairs)
         rows = rows_above(above, below, pairs, forms)
     return ("greatest", forms) if rows is None else ("rows", rows[0], rows[1])
 
 
 def is_greatest_or_rows(network, value):
     """Whether the value shows that the network is a greatest of forms, or that it is none."""
-    above, below = need_few_forms(network)
+    need_network(network)
+    lots = None if has_surely_few_forms(network) else need_few_forms(network)
     if is_told(value, "greatest", 2):
-        forms = forms_of(pairs_met(above, below))
+        above, below = need_lots_of(network) if lots is None else lots
+        forms = forms_of(above, below, pairs_met(above, below))
         return is_just(value[1], forms) and are_alike((below, forms), (above, ((0,) * network.inputs,)))
     if is_told(value, "rows", 3):
         _, x, y = value
@@ -184,6 +249,11 @@ def straight_form(above, below):
 
 def straight_or_rows(network):
     """EITHER the form that the network is, OR two rows with an excess other than 0."""
+    need_network(network)
+    if is_surely_read(network, MOST_READ):
+        first = unit_row(0, network.inputs)
+        if both_told(network, first) != 0:
+            return "rows", first, times(first, -1)
     above, below = need_lots_of(network)
     form = straight_form(above, below)
     if form is not None:
@@ -200,10 +270,15 @@ def straight_or_rows(network):
 
 def is_straight_or_rows(network, value):
     """Whether the value shows that the network is one form, or that it is none."""
-    above, below = need_lots_of(network)
-    if is_told(value, "straight", 2):
-        form = straight_form(above, below)
-        return form is not None and is_just(value[1], form)
+    need_network(network)
+    if not is_surely_read(network, MOST_READ):
+        need_lots_of(network)
+    if is_told(value, "straight", 2) and is_whole_row(value[1], network.inputs):
+        first = unit_row(0, network.inputs)
+        if both_told(network, first) != 0 or told_at(network, first) != value[1][0]:
+            return False
+        above, below = need_lots_of(network)
+        return straight_form(above, below) == value[1]
     if is_told(value, "rows", 3):
         _, x, y = value
         return is_whole_row(x, network.inputs) and is_whole_row(y, network.inputs) and excess(network, x, y) != 0

@@ -1,6 +1,7 @@
 """The reading of a network by rules, unit by unit."""
 
 from rampworks.base.linear import content_of, difference_of, sum_of, times
+from rampworks.hull.borders import plane_total
 from rampworks.hull.cuts import guided_join
 from rampworks.hull.totals import guided_total
 from rampworks.net.networks import unit_row
@@ -14,9 +15,27 @@ def shape_of(lot):
     return tuple([tuple([x // number for x in lead]) for lead in leads]), number
 
 
-def mixed_lot(parts, length, most):
-    """The sum of lots with guides, each times a number above 0; None if it has more corners than `most`."""
-    place, shapes, guides = (0,) * length, {}, {}
+def mixed_lot(parts, place, most):
+    """The sum of a place and of lots with guides, each times a number above 0.
+
+    None if it has more corners than `most`.
+    """
+    if not parts:
+        return {place: None}
+    if len(place) == 1:
+        low = place[0] + sum([number * min(lot)[0] for number, lot in parts])
+        high = place[0] + sum([number * max(lot)[0] for number, lot in parts])
+        return {(low,): None, (high,): None}
+    if len(place) == 2:
+        tips = plane_total([(1, (place,))] + [(number, tuple(lot)) for number, lot in parts])
+        return None if len(tips) > most else {tip: None for tip in tips}
+    total = guided_total(lots_to_add(parts, place), most, True)
+    return None if len(total) > most else total
+
+
+def lots_to_add(parts, place):
+    """Few lots with guides that have the same sum: those of one shape as one."""
+    shapes, guides = {}, {}
     for number, lot in parts:
         points = tuple(lot)
         place = sum_of(place, times(points[0], number))
@@ -25,8 +44,7 @@ def mixed_lot(parts, length, most):
             shapes[shape] = shapes.get(shape, 0) + number * size
             guides[shape] = [lot[point] for point in points]
     grown = [{times(point, shapes[shape]): form for point, form in zip(shape, guides[shape])} for shape in shapes]
-    total = guided_total([{place: None}] + sorted(grown, key=len), most, True)
-    return None if len(total) > most else total
+    return [{place: None}] + sorted(grown, key=len)
 
 
 def split_row(row, told):
@@ -42,16 +60,29 @@ def split_row(row, told):
     return above, below
 
 
+def parted_row(row):
+    """Two rows with no member below 0, of which the first one less the second one is the row."""
+    return tuple([x if x > 0 else 0 for x in row]), tuple([-x if x < 0 else 0 for x in row])
+
+
 def row_told(row, told, length, most):
-    """The pair of lots that a row over parts with readings tells, or None if one of them has too many corners."""
-    above, below = split_row(row, told)
-    left = mixed_lot(above, length, most)
-    right = None if left is None else mixed_lot(below, length, most)
+    """The pair of lots that a row over the inputs, and over parts with readings behind these, tells.
+
+    None if one of them has too many corners.
+    """
+    place, beside = parted_row(row[:length])
+    above, below = split_row(row[length:], told[length:])
+    left = mixed_lot(above, place, most)
+    right = None if left is None else mixed_lot(below, beside, most)
     return None if right is None else (left, right)
 
 
 def unit_told(unit, told, length, most):
     """The same for a unit: the join of both lots, and the second one of them."""
+    if len(unit) == length:
+        one, other = parted_row(unit)
+        above = {one: None, other: None} if one < other else {other: None, one: None}
+        return above, {other: None}
     lots = row_told(unit, told, length, most)
     if lots is None:
         return None

@@ -8,6 +8,7 @@ from rampworks.hull.frames import frame_of
 from rampworks.hull.totals import sum_cut, ways_of
 from rampworks.net.networks import Network, form_network
 from rampworks.net.readings import need_reading
+from rampworks.stick.flats import flat_leads, lengths_told, line_bends, many_tips, plane_bends, plane_places
 from rampworks.stick.spans import (
     edges_along, fibers_along, form_along, has_single, is_heading, length_between, shade_corners)
 
@@ -24,16 +25,20 @@ def need_narrow_reading(reading):
         raise InvalidOperation("points have at most four members here")
 
 
+def need_few_tips(many):
+    """Refuses so many corners if they are too many."""
+    if many > MOST_TIPS:
+        raise TooMany(MOST_TIPS)
+
+
 def few_tips(tips):
     """Gives corners back, but refuses too many."""
-    if len(tips) > MOST_TIPS:
-        raise TooMany(MOST_TIPS)
+    need_few_tips(len(tips))
     return tips
 
 
 def need_ways(reading):
-    """For each corner of the sum of both lots of what has to be a reading the pair of corners that make it."""
-    need_narrow_reading(reading)
+    """For each corner of the sum of both lots of a reading the pair of corners that make it."""
     above = few_tips(cut(reading[0], MOST_TIPS))
     below = few_tips(cut(reading[1], MOST_TIPS))
     totals = few_tips(sum_cut(above, below, MOST_TIPS))
@@ -108,16 +113,39 @@ def bends_told(ways):
     return tuple(found)
 
 
+def need_plane_bends(reading):
+    """The same of a function of two inputs, with the errors of too many corners."""
+    above, below = flat_leads(reading[0]), flat_leads(reading[1])
+    need_few_tips(many_tips(above))
+    need_few_tips(many_tips(below))
+    lower, upper = lengths_told(above[0], below[0]), lengths_told(above[1], below[1])
+    need_few_tips(len(lower) + len(upper))
+    return plane_bends(lower, upper)
+
+
+def need_bends(reading):
+    """The triples, and the corners that make those of the sum of both lots, None for less than three inputs."""
+    need_narrow_reading(reading)
+    length = len(reading[0][0])
+    if length == 1:
+        return line_bends(reading), None
+    if length == 2:
+        return need_plane_bends(reading), None
+    ways = need_ways(reading)
+    return bends_told(ways), ways
+
+
 def bends(reading):
     """The triples of the rows along which the function bends, with the least and the greatest number."""
-    return bends_told(need_ways(reading))
+    told, _ = need_bends(reading)
+    return told
 
 
 def unlike_places(ways, told):
     """Two places of one row with unlike bends, None if there are none."""
     for row, least, most in told:
         if least != most:
-            return two_places(ways, row)
+            return plane_places(row) if ways is None else two_places(ways, row)
     return None
 
 
@@ -139,11 +167,10 @@ def two_places(ways, row):
     return None
 
 
-def planes_told(ways, told):
+def planes_told(reading, told):
     """The form and the planes of a function that bends along each row by one number: a form and a dict."""
-    # At the last of all corners all rows of ramps are on, since their heads are above 0.
-    above, below = ways[list(ways)[-1]]
-    form, planes = difference_of(above, below), {}
+    # Where the last points of both lots are greatest all rows of ramps are on, since their heads are above 0.
+    form, planes = difference_of(reading[0][-1], reading[1][-1]), {}
     for row, c, _ in told:
         form = difference_of(form, times(row, c))
         planes[row] = c
@@ -159,14 +186,13 @@ def layer_network(form, planes):
 
 def layer_or_places(reading):
     """EITHER a network of one layer, OR two places of one row with unlike bends."""
-    ways = need_ways(reading)
+    told, ways = need_bends(reading)
     if not all([-TOO_LONG < x < TOO_LONG for lot in reading for point in lot for x in point]):
         raise TooMany(TOO_LONG)
-    told = bends_told(ways)
     places = unlike_places(ways, told)
     if places is not None:
         return "places", places[0], places[1]
-    form, planes = planes_told(ways, told)
+    form, planes = planes_told(reading, told)
     return "layer", layer_network(form, planes)
 
 
@@ -186,21 +212,20 @@ def planes_in(network):
     return form, {row: planes[row] for row in planes if planes[row] != 0}
 
 
-def is_layer(ways, network):
+def is_layer(reading, told, network):
     """Whether the value is a network of at most one layer for the function, with a unit for each plane."""
-    told = bends_told(ways)
     if not isinstance(network, Network) or network.depth > 1 or len(network.units) != len(told):
         return False
-    if network.inputs != len(list(ways)[0]) or any([least != most for _, least, most in told]):
+    if network.inputs != len(reading[0][0]) or any([least != most for _, least, most in told]):
         return False
-    return planes_in(network) == planes_told(ways, told)
+    return planes_in(network) == planes_told(reading, told)
 
 
 def is_layer_or_places(reading, value):
     """Whether the value shows that one layer tells the function, with as few units as can be, or that none does."""
-    ways = need_ways(reading)
+    told, _ = need_bends(reading)
     if is_told(value, "layer", 2):
-        return is_layer(ways, value[1])
+        return is_layer(reading, told, value[1])
     if is_told(value, "places", 3):
         _, one, other = value
         if not are_place(reading, one) or not are_place(reading, other) or one[0] != other[0]:
@@ -211,8 +236,7 @@ def is_layer_or_places(reading, value):
 
 def least_units(reading):
     """The fewest units of one layer that tell the function of the reading."""
-    ways = need_ways(reading)
-    told = bends_told(ways)
+    told, ways = need_bends(reading)
     places = unlike_places(ways, told)
     if places is not None:
         raise Refused(("places", places[0], places[1]))

@@ -37,8 +37,7 @@ def is_bundle_for(value, row):
 def bundle_lot(row, bundle, most):
     """The lot that the bundle makes from the row, None if it has more corners than `most`."""
     zeros = (0,) * len(row)
-    parts = [(1, {row: None})] + [(c, {zeros: None, lead: None}) for lead, c in bundle]
-    total = mixed_lot(parts, len(row), most)
+    total = mixed_lot([(c, {zeros: None, lead: None}) for lead, c in bundle], row, most)
     return None if total is None else tuple(total)
 
 
