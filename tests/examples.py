@@ -133,4 +133,38 @@ raises InvalidOperation
 ['layer', 2, True, 0]
 >>> bend_at((TRIANGLE, POINT), ((1, 0), (0, 0)))
 raises InvalidOperation
+>>> FAN = ((1, 0), (0, 1), (1, 1))
+>>> [cells(FAN), count_cells(FAN), most_cells(3, 2), general_or_lot(FAN), cell_or_weights(FAN, (1, 1, -1))[0]]
+[((-1, -1, -1), (-1, 1, -1), (-1, 1, 1), (1, -1, -1), (1, -1, 1), (1, 1, 1)), 6, 6, ('general',), 'weights']
+>>> [is_cell_or_weights(FAN, (1, -1, 1), ("cell", (2, -1))), is_cell_or_weights(FAN, (1, 1, -1), ("weights", (1, 1, 1))), corner_of(FAN, (1, -1, 1)), cell_at(FAN, (-3, 1)), cell_at(FAN, (1, -1)), walls(FAN, (1, 1, 1))]
+[True, True, (2, 1), (-1, 1, -1), None, ((0,), (1,))]
+>>> [count_cells(((1, 0), (2, 0), (0, 1))), general_or_lot(((1, 0), (-2, 0), (0, 1))), most_cells(12, 4), walls(((1, 0), (-2, 0), (0, 1)), (1, -1, 1))]
+[4, ('lot', (0, 1)), 464, ((0, 1), (2,))]
+>>> [len(way_between(FAN, (1, 1, 1), (-1, -1, -1))), is_way(FAN, (1, 1, 1), (1, -1, -1), ((1, 1, 1), (1, -1, 1), (1, -1, -1)))]
+[4, True]
+>>> walls(FAN, (1, 1, -1))
+raises Refused(('cell',))
+>>> HALVES = ((1, 0), (0, 1), (0, 1))
+>>> [led_row((2, 3, 5), HALVES), led_lot(((0, 0, 0), (0, 0, 1), (0, 1, 0), (1, 0, 0)), HALVES), both_puts(HALVES, ((1,), (-1,)))]
+[(2, 8), ((0, 0), (0, 1), (1, 0)), ((1,), (-1,), (-1,))]
+>>> FOURTH = (((0, 0, 0), (0, 0, 1), (0, 1, 0), (1, 0, 0)), ((0, 0, 0),))
+>>> [is_barring(FOURTH, 1, HALVES), is_barring(FOURTH, 1, ((1,), (0,), (0,))), barring_choice(FOURTH, 0), barring_choice((SQUARE, POINT), 1), barring_choice(FOURTH, 2)]
+[True, False, ((-1,), (-1,), (-1,)), None, None]
+>>> [led_lot(SQUARE, ((2, 1), (0, 1))), three_puts((TRIANGLE, POINT), ((1, 0), (0, 1), (0, -1)))]
+[((0, 0), (0, 1), (2, 1), (2, 2)), ((0, 0, 1), (1, -1, 0))]
+>>> led_row((1, 2), HALVES)
+raises InvalidOperation
+>>> [sign_or_row(ABS, ())[0], sign_or_row(STEP, ())[0], sign_or_row(STEP, ((1, 1),))[0], is_sign_or_row(STEP, (), ("below", (-1, -2)))]
+['sums', 'below', 'sums', True]
+>>> [unit_kind(STEP, 0, 0, ((1, -1),)), unit_kind(STEP, 0, 0, ((-1, 0), (0, 1))), unit_kind(STEP, 0, 0, ()), is_mixed(STEP, 0, 0, (), ((1, 0), (0, 1)))]
+['open', 'shut', 'mixed', True]
+>>> [form_or_unit(STEP, ((1, -1),)), form_or_unit(STEP, ())[:3], above_or_row(STEP, Network(2, (), (1, 0)), ()), is_in_cone(((1, -1),), (2, 2))]
+[('form', (1, 0)), ('unit', 0, 0), ('above',), True]
+>>> HOUSE = ((0, 0), (0, 2), (1, 3), (2, 0), (2, 2))
+>>> [upper(HOUSE), upper_or_under(HOUSE, 0)[0], is_upper_or_under(HOUSE, 0, ("under", 1, (0, 1, 0, 0, 0))), is_upper_or_under(HOUSE, 2, ("upper", (0, 1)))]
+[((0, 2), (1, 3), (2, 2)), 'under', True, True]
+>>> [value_at_place((HOUSE, POINT), (1,), 2), agree_or_place((HOUSE, POINT), (HOUSE[1:3] + HOUSE[4:], POINT)), agree_or_place((HOUSE, POINT), (SQUARE, POINT))[0]]
+[(7, 2), ('agree',), 'place']
+>>> is_agree_or_place((HOUSE, POINT), (SQUARE, POINT), ("place", (0,), 1))
+True
 """

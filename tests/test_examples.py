@@ -7,11 +7,11 @@ from tests.helpers import same
 
 from rampworks import errors
 from rampworks.base import rows
-from rampworks.depth import bars, greatest
+from rampworks.depth import bars, greatest, puts
 from rampworks.hull import corners, sums, volumes
-from rampworks.net import alike, networks, readings
+from rampworks.net import alike, networks, ones, readings, signs
 from rampworks.plane import depth, fans, least
-from rampworks.stick import layer, sticks
+from rampworks.stick import cells, layer, sticks
 
 
 def steps():
@@ -28,7 +28,7 @@ class Examples(unittest.TestCase):
     def test_all(self):
         names, told = {}, 0
         for module in (errors, rows, corners, sums, volumes, networks, readings, alike, bars, greatest, fans, depth,
-                       least, sticks, layer):
+                       least, sticks, layer, cells, puts, signs, ones):
             names.update({name: kept for name, kept in vars(module).items() if not name.startswith("_")})
         for statement, shown in steps():
             with self.subTest(statement):
@@ -40,7 +40,7 @@ class Examples(unittest.TestCase):
                 else:
                     got, expected = eval(statement, names), eval(shown, {})
                     self.assertTrue(same(expected, got), f"{got!r} is not {expected!r}")
-        self.assertEqual(told, 73)
+        self.assertEqual(told, 73 + 19)
 
     def raises(self, statement, shown, names):
         name, _, kept = shown.partition("(")

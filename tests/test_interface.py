@@ -54,7 +54,24 @@ LISTED = {
         "bared(lot)", "sticks_or_plate(lot)", "is_sticks_or_plate(lot, value)"),
     "rampworks.stick.layer": (
         "is_place(reading, value)", "bend_at(reading, place)", "bends(reading)", "layer_or_places(reading)",
-        "is_layer_or_places(reading, value)", "least_units(reading)")}
+        "is_layer_or_places(reading, value)", "least_units(reading)"),
+    "rampworks.stick.cells": (
+        "cell_or_weights(sticks, signs)", "is_cell_or_weights(sticks, signs, value)", "cells(sticks)",
+        "count_cells(sticks)", "most_cells(many, length)", "general_or_lot(sticks)", "is_general_or_lot(sticks, value)",
+        "corner_of(sticks, signs)", "cell_at(sticks, row)", "walls(sticks, signs)", "way_between(sticks, one, other)",
+        "is_way(sticks, one, other, value)"),
+    "rampworks.depth.puts": (
+        "led_row(row, puts)", "led_lot(lot, puts)", "led_reading(reading, puts)", "put_network(network, puts)",
+        "both_puts(puts, further)", "is_barring(reading, layers, puts)", "barring_choice(reading, layers)",
+        "three_puts(reading, places)"),
+    "rampworks.net.signs": (
+        "is_in_cone(cone, row)", "sign_or_row(network, cone)", "is_sign_or_row(network, cone, value)",
+        "unit_kind(network, layer, unit, cone)", "is_mixed(network, layer, unit, cone, value)",
+        "form_or_unit(network, cone)", "is_form_or_unit(network, cone, value)", "above_or_row(network, other, cone)",
+        "is_above_or_row(network, other, cone, value)"),
+    "rampworks.net.ones": (
+        "upper(lot)", "upper_or_under(lot, index)", "is_upper_or_under(lot, index, value)",
+        "value_at_place(reading, row, t)", "agree_or_place(one, other)", "is_agree_or_place(one, other, value)")}
 CONSTANTS = {
     "rampworks.base.rows": {"MOST_LENGTH": 16, "MOST_ROWS": 400},
     "rampworks.hull.corners": {"MOST_POINTS": 400},
@@ -66,7 +83,9 @@ CONSTANTS = {
     "rampworks.depth.greatest": {"MOST_NUMBERS": 6},
     "rampworks.plane.fans": {"MOST_RAYS": 64, "MOST_BENDS": 800},
     "rampworks.plane.least": {"MOST_EDGES": 400},
-    "rampworks.stick.sticks": {"MOST_STICKS": 30}}
+    "rampworks.stick.sticks": {"MOST_STICKS": 30},
+    "rampworks.stick.cells": {"MOST_STICKS": 12},
+    "rampworks.net.signs": {"MOST_SIDES": 6}}
 
 
 class Interface(unittest.TestCase):

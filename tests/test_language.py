@@ -14,7 +14,7 @@ BUILTINS = {
     "LookupError", "ArithmeticError", "OverflowError"}
 METHODS = {
     "append", "extend", "insert", "pop", "get", "items", "keys", "values", "index", "join", "count", "bit_length",
-    "add", "reverse", "setdefault"}
+    "add", "reverse", "remove", "setdefault"}
 DOUBLE = {"__init__", "__eq__", "__str__"}
 BARRED = {
     "register", "mro", "elements", "open", "input", "law", "version_info", "with_traceback", "add_note", "attrgetter",

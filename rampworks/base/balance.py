@@ -6,22 +6,26 @@ from rampworks.base.linear import content_of, difference_of, head_place, product
 GUESS = 65535
 # Forms are looked at with so many bits first: products of such ones are fast.
 MOST_BITS = 20
+# The number of what is no group, but all walls.
+WALLS = -1
 
 
 class Balance:
     """A table of pivots for weights of columns, from 0 on and 1 in all, whose weighted sum is 0.
 
-    A column is a point less another one: `groups` are pairs of a point and the others. The first rows are units, each
-    with the sign of `signs`. `used` tells for each row which column is in it, None for a made-up one. `rows`, divided
-    by `bottom`, times a column with a 1 behind it tell how much of those in use it takes the place of. `price`, times
-    a column with a 1 behind it, tells how much less of the made-up ones there is with it. What is in the row `held`
-    is free: it takes numbers below 0, too. `tops` keeps which points were met as the only greatest ones of all, with
-    the forms for which they are so.
+    A column is a point less another one: `groups` are pairs of a point and the others. Besides there is a column for
+    each of the `walls`, whose number does not count for the 1 in all. The first rows are units, each with the sign of
+    `signs`. `used` tells for each row which column is in it, None for a made-up one. `rows`, divided by `bottom`,
+    times a column with a 1 behind it (a 0 for a wall) tell how much of those in use it takes the place of. `price`,
+    times the same, tells how much less of the made-up ones there is with it. What is in the row `held` is free: it
+    takes numbers below 0, too. `tops` keeps which points were met as the only greatest ones of all, with the forms
+    for which they are so.
     """
 
-    def __init__(self, groups, guess):
+    def __init__(self, groups, walls, guess):
         length = len(guess)
         self.groups = groups
+        self.walls = walls
         self.signs = [-1 if x > 0 else 1 for x in guess] + [1]
         self.rows = [[self.signs[at] if k == at else 0 for k in range(length + 1)] for at in range(length + 1)]
         self.used = [None] * (length + 1)
@@ -42,7 +46,10 @@ class Balance:
         self.pivot(at, [product_of(row, column) for row in self.rows], product_of(self.price, column))
 
     def dearest(self, form):
-        """The column at which the form is greatest, as a pair of a group and an index, None if it is below 0 at all."""
+        """The column at which the form is greatest, as a pair of a group and an index.
+
+        None if it is below 0 at all columns of groups, and at most 0 at all walls.
+        """
         found, greatest = None, -1
         for at, (point, others) in enumerate(self.groups):
             if others:
@@ -53,10 +60,16 @@ class Balance:
                     found, greatest = (at, told.index(least)), worth
                 if worth > 0 and told.count(least) == 1:
                     self.tops.append((others[told.index(least)], form))
+        for index, wall in enumerate(self.walls):
+            worth = product_of(form, wall)
+            if worth > max(0, greatest):
+                found, greatest = (WALLS, index), worth
         return found
 
     def column_of(self, place):
-        """The column of a group at an index, with a 1 behind it."""
+        """The column of a group at an index, with a 1 behind it, or of a wall, with a 0."""
+        if place[0] == WALLS:
+            return [*self.walls[place[1]], 0]
         point, others = self.groups[place[0]]
         return [*difference_of(point, others[place[1]]), 1]
 
@@ -70,7 +83,8 @@ class Balance:
             if place is None and self.held is None:
                 self.price = short + self.price[-1:]
                 return None
-            if place is not None and product_of(form, self.column_of(place)) >= 0:
+            least = 1 if place is not None and place[0] == WALLS else 0
+            if place is not None and product_of(form, self.column_of(place)) >= least:
                 return place
         return self.dearest(form)
 
@@ -116,19 +130,24 @@ class Balance:
         return tuple([x // size for x in found])
 
     def weights(self):
-        """The weights of all columns, group behind group, and the number of the free one, in lowest terms."""
-        begins, many = [], 0
-        for _, others in self.groups:
-            begins.append(many)
+        """The weights of all columns, group behind group, those of the walls, and the number of the free one.
+
+        They are in lowest terms, all together.
+        """
+        begins, many = {}, 0
+        for at, (_, others) in enumerate(self.groups):
+            begins[at] = many
             many += len(others)
-        found, share = [0] * many, 0
+        begins[WALLS] = many
+        found, share = [0] * (many + len(self.walls)), 0
         for at, place in enumerate(self.used):
             if at == self.held:
                 share = self.rows[at][-1]
             elif place is not None:
                 found[begins[place[0]] + place[1]] = self.rows[at][-1]
         size = content_of(found + [share])
-        return [x // size for x in found], share // size
+        found = [x // size for x in found]
+        return found[:many], found[many:], share // size
 
 
 def totals_of(groups):
@@ -153,12 +172,12 @@ def sizes_like(guess):
     return [max(1, abs(x) * GUESS // greatest) for x in guess]
 
 
-def settled(groups, free, guess):
-    """The table of the groups, with a free row, if there is one (else None), when it is at its end.
+def settled(groups, walls, free, guess):
+    """The table of the groups and walls, with a free row, if there is one (else None), when it is at its end.
 
     The guess, if there is one (else None), is a form that is tried first.
     """
-    table = Balance(groups, totals_of(groups) if guess is None else guess)
+    table = Balance(groups, walls, totals_of(groups) if guess is None else guess)
     if free is not None:
         table.hold(free)
     while table.price[-1] != 0:
@@ -175,8 +194,19 @@ def form_or_weights(groups, free):
     of the points less the others by weights, and of share times the free row, is 0."""
     if not any([others for _, others in groups]):
         return "form", (0,) * len(groups[0][0])
-    table = settled(groups, free, None)
+    table = settled(groups, (), free, None)
     if table.price[-1] != 0:
         return "form", table.told_form()
-    weights, share = table.weights()
+    weights, _, share = table.weights()
     return "weights", weights, share
+
+
+def form_in_cone(groups, walls):
+    """EITHER ("form", form), greater at the point of each group than at its others, and at least 0 at all walls;
+    OR ("weights", weights, numbers): the sum of the points less the others by weights, from 0 on, not all 0, and of
+    the walls, each times its number, from 0 on, is 0."""
+    table = settled(groups, walls, None, None)
+    if table.price[-1] != 0:
+        return "form", table.told_form()
+    weights, numbers, _ = table.weights()
+    return "weights", weights, numbers

@@ -141,7 +141,7 @@ def single_cut(points, known, most, guesses):
             break
         if point not in found:
             others = [other for other in left if other != point]
-            table = settled(((point, others),), None, guesses.get(point))
+            table = settled(((point, others),), (), None, guesses.get(point))
             if table.price[-1] != 0:
                 found[point] = table.told_form()
             else:

@@ -19,9 +19,14 @@ def moved_by(lot, row):
     return tuple([sum_of(point, row) for point in lot])
 
 
+def lots_cut(lots, most):
+    """The corners of the sum of cut lots; if there are more than `most`, more than these."""
+    return tuple(guided_total([{point: None for point in lot} for lot in lots], most, False))
+
+
 def sum_cut(one, other, most):
-    """The corners of the sum of two cut lots; if there are more than `most`, more than these."""
-    return tuple(guided_total([{point: None for point in one}, {point: None for point in other}], most, False))
+    """The same of two lots."""
+    return lots_cut((one, other), most)
 
 
 def guided_sum(one, other, most, wants_forms):

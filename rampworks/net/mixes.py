@@ -77,17 +77,20 @@ def row_told(row, told, length, most):
     return None if right is None else (left, right)
 
 
+def ramp_told(lots, most):
+    """The pair of lots of a unit whose row tells a pair of lots: their join, and the second one; None as above."""
+    above = guided_join(lots[0], lots[1], most)
+    return None if len(above) > most else (above, lots[1])
+
+
 def unit_told(unit, told, length, most):
-    """The same for a unit: the join of both lots, and the second one of them."""
+    """The same of a unit over inputs and parts with readings."""
     if len(unit) == length:
         one, other = parted_row(unit)
         above = {one: None, other: None} if one < other else {other: None, one: None}
         return above, {other: None}
     lots = row_told(unit, told, length, most)
-    if lots is None:
-        return None
-    above = guided_join(lots[0], lots[1], most)
-    return None if len(above) > most else (above, lots[1])
+    return None if lots is None else ramp_told(lots, most)
 
 
 def inputs_told(length):
