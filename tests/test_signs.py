@@ -49,9 +49,8 @@ def rows_within(source, cone, length, many=12):
 
 def sum_by(network, layer, unit, row):
     """The sum of a unit, by hand."""
-    values, _ = reckoned(network, row)
-    place = sum(len(units) for units in network.layers[:layer])
-    return dot(network.layers[layer][unit], tuple(row) + tuple(values[:place]))
+    sums, _ = reckoned(network, row)
+    return sums[sum(len(units) for units in network.layers[:layer]) + unit]
 
 
 def is_right(above, below, cone, sums):
