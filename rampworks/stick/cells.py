@@ -4,9 +4,10 @@ from math import comb
 
 from rampworks.base.balance import form_or_weights
 from rampworks.base.checks import are_short_rows, are_weights, is_short, is_short_row, is_told, is_whole_row
+from rampworks.base.choices import across, lots_of_indices
 from rampworks.base.linear import content_of, eliminated, head_place, mixture, product_of, tells, times
 from rampworks.errors import InvalidNumber, InvalidOperation, InvalidRow, Refused
-from rampworks.stick.rays import across, cells_round, lots_of_indices
+from rampworks.stick.rays import cells_round
 
 MOST_STICKS = 12
 MOST_WIDE = 4

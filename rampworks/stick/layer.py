@@ -213,19 +213,31 @@ def planes_in(network):
 
 
 def is_layer(reading, told, network):
-    """Whether the value is a network of at most one layer for the function, with a unit for each plane."""
-    if not isinstance(network, Network) or network.depth > 1 or len(network.units) != len(told):
+    """Whether the network is one of at most one layer for the function, with a unit for each plane."""
+    if network.depth > 1 or len(network.units) != len(told):
         return False
     if network.inputs != len(reading[0][0]) or any([least != most for _, least, most in told]):
         return False
     return planes_in(network) == planes_told(reading, told)
 
 
+def need_few_sums(reading):
+    """Refuses what is no reading with few corners; its bends are not told where this is slow."""
+    need_narrow_reading(reading)
+    if len(reading[0][0]) <= 2:
+        need_bends(reading)
+        return
+    above, below = few_tips(cut(reading[0], MOST_TIPS)), few_tips(cut(reading[1], MOST_TIPS))
+    if len(above) * len(below) > MOST_TIPS:
+        few_tips(sum_cut(above, below, MOST_TIPS))
+
+
 def is_layer_or_places(reading, value):
     """Whether the value shows that one layer tells the function, with as few units as can be, or that none does."""
-    told, _ = need_bends(reading)
-    if is_told(value, "layer", 2):
+    if is_told(value, "layer", 2) and isinstance(value[1], Network):
+        told, _ = need_bends(reading)
         return is_layer(reading, told, value[1])
+    need_few_sums(reading)
     if is_told(value, "places", 3):
         _, one, other = value
         if not are_place(reading, one) or not are_place(reading, other) or one[0] != other[0]:

@@ -1,0 +1,1 @@
+"""A bench of networks under names."""

@@ -1,0 +1,1 @@
+"""Claims, and papers that show them."""

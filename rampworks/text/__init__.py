@@ -1,0 +1,1 @@
+"""Texts of lots, readings and networks."""
