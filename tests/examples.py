@@ -167,4 +167,40 @@ raises InvalidOperation
 [(7, 2), ('agree',), 'place']
 >>> is_agree_or_place((HOUSE, POINT), (SQUARE, POINT), ("place", (0,), 1))
 True
+>>> [mixed((TRIANGLE, SQUARE)), mixed_row(TRIANGLE, SQUARE), mixed((STICK, STICK)), stick_volume(((1, 0), (0, 1), (1, 1))), mixed_with_stick((TRIANGLE,), (2, 2))]
+[2, (2, 2, 1), 0, 6, 4]
+>>> [is_pairs_or_low((TRIANGLE, STICK), ("pairs", ((0, 1), (0, 1)))), is_pairs_or_low((STICK, STICK), ("low", (0, 1))), pairs_or_low((POINT, SQUARE))]
+[True, True, ('low', (0,))]
+>>> [lot_text(STICK), reading_text((STICK, POINT)), read_lot("lot\n  -3 0\n  2 7\nend\n")]
+['lot\n  0 0\n  1 1\nend\n', 'reading\nabove\n  0 0\n  1 1\nbelow\n  0 0\nend\n', ((-3, 0), (2, 7))]
+>>> RAMP = "network 2\nlayer\n  1 -1\nlast\n  0 1 1\nend\n"
+>>> [read_network(RAMP) == Network(2, (((1, -1),),), (0, 1, 1)), network_text(read_network(RAMP)) == RAMP]
+[True, True]
+>>> read_lot("lot\n  0 0\n  0 0\nend\n")
+raises ParseError(2)
+>>> read_network("network 2\nlayer\nlast\n")
+raises ParseError(2)
+>>> bench = Bench()
+>>> bench.put("one", Network(2, (((1, -1),),), (0, 1, 1)))
+>>> bench.put("two", Network(2, (((-1, 1),),), (1, 0, 1)))
+>>> [bench.ask("one", "two"), bench.known("two", "one"), str(bench), bench.names, "one" in bench]
+[('alike',), None, 'bench of 2 networks, 2 edits', ('one', 'two'), True]
+>>> bench.turn("one", 0, 0, (2, -2))
+>>> [bench.known("one", "two"), bench.ask("one", "two")[0]]
+[None, 'point']
+>>> bench.undo()
+>>> [bench.known("one", "two"), bench.network_of("one").layers, len(bench)]
+[('alike',), (((1, -1),),), 2]
+>>> bench.network_of("three")
+raises UnknownName('three')
+>>> [takes(("corner", SQUARE, 3), (1, 1)), takes(("within", ((0, 0), (1, 1), (2, 2)), 1), (2, (1, 0, 1))), takes(("full", TRIANGLE), ((0, 1, 2),)), takes(("flat", STICK), (1, -1))]
+[True, True, True, True]
+>>> [takes(("alike", ((0,), (1,), (2,)), ((0,), (2,))), (((1, (1, 0)), (2, (1, 1)), (1, (0, 1))), ((1, (1, 0, 0)), (1, (0, 0, 1))))), answered(("alike", SQUARE, TRIANGLE))[0][0]]
+[True, 'unlike']
+>>> [opposite(("odd", (TRIANGLE, POINT)))[0], takes(("odd", (TRIANGLE, POINT)), (("parted", ((0, 1, 2),)), ("flat", (1, 0)))), takes(("bent", (STICK, POINT)), ((1, 0), (-1, 0))), takes(("straight", (STICK, STICK)), ((0, 0), (((1, (1, 0)), (1, (0, 1))), ((1, (1, 0)), (1, (0, 1))))))]
+['even', True, True, True]
+>>> [answered(("single", (TRIANGLE, POINT)))[0][0], takes(("several", (TRIANGLE, POINT)), (((1, 0), (0, -1)), ((1, 0), (0, 1)))), takes(("whole", ((2, 1), (4, 5)), (2, 4)), (-1, 1)), takes(("broken", ((2, 0), (0, 3)), (4, 2)), ((0, 1), 3))]
+['several', True, True, True]
+>>> opposite(("corner", SQUARE, 4))
+raises InvalidClaim
 """

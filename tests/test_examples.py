@@ -7,11 +7,14 @@ from tests.helpers import same
 
 from rampworks import errors
 from rampworks.base import rows
+from rampworks.bench import bench
 from rampworks.depth import bars, greatest, puts
-from rampworks.hull import corners, sums, volumes
+from rampworks.hull import corners, mixed, sums, volumes
+from rampworks.judge import claims
 from rampworks.net import alike, networks, ones, readings, signs
 from rampworks.plane import depth, fans, least
 from rampworks.stick import cells, layer, sticks
+from rampworks.text import texts
 
 
 def steps():
@@ -28,7 +31,7 @@ class Examples(unittest.TestCase):
     def test_all(self):
         names, told = {}, 0
         for module in (errors, rows, corners, sums, volumes, networks, readings, alike, bars, greatest, fans, depth,
-                       least, sticks, layer, cells, puts, signs, ones):
+                       least, sticks, layer, cells, puts, signs, ones, mixed, texts, bench, claims):
             names.update({name: kept for name, kept in vars(module).items() if not name.startswith("_")})
         for statement, shown in steps():
             with self.subTest(statement):
@@ -40,7 +43,7 @@ class Examples(unittest.TestCase):
                 else:
                     got, expected = eval(statement, names), eval(shown, {})
                     self.assertTrue(same(expected, got), f"{got!r} is not {expected!r}")
-        self.assertEqual(told, 73 + 19)
+        self.assertEqual(told, 113)
 
     def raises(self, statement, shown, names):
         name, _, kept = shown.partition("(")

@@ -71,7 +71,19 @@ LISTED = {
         "is_above_or_row(network, other, cone, value)"),
     "rampworks.net.ones": (
         "upper(lot)", "upper_or_under(lot, index)", "is_upper_or_under(lot, index, value)",
-        "value_at_place(reading, row, t)", "agree_or_place(one, other)", "is_agree_or_place(one, other, value)")}
+        "value_at_place(reading, row, t)", "agree_or_place(one, other)", "is_agree_or_place(one, other, value)"),
+    "rampworks.hull.mixed": (
+        "mixed(lots)", "mixed_row(one, other)", "stick_volume(rows)", "mixed_with_stick(lots, row)",
+        "pairs_or_low(lots)", "is_pairs_or_low(lots, value)"),
+    "rampworks.text.texts": (
+        "lot_text(lot)", "reading_text(reading)", "network_text(network)", "read_lot(text)", "read_reading(text)",
+        "read_network(text)"),
+    "rampworks.bench.bench": ("Bench()",),
+    "rampworks.judge.claims": ("is_claim(value)", "opposite(claim)", "takes(claim, paper)", "answered(claim)")}
+METHODS = (
+    "put(self, name, network)", "drop(self, name)", "unit(self, name, layer, row)", "turn(self, name, layer, unit, row)",
+    "last_row(self, name, row)", "leave(self, name, layer, unit)", "put_in(self, name, puts)", "undo(self)",
+    "redo(self)", "network_of(self, name)", "ask(self, name, other)", "known(self, name, other)")
 CONSTANTS = {
     "rampworks.base.rows": {"MOST_LENGTH": 16, "MOST_ROWS": 400},
     "rampworks.hull.corners": {"MOST_POINTS": 400},
@@ -85,7 +97,11 @@ CONSTANTS = {
     "rampworks.plane.least": {"MOST_EDGES": 400},
     "rampworks.stick.sticks": {"MOST_STICKS": 30},
     "rampworks.stick.cells": {"MOST_STICKS": 12},
-    "rampworks.net.signs": {"MOST_SIDES": 6}}
+    "rampworks.net.signs": {"MOST_SIDES": 6},
+    "rampworks.hull.mixed": {"MOST_STICKS": 24},
+    "rampworks.text.texts": {"MOST_TEXT": 1200000},
+    "rampworks.bench.bench": {"MOST_NETWORKS": 12, "MOST_NAME": 8},
+    "rampworks.judge.claims": {"MOST_IN_CLAIM": 20, "MOST_IN_READING": 12}}
 
 
 class Interface(unittest.TestCase):
@@ -97,7 +113,7 @@ class Interface(unittest.TestCase):
                 name, arguments = line[:-1].split("(")
                 found = getattr(kept, name)
                 self.assertEqual(found.__module__, module)
-                self.assertEqual(list(inspect.signature(found).parameters), arguments.split(", "))
+                self.assertEqual(list(inspect.signature(found).parameters), arguments.split(", ") if arguments else [])
 
     def test_constants(self):
         for module, listed in CONSTANTS.items():
@@ -108,3 +124,10 @@ class Interface(unittest.TestCase):
         kept = importlib.import_module("rampworks.net.networks").Network
         for name in ("__init__", "__eq__", "__str__"):
             self.assertIn(name, vars(kept))
+        bench = importlib.import_module("rampworks.bench.bench").Bench
+        for name in ("__init__", "__eq__", "__str__", "__len__", "__contains__"):
+            self.assertIn(name, vars(bench))
+        self.assertIsInstance(vars(bench)["names"], property)
+        for line in METHODS:
+            name, arguments = line[:-1].split("(")
+            self.assertEqual(list(inspect.signature(vars(bench)[name]).parameters), arguments.split(", "))

@@ -14,8 +14,8 @@ BUILTINS = {
     "LookupError", "ArithmeticError", "OverflowError"}
 METHODS = {
     "append", "extend", "insert", "pop", "get", "items", "keys", "values", "index", "join", "count", "bit_length",
-    "add", "reverse", "remove", "setdefault"}
-DOUBLE = {"__init__", "__eq__", "__str__"}
+    "add", "reverse", "remove", "setdefault", "startswith", "split", "replace", "isdigit", "isascii", "isprintable"}
+DOUBLE = {"__init__", "__eq__", "__str__", "__len__", "__contains__"}
 BARRED = {
     "register", "mro", "elements", "open", "input", "law", "version_info", "with_traceback", "add_note", "attrgetter",
     "breakpoint", "builtins", "compile", "copyright", "credits", "delattr", "dir", "eval", "exec", "exit", "gc",
@@ -81,7 +81,9 @@ class Language(unittest.TestCase):
                     self.assertEqual(at, 0)
                 elif isinstance(node, ast.Assign):
                     self.assertEqual(len(node.targets), 1)
-                    self.assertIsInstance(eval(ast.unparse(node.value), {}), (int, tuple, dict))
+                    # Functions that stand in a table are defined above it, in the same file.
+                    above = {item.name: 0 for item in tree.body[:at] if isinstance(item, ast.FunctionDef)}
+                    self.assertIsInstance(eval(ast.unparse(node.value), {}, above), (int, str, tuple, dict))
                     bound.append(node.targets[0].id)
                 elif isinstance(node, ast.ImportFrom):
                     bound.extend(alias.name for alias in node.names)
@@ -149,8 +151,9 @@ class Language(unittest.TestCase):
 
     def test_builtins(self):
         for file, text, tree in self.each():
+            above = [item for node in ast.walk(tree) if isinstance(node, ast.FunctionDef) for item in node.decorator_list]
             for node in ast.walk(tree):
-                if isinstance(node, ast.Name) and node.id in vars(builtins):
+                if isinstance(node, ast.Name) and node.id in vars(builtins) and node not in above:
                     self.assertIn(node.id, BUILTINS)
 
     def test_statements(self):
@@ -162,7 +165,13 @@ class Language(unittest.TestCase):
                     ast.GeneratorExp, ast.NamedExpr, ast.Lambda, ast.Yield, ast.YieldFrom, ast.Await, ast.Div))
                 if isinstance(node, ast.Constant):
                     self.assertNotIsInstance(node.value, float)
-                if isinstance(node, (ast.FunctionDef, ast.ClassDef)):
+                if isinstance(node, ast.ClassDef):
+                    self.assertEqual(node.decorator_list, [])
+                    for item in node.body:
+                        if isinstance(item, ast.FunctionDef) and item.decorator_list:
+                            self.assertEqual([above.id for above in item.decorator_list], ["property"])
+                            self.assertEqual(len(item.args.args), 1)
+                elif isinstance(node, ast.FunctionDef) and node in tree.body:
                     self.assertEqual(node.decorator_list, [])
                 if isinstance(node, ast.Compare):
                     for sign, other in zip(node.ops, node.comparators):
@@ -356,8 +365,8 @@ class Language(unittest.TestCase):
 
     def test_nothing_is_left_over(self):
         """Each function of the package is used in it, or listed in the interface."""
-        from tests.test_interface import LISTED
-        listed = {line.split("(")[0] for lines in LISTED.values() for line in lines}
+        from tests.test_interface import LISTED, METHODS as METHODS_LISTED
+        listed = {line.split("(")[0] for lines in (*LISTED.values(), METHODS_LISTED) for line in lines} | {"names"}
         used = set()
         for file, text, tree in self.each():
             for node in ast.walk(tree):

@@ -1,20 +1,23 @@
 """Mixed volumes: what vol of a sum of lots, each so many times, is made of."""
 
-from math import comb, factorial
+from math import factorial
 
 from rampworks.base.checks import are_ascending, are_short_rows, is_told, is_whole_row
 from rampworks.base.choices import across, lots_of_indices
 from rampworks.base.lattices import kernel_of
-from rampworks.base.linear import content_of, determinant_of, difference_of, eliminated, tells, times
+from rampworks.base.linear import content_of, determinant_of, difference_of, tells
 from rampworks.errors import InvalidOperation, TooMany
 from rampworks.hull.corners import is_lot, need_lots, need_point_row
 from rampworks.hull.cuts import cut, shadow_of
-from rampworks.hull.simplices import volume_of
+from rampworks.hull.parcels import leads_of, low_lots, mixed_of, rank_of, row_of
+from rampworks.hull.supports import shell_in_sum
 from rampworks.hull.totals import lots_cut
 
 MOST_STICKS = 24
 MOST_WIDE = 4
 MOST_TIPS = 60
+# From so many ways to take a point of each lot on, a shell is told faster than pair by pair.
+MANY_WAYS = 200
 
 
 def are_lots(lots, many, length):
@@ -39,53 +42,13 @@ def few_tips(tips):
 
 def need_few_tips(lots):
     """The cut lots; refused if their sum has too many corners, as no sum of some of them has more."""
-    tips = [few_tips(cut(lot, MOST_TIPS)) for lot in lots]
-    few_tips(lots_cut(tips, MOST_TIPS))
+    tips, ways = [few_tips(cut(lot, MOST_TIPS)) for lot in lots], 1
+    for lot in tips:
+        ways *= len(lot)
+    if ways > MOST_TIPS:
+        shell = shell_in_sum(tips, [], MOST_TIPS) if len(tips[0][0]) > 2 and ways > MANY_WAYS else None
+        few_tips(lots_cut(tips, MOST_TIPS) if shell is None else shell.points)
     return tips
-
-
-def leads_of(lot):
-    """Independent differences of points of a lot to the first one, as pairs of the index of a point and of it."""
-    leads = [difference_of(point, lot[0]) for point in lot]
-    chosen, _, _ = eliminated(leads)
-    return [(index, leads[index]) for index in sorted(chosen)]
-
-
-def rank_of(rows):
-    """How many of the rows are independent."""
-    if not rows:
-        return 0
-    chosen, _, _ = eliminated(rows)
-    return len(chosen)
-
-
-def low_lots(leads):
-    """The first indices of some lots, told by their leads, whose sum has a lesser dimension than they are many."""
-    for size in range(1, len(leads) + 1):
-        for lot in lots_of_indices(len(leads), size):
-            if rank_of([row for k in lot for _, row in leads[k]]) < size:
-                return lot
-    return None
-
-
-def volumes_of(lots):
-    """For each way to take some of the cut lots, at least one, the pair of their number and of vol of their sum."""
-    found, sums = [], []
-    for lot in lots:
-        more = [(1, lot)] + [(many + 1, lots_cut((total, lot), MOST_TIPS)) for many, total in sums]
-        found.extend([(many, volume_of(total)) for many, total in more])
-        sums.extend(more)
-    return found
-
-
-def mixed_of(lots):
-    """The mixed volume of cut lots whose sum has not too many corners."""
-    many, total = len(lots), 0
-    if low_lots([leads_of(lot) for lot in lots]) is not None:
-        return 0
-    for number, size in volumes_of(lots):
-        total += size if (many - number) % 2 == 0 else -size
-    return total // factorial(many)
 
 
 def mixed(lots):
@@ -94,35 +57,13 @@ def mixed(lots):
     return mixed_of(need_few_tips(lots))
 
 
-def volumes_in_sums(one, other):
-    """vol of each sum of two cut lots, so many times the one and so many times the other one, not more in all than
-    their points have members: as a dict of pairs of numbers."""
-    length = len(one[0])
-    found = {}
-    for less in range(length + 1):
-        for more in range(length + 1 - less):
-            lots = [tuple([times(point, number) for point in lot])
-                    for number, lot in ((less, one), (more, other)) if number > 0]
-            found[(less, more)] = volume_of(lots_cut(lots, MOST_TIPS)) if lots else 0
-    return found
-
-
 def mixed_row(one, other):
     """The mixed volumes of i times the one lot, and of the other one as often as members are left, i from 0 on."""
     need_lots(one, other)
-    length = len(one[0])
-    if length > MOST_WIDE:
+    if len(one[0]) > MOST_WIDE:
         raise InvalidOperation("mixed volumes are told for points of at most four members")
     one, other = need_few_tips((one, other))
-    sizes, found = volumes_in_sums(one, other), []
-    for many in range(length + 1):
-        total = 0
-        for less in range(many + 1):
-            for more in range(length - many + 1):
-                size = comb(many, less) * comb(length - many, more) * sizes[(less, more)]
-                total += size if (length - less - more) % 2 == 0 else -size
-        found.append(total // factorial(length))
-    return tuple(found)
+    return row_of(one, other)
 
 
 def stick_volume(rows):

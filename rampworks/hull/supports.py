@@ -71,8 +71,8 @@ def tips_of(parts, hints, most):
     return list(tips)
 
 
-def shell_sum(parts, hints, most):
-    """The corners of the sum of lots, with guides; more than `most` if there are more; None if all lie on a plane.
+def shell_in_sum(parts, hints, most):
+    """The shell of the sum of lots; not all of it if there are more than `most` corners; None if all lie on a plane.
 
     The hints are forms that are tried first.
     """
@@ -91,6 +91,14 @@ def shell_sum(parts, hints, most):
             total, tip = support(plane[:-1], parts)
             if total > -plane[-1]:
                 left.extend(shell.put(tip))
+    return shell
+
+
+def shell_sum(parts, hints, most):
+    """The corners of the sum of lots, with guides; more than `most` if there are more; None if all lie on a plane."""
+    shell = shell_in_sum(parts, hints, most)
+    if shell is None:
+        return None
     if len(shell.points) > most:
         return {tip: None for tip in shell.points}
     return guides_of(shell)
