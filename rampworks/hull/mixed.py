@@ -9,7 +9,7 @@ from rampworks.base.linear import content_of, determinant_of, difference_of, tel
 from rampworks.errors import InvalidOperation, TooMany
 from rampworks.hull.corners import is_lot, need_lots, need_point_row
 from rampworks.hull.cuts import cut, shadow_of
-from rampworks.hull.parcels import leads_of, low_lots, mixed_of, rank_of, row_of
+from rampworks.hull.parcels import leads_of, low_lots, mixed_of, rank_of, row_of, shapes_in
 from rampworks.hull.supports import shell_in_sum
 from rampworks.hull.totals import lots_cut
 
@@ -43,11 +43,12 @@ def few_tips(tips):
 def need_few_tips(lots):
     """The cut lots; refused if their sum has too many corners, as no sum of some of them has more."""
     tips, ways = [few_tips(cut(lot, MOST_TIPS)) for lot in lots], 1
-    for lot in tips:
-        ways *= len(lot)
-    if ways > MOST_TIPS:
-        shell = shell_in_sum(tips, [], MOST_TIPS) if len(tips[0][0]) > 2 and ways > MANY_WAYS else None
-        few_tips(lots_cut(tips, MOST_TIPS) if shell is None else shell.points)
+    shapes = shapes_in(tips)
+    for shape in shapes:
+        ways *= len(shape)
+    if ways > MOST_TIPS and len(shapes) > 1:
+        shell = shell_in_sum(shapes, [], MOST_TIPS) if len(tips[0][0]) > 2 and ways > MANY_WAYS else None
+        few_tips(lots_cut(shapes, MOST_TIPS) if shell is None else shell.points)
     return tips
 
 

@@ -7,7 +7,7 @@ from rampworks.hull.borders import plane_sum
 from rampworks.hull.cuts import greatest_points
 from rampworks.hull.simplices import volume_of
 from rampworks.hull.supports import shell_in_sum
-from rampworks.hull.totals import ways_of
+from rampworks.hull.totals import shape_of, ways_of
 
 # More corners than any sum has that is looked at here.
 ALL_TIPS = 10 ** 6
@@ -37,9 +37,19 @@ def low_lots(leads):
     return None
 
 
+def shapes_in(lots):
+    """The shapes of lots of two points or more, each once: their sum has its corners and facets as that of all lots."""
+    found = {}
+    for lot in lots:
+        if len(lot) > 1:
+            shape, _ = shape_of(lot)
+            found[shape] = True
+    return list(found)
+
+
 def outward_forms(lots):
     """The primitive forms that lead out of the sum of lots at its facets; both of them if it lies on one plane."""
-    shell = shell_in_sum(lots, [], ALL_TIPS)
+    shell = shell_in_sum(shapes_in(lots), [], ALL_TIPS)
     if shell is None:
         forms = kernel_of([difference_of(point, lot[0]) for lot in lots for point in lot], len(lots[0][0]))
         return [forms[0], tuple([-x for x in forms[0]])] if len(forms) == 1 else []
@@ -68,6 +78,15 @@ def plane_mixed(one, other):
     return (volume_of(plane_sum(one, other)) - volume_of(one) - volume_of(other)) // 2
 
 
+def like_mixed(lots):
+    """The mixed volume of lots of one shape."""
+    total = 1
+    for lot in lots:
+        shape, number = shape_of(lot)
+        total *= number
+    return total * volume_of(shape)
+
+
 def mixed_of(lots):
     """The mixed volume of cut lots: of each facet of the sum of all but one how far this one reaches, times its own."""
     if len(lots) == 1:
@@ -77,6 +96,8 @@ def mixed_of(lots):
     *others, apart = sorted(lots, key=len)
     if len(others[0]) == 1:
         return 0
+    if len(shapes_in(lots)) == 1:
+        return like_mixed(lots)
     apart, total = [difference_of(point, apart[0]) for point in apart], 0
     for form in outward_forms(others):
         reach, place = max(tells(form, apart)), 0
@@ -106,6 +127,8 @@ def row_of(one, other):
         return last, first
     if length == 2:
         return last, plane_mixed(one, other), first
+    if len(one) == 1 or len(other) == 1:
+        return (last, *(0,) * (length - 1), first)
     shell = shell_in_sum((one, other), [], ALL_TIPS)
     if shell is None:
         return (0,) * (length + 1)

@@ -1,7 +1,7 @@
 """Corners of sums of lots of corners alone, reckoned without bounds on integers; guides are told in `cuts`."""
 
 from rampworks.base.balance import form_or_weights
-from rampworks.base.linear import difference_of, product_of, sum_of, tells
+from rampworks.base.linear import content_of, difference_of, product_of, sum_of, tells
 from rampworks.hull.borders import plane_sum
 from rampworks.hull.sheets import Sheet
 from rampworks.hull.supports import plain_ends, shell_sum
@@ -12,6 +12,14 @@ MOST_ON_STICK = 20
 # From so many ways to take a point of each lot on, a shell is told faster than pair by pair.
 MANY_OF_THREE = 45
 MANY_OF_FOUR = 400
+
+
+def shape_of(lot):
+    """The pair (shape, number): the lot is the shape, from the point 0 on, times the number, but for a move."""
+    points = tuple(lot)
+    leads = [difference_of(point, points[0]) for point in points]
+    number = content_of([content_of(lead) for lead in leads])
+    return tuple([tuple([x // number for x in lead]) for lead in leads]), number
 
 
 def moved_by(lot, row):

@@ -1,18 +1,10 @@
 """The reading of a network by rules, unit by unit."""
 
-from rampworks.base.linear import content_of, difference_of, sum_of, times
+from rampworks.base.linear import sum_of, times
 from rampworks.hull.borders import plane_total
 from rampworks.hull.cuts import guided_join
-from rampworks.hull.totals import guided_total
+from rampworks.hull.totals import guided_total, shape_of
 from rampworks.net.networks import unit_row
-
-
-def shape_of(lot):
-    """The pair (shape, number): the lot is the shape, from the point 0 on, times the number, but for a move."""
-    points = tuple(lot)
-    leads = [difference_of(point, points[0]) for point in points]
-    number = content_of([content_of(lead) for lead in leads])
-    return tuple([tuple([x // number for x in lead]) for lead in leads]), number
 
 
 def mixed_lot(parts, place, most):
