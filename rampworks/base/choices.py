@@ -15,7 +15,7 @@ def across(rows):
     if many == 1:
         return (1,)
     if many == 2:
-        ((a, b),) = rows
+        a, b = rows[0]
         return b, -a
     if many == 3:
         (a, b, c), (d, e, f) = rows
