@@ -87,6 +87,24 @@ def have_like_parts(left, right):
     return False
 
 
+def part_between(smaller, greater):
+    """The small lot that makes the greater lot with the smaller one, None if none was found."""
+    part = part_beside(smaller, greater)
+    if len(part) > MOST_IN_PART or sum_cut(smaller, part, len(greater)) != greater:
+        return None
+    return part
+
+
+def without_common(one, other):
+    """Two lots of whose values the difference is the same: small ones, if the one is greater by a small part."""
+    smaller, greater = (one, other) if len(one) <= len(other) else (other, one)
+    part = part_between(smaller, greater)
+    if part is None:
+        return one, other
+    zeros = ((0,) * len(one[0]),)
+    return (zeros, part) if len(one) <= len(other) else (part, zeros)
+
+
 def corners_in_sum(pair):
     """The corners of the sum of two lots."""
     one, other = pair

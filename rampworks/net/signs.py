@@ -4,7 +4,7 @@ from rampworks.base.balance import form_in_cone
 from rampworks.base.checks import are_short_rows, are_weights, is_short_row, is_told, is_whole, is_whole_row, need_index
 from rampworks.base.linear import difference_of, mixture, product_of, sum_of, times
 from rampworks.errors import InvalidOperation, InvalidRow, TooMany
-from rampworks.hull.matches import corner_pairs, trial_rows
+from rampworks.hull.matches import corner_pairs, trial_rows, without_common
 from rampworks.hull.sums import MOST_PAIRS
 from rampworks.net.alike import crossed_networks, told_at
 from rampworks.net.bounds import are_surely_crossed, is_surely_read
@@ -14,6 +14,8 @@ from rampworks.net.readings import MOST_READ, need_lots_of
 
 MOST_SIDES = 6
 MOST_WIDE = 4
+# From more ways to take a point of two lots each on it is worth it to look for what they have in common.
+FEW_WAYS = 60
 
 
 def need_cone(network, cone):
@@ -260,6 +262,10 @@ def row_beneath(network, other, cone):
     if row is not None:
         return row
     (one, beside), (two, further) = crossed_networks(network, other)
+    if len(one) * len(beside) + len(two) * len(further) > FEW_WAYS:
+        # Most often the networks have much in common.
+        one, two = without_common(one, two)
+        beside, further = without_common(beside, further)
     known = {sum_of(x, y): True for x in one for y in beside}
     pairs = corner_pairs((two, further))
     sides = tuple([(*wall, 0) for wall in cone])
