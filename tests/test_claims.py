@@ -146,6 +146,33 @@ class Answered(Case):
                     if takes(told, other):
                         self.assertTrue(is_shown(told, other))
 
+    def test_points_between_those_of_the_other_lot(self):
+        one, other = ((0,), (1,), (4,)), ((0,), (2,), (3,), (4,))
+        told, paper = answered(("alike", one, other))
+        self.told("alike", told[0])
+        self.assertTrue(is_shown(told, paper))
+        self.told(True, takes(told, paper))
+        reading, beside = (one, ((0,), (3,))), (other, ((0,), (1,), (3,)))
+        told, paper = answered(("differ", reading, beside))
+        self.told("agree", told[0])
+        self.assertTrue(is_shown(told, paper))
+        told, paper = answered(("bent", (tuple((2 * x,) for x, in other), tuple((2 * x + 5,) for x, in one))))
+        self.told("straight", told[0])
+        self.assertTrue(is_shown(told, paper))
+
+    def test_bent_in_a_thin_cone_alone(self):
+        # The lesser one of two ramps is 0 but between two planes near one another.
+        for size in (3, 90, 10 ** 6, 10 ** 20):
+            units = ((1, -size), (-size, size * size + 1))
+            thin = reading_of(Network(2, (units, ((0, 0, 1, -1),)), (5, -7, 1, 0, -1)))
+            told, paper = answered(("straight", thin))
+            self.told("bent", told[0])
+            self.assertTrue(is_shown(told, paper))
+            self.told(True, takes(told, paper))
+            told, paper = answered(("agree", thin, (((5, -7),), POINT)))
+            self.told("differ", told[0])
+            self.assertTrue(is_shown(told, paper))
+
     def test_opposites(self):
         for _ in range(20):
             for claim in some_claims(self.source):

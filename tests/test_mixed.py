@@ -100,6 +100,19 @@ class Mixed(Case):
                 total = sum(comb(length, i) * c ** i * d ** (length - i) * told[i] for i in range(length + 1))
                 self.told(total, volume(summed(scaled(one, c), scaled(other, d))))
 
+    def test_rows_of_four_members(self):
+        for at in range(12):
+            one, other = (random_lot(self.source, self.source.randint(5, 6), 4, 2) for _ in range(2))
+            if at % 3 == 0:
+                other = moved(scaled(one, 2), (1, 2, 3, 4))
+            try:
+                told = mixed_row(one, other)
+            except TooMany as error:
+                self.told(60, error.limit)
+                continue
+            for many, size in enumerate(told):
+                self.told(size, mixed_by_words((one,) * many + (other,) * (4 - many)))
+
     def test_flat_ones(self):
         self.told(0, mixed((STICK, STICK)))
         self.told(0, mixed((POINT, SQUARE)))

@@ -368,9 +368,18 @@ class Errors(Case):
         self.fails(TooMany, sign_or_row, flat, cone, limit=60)
         self.told(("form", (31, 465)), form_or_unit(flat, cone))
         self.told(True, is_form_or_unit(flat, cone, ("form", (31, 465))))
-        # A unit's join has no say either, but for a unit behind it.
-        join = Network(2, (rows[:30], ((0, 1) + (1,) * 30, (0, 0) + (1,) * 30)), (0,) * 34)
-        self.told(("form", (0, 0)), form_or_unit(join, cone))
+        # A unit's join has no say either, but for a unit behind it: a point just beyond an edge makes one corner more.
+        last = ((-500, 1) + (1000,) * 30,)
+        join = Network(2, (rows[:30], last), (0,) * 32 + (1,))
+        self.fails(TooMany, sign_or_row, join, cone, limit=60)
+        self.told("open", unit_kind(join, 1, 0, cone))
+        told = form_or_unit(join, cone)
+        self.told(("form", (-500 + 1000 * 30, 1 + 1000 * 435)), told)
+        self.told(True, is_form_or_unit(join, cone, told))
+        behind = Network(2, (rows[:30], last, ((0,) * 32 + (1,),)), (0,) * 33 + (1,))
+        self.fails(TooMany, form_or_unit, behind, cone, limit=60)
+        self.fails(TooMany, unit_kind, behind, 2, 0, cone, limit=60)
+        self.told("open", unit_kind(behind, 1, 0, cone))
 
     def test_bounds(self):
         units = tuple(tuple(k ** at for at in range(4)) for k in range(1, 7))

@@ -20,16 +20,16 @@ MOST_TIPS = 60
 MANY_WAYS = 200
 
 
-def are_lots(lots, many, length):
-    """Whether the value is a tuple of so many lots of points of this length."""
-    if not isinstance(lots, tuple) or len(lots) != many:
+def are_lots(lots, more):
+    """Whether the value is a tuple of lots whose points have so many members more than there are lots, at most four."""
+    if not isinstance(lots, tuple) or not 1 <= len(lots) <= MOST_WIDE - more:
         return False
-    return all([is_lot(lot) and len(lot[0]) == length for lot in lots])
+    return all([is_lot(lot) and len(lot[0]) == len(lots) + more for lot in lots])
 
 
 def need_square_lots(lots):
     """Refuses what are not as many lots as their points have members."""
-    if not isinstance(lots, tuple) or not 1 <= len(lots) <= MOST_WIDE or not are_lots(lots, len(lots), len(lots)):
+    if not are_lots(lots, 0):
         raise InvalidOperation("lots are one to four, as many as their points have members")
 
 
@@ -81,7 +81,7 @@ def stick_volume(rows):
 
 def mixed_with_stick(lots, row):
     """The mixed volume of one lot less than their points have members, and of the stick of the row."""
-    if not isinstance(lots, tuple) or not 1 <= len(lots) < MOST_WIDE or not are_lots(lots, len(lots), len(lots) + 1):
+    if not are_lots(lots, 1):
         raise InvalidOperation("lots are one to three, one less than their points have members")
     need_point_row(row)
     length = len(lots) + 1

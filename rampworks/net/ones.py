@@ -38,19 +38,17 @@ def lift_of(length):
     return (*zeros, -1), (*zeros, 0)
 
 
-def left_above(tips, points):
-    """Of the corners of the sum of points and of the lift those with zeros: no point lies one above them."""
-    known = {point: True for point in points}
-    return tuple([tip for tip in tips if tip in known and (*tip[:-1], tip[-1] + 1) not in known])
-
-
 def upper_of(tips):
-    """The upper corners of ascending corners: those that come, with zeros, into the sum with the lift."""
+    """The upper corners of ascending corners: those that are corners of the sum with the lift.
+
+    The last member of a form for one of them is above 0, as else the point below would be greater.
+    """
     if len(tips[0]) == 2:
         # Of two points over one number the last one is the upper one.
         tops = {point[0]: point for point in tips}
         return tuple(border_of([tops[x] for x in tops], -1))
-    return left_above(sum_cut(tips, lift_of(len(tips[0])), 2 * len(tips)), tips)
+    known = {tip: True for tip in tips}
+    return tuple([tip for tip in sum_cut(tips, lift_of(len(tips[0])), 2 * len(tips)) if tip in known])
 
 
 def upper_in_sum(pair):
@@ -58,8 +56,9 @@ def upper_in_sum(pair):
     one, other = pair
     if len(one[0]) == 2:
         return upper_of(sum_cut(one, other, len(one) * len(other)))
-    tips = lots_cut((one, lift_of(len(one[0])), other), 2 * len(one) * len(other))
-    return left_above(tips, [sum_of(x, y) for x in one for y in other])
+    known = {sum_of(x, y): True for x in one for y in other}
+    tips = lots_cut((one, lift_of(len(one[0])), other), 2 * len(known))
+    return tuple([tip for tip in tips if tip in known])
 
 
 def upper(lot):

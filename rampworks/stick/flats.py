@@ -12,11 +12,6 @@ def flat_leads(points):
     return leads_along(border_of(points, 1), 1), leads_along(border_of(points, -1), 1)
 
 
-def many_tips(leads):
-    """How many corners the points with these leads have."""
-    return max(1, len(leads[0]) + len(leads[1]))
-
-
 def lengths_told(leads, others):
     """For each row with leads of the one lot, or of the other one, how much longer the former are."""
     found = {}

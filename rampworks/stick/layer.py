@@ -8,7 +8,7 @@ from rampworks.hull.frames import frame_of
 from rampworks.hull.totals import sum_cut, ways_of
 from rampworks.net.networks import Network, form_network
 from rampworks.net.readings import need_reading
-from rampworks.stick.flats import flat_leads, lengths_told, line_bends, many_tips, plane_bends, plane_places
+from rampworks.stick.flats import flat_leads, lengths_told, line_bends, plane_bends, plane_places
 from rampworks.stick.spans import (
     edges_along, fibers_along, form_along, has_single, is_heading, length_between, shade_corners)
 
@@ -25,15 +25,10 @@ def need_narrow_reading(reading):
         raise InvalidOperation("points have at most four members here")
 
 
-def need_few_tips(many):
-    """Refuses so many corners if they are too many."""
-    if many > MOST_TIPS:
-        raise TooMany(MOST_TIPS)
-
-
 def few_tips(tips):
     """Gives corners back, but refuses too many."""
-    need_few_tips(len(tips))
+    if len(tips) > MOST_TIPS:
+        raise TooMany(MOST_TIPS)
     return tips
 
 
@@ -116,10 +111,10 @@ def bends_told(ways):
 def need_plane_bends(reading):
     """The same of a function of two inputs, with the errors of too many corners."""
     above, below = flat_leads(reading[0]), flat_leads(reading[1])
-    need_few_tips(many_tips(above))
-    need_few_tips(many_tips(below))
     lower, upper = lengths_told(above[0], below[0]), lengths_told(above[1], below[1])
-    need_few_tips(len(lower) + len(upper))
+    # The sum of both lots has a corner for each row on each border, and no less than one of both.
+    if len(lower) + len(upper) > MOST_TIPS:
+        raise TooMany(MOST_TIPS)
     return plane_bends(lower, upper)
 
 
