@@ -110,6 +110,8 @@ class Upper(Case):
         lot = tuple((k, -k * k) for k in range(-200, 200))
         self.told(lot, upper(lot))
         self.told(True, is_upper_or_under(lot, 77, upper_or_under(lot, 77)))
+        for length in (3, 4):
+            self.told(moments(90, length), upper(moments(90, length)))
         lot = random_lot(self.source, 60, 4, 20)
         told = upper(lot)
         for index in range(0, 60, 7):

@@ -18,8 +18,8 @@ class Balance:
     `signs`. `used` tells for each row which column is in it, None for a made-up one. `rows`, divided by `bottom`,
     times a column with a 1 behind it (a 0 for a wall) tell how much of those in use it takes the place of. `price`,
     times the same, tells how much less of the made-up ones there is with it. What is in the row `held` is free: it
-    takes numbers below 0, too. `tops` keeps which points were met as the only greatest ones of all, with the forms
-    for which they are so.
+    takes numbers below 0, too. `tops` keeps which points of the first group were met as the only greatest ones of
+    all, with the opposites of the forms for which they are so.
     """
 
     def __init__(self, groups, walls, guess):
@@ -58,7 +58,7 @@ class Balance:
                 worth = product_of(form, point) - least
                 if worth > greatest:
                     found, greatest = (at, told.index(least)), worth
-                if worth > 0 and told.count(least) == 1:
+                if at == 0 and worth > 0 and told.count(least) == 1:
                     self.tops.append((others[told.index(least)], form))
         for index, wall in enumerate(self.walls):
             worth = product_of(form, wall)

@@ -2,7 +2,7 @@
 
 from math import gcd
 
-from rampworks.base.balance import form_or_weights
+from rampworks.base.balance import form_or_weights, settled
 from rampworks.base.checks import are_weights, is_short, is_short_row, is_told, is_whole, is_whole_row, need_index
 from rampworks.base.linear import difference_of, mixture, product_of, sum_of, tells, times
 from rampworks.errors import InvalidLot, InvalidNumber, InvalidOperation, InvalidReading, InvalidRow
@@ -18,6 +18,10 @@ from rampworks.net.networks import unit_row
 from rampworks.net.readings import is_reading
 
 LEAST_MEMBERS = 2
+# More corners are looked at one by one.
+MANY_TIPS = 20
+# One in so many others can be beyond a point for a form that is worth a try.
+FEW_BEYOND = 10
 
 
 def need_lot_of_places(lot):
@@ -47,8 +51,37 @@ def upper_of(tips):
         # Of two points over one number the last one is the upper one.
         tops = {point[0]: point for point in tips}
         return tuple(border_of([tops[x] for x in tops], -1))
+    if len(tips) > MANY_TIPS:
+        return upper_by_one(tips)
     known = {tip: True for tip in tips}
     return tuple([tip for tip in sum_cut(tips, lift_of(len(tips[0])), 2 * len(tips)) if tip in known])
+
+
+def is_near(form, point, others):
+    """Whether a form, if there is one (else None), tells more for the point than for all others but a few."""
+    if form is None:
+        return False
+    own = product_of(form, point)
+    return FEW_BEYOND * len([told for told in tells(form, others) if told >= own]) <= len(others)
+
+
+def upper_by_one(points):
+    """The upper corners of ascending corners, one by one; each form on the way can tell another one, too."""
+    found, left, last = {}, list(points), None
+    for point in points:
+        if point not in found:
+            others = [other for other in left if other != point]
+            guess = last if is_near(last, point, others) else None
+            table = settled(((point, others), upward(len(point))), (), None, guess)
+            if table.price[-1] != 0:
+                found[point] = True
+                last = table.told_form()
+            else:
+                left = others
+            for top, form in table.tops:
+                if form[-1] < 0:
+                    found[top] = True
+    return tuple([point for point in points if point in found])
 
 
 def upper_in_sum(pair):
